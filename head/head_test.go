@@ -2,10 +2,10 @@ package head
 
 import (
 	"math"
-	"math/big"
 	"testing"
 
 	"flit/api"
+	"flit/edges"
 )
 
 // layout is the chapter's: each part of a header, the bit at which it begins, how many it has.
@@ -27,22 +27,6 @@ const headerBits = 24
 
 // beyond has all bits that a header does not have.
 const beyond uint64 = math.MaxUint64 - (1<<headerBits - 1)
-
-// numbers are those around each power of two, of both signs: every edge at which a number begins not to fit is among them.
-func numbers() []int {
-	l := []int{math.MaxInt, math.MinInt, 0x123456789abcdef, -0x123456789abcdef}
-	for b := range 63 {
-		for d := -1; d <= 1; d++ {
-			l = append(l, 1<<b+d, -(1<<b + d))
-		}
-	}
-	return l
-}
-
-func modulo(n int, bits uint) uint64 {
-	m := new(big.Int).Lsh(big.NewInt(1), bits)
-	return m.Mod(big.NewInt(int64(n)), m).Uint64()
-}
 
 // P2.1, by the chapter's example and by hand.
 func TestWord(t *testing.T) {
@@ -80,7 +64,7 @@ func TestWord(t *testing.T) {
 func TestWordOfEachPart(t *testing.T) {
 	for _, ones := range []bool{false, true} {
 		for _, x := range layout {
-			for _, n := range numbers() {
+			for _, n := range edges.Numbers() {
 				var h api.Head
 				others := uint64(0)
 				if ones {
@@ -88,7 +72,7 @@ func TestWordOfEachPart(t *testing.T) {
 					others = (1<<headerBits - 1) &^ ((1<<x.bits - 1) << x.at)
 				}
 				*x.part(&h) = n
-				if got, want := Word(h), others+modulo(n, x.bits)<<x.at; got != want {
+				if got, want := Word(h), others+edges.Modulo(n, x.bits)<<x.at; got != want {
 					t.Fatalf("Word(%+v) = %d, want %d (%s)", h, got, want, x.name)
 				}
 			}
@@ -201,10 +185,10 @@ func TestOfOfWord(t *testing.T) {
 				t.Fatalf("Of(Word(%+v)) = %+v", h, got)
 			}
 		}
-		for _, n := range numbers() {
+		for _, n := range edges.Numbers() {
 			h, want := base, base
 			*x.part(&h) = n
-			*x.part(&want) = int(modulo(n, x.bits))
+			*x.part(&want) = int(edges.Modulo(n, x.bits))
 			if got := Of(Word(h)); got != want {
 				t.Fatalf("Of(Word(%+v)) = %+v, want %+v", h, got, want)
 			}

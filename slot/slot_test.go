@@ -2,37 +2,21 @@ package slot
 
 import (
 	"math"
-	"math/big"
 	"testing"
 
 	"flit/api"
+	"flit/edges"
 )
-
-// numbers are those around each power of two, of both signs: every edge at which a number begins not to fit is among them.
-func numbers() []int {
-	l := []int{0, math.MaxInt, math.MinInt, 0x123456789abcdef, -0x123456789abcdef}
-	for b := range 63 {
-		for d := -1; d <= 1; d++ {
-			l = append(l, 1<<b+d, -(1<<b + d))
-		}
-	}
-	return l
-}
 
 // words have each pattern of the low bits, below each number.
 func words() []uint64 {
 	l := []uint64{math.MaxUint64}
-	for _, n := range numbers() {
+	for _, n := range edges.Numbers() {
 		for low := range uint64(8) {
 			l = append(l, uint64(n)&^7|low)
 		}
 	}
 	return l
-}
-
-func modulo(n int, bits uint) uint64 {
-	m := new(big.Int).Lsh(big.NewInt(1), bits)
-	return m.Mod(big.NewInt(int64(n)), m).Uint64()
 }
 
 // P1.1, by the chapter's examples and by hand.
@@ -69,11 +53,11 @@ func TestWord(t *testing.T) {
 	}
 }
 
-// P1.1, held against numbers that have no bound.
+// P1.1, held against a modulo by division.
 func TestWordIsModulo(t *testing.T) {
-	for _, k := range numbers() {
-		for _, n := range numbers() {
-			want := modulo(k, 2) + 8*modulo(n, 61)
+	for _, k := range edges.Numbers() {
+		for _, n := range edges.Numbers() {
+			want := edges.Modulo(k, 2) + 8*edges.Modulo(n, 61)
 			if got := Word(api.Val{Kind: k, N: n}); got != want {
 				t.Fatalf("Word({%d, %d}) = %d, want %d", k, n, got, want)
 			}
@@ -167,7 +151,7 @@ func TestFrozenIsOneBit(t *testing.T) {
 // P1.1 and P1.3: a value that fits comes back, and its word is not frozen.
 func TestOfOfWord(t *testing.T) {
 	for k := range 4 {
-		for _, n := range numbers() {
+		for _, n := range edges.Numbers() {
 			v := api.Val{Kind: k, N: n}
 			if Frozen(Word(v)) {
 				t.Fatalf("Word(%v) is frozen", v)
