@@ -1,0 +1,122 @@
+// Package watch has what the tests of machines share: steps of which each access is looked at, words that are asked without being counted, and words that are reckoned without the layers that make them. No layer stands on it.
+package watch
+
+import (
+	"slices"
+
+	"flit/api"
+	"flit/mem"
+)
+
+// most is how many steps a machine may take in Run.
+const most = 999
+
+// Machine does its work step by step.
+type Machine interface {
+	Step(m *mem.Memory) bool
+}
+
+// Teller is told what is wrong: a *testing.T.
+type Teller interface {
+	Helper()
+	Errorf(format string, args ...any)
+}
+
+// Top is the head of a list as a word.
+func Top(first, version int) uint64 { return uint64(first) + uint64(version)<<12 }
+
+// Free is the header of a free cell as a word.
+func Free(class, link int) uint64 { return uint64(class)<<2 + uint64(link)<<12 }
+
+// Block is what the table says of a block, as a word.
+func Block(state, class, stamp, next int) uint64 {
+	return uint64(state) + uint64(class)<<2 + uint64(stamp)<<4 + uint64(next)<<5
+}
+
+// Load is an access that is one, and no trap.
+func Load(a int) api.Access { return api.Access{Op: 1, At: a, OK: true} }
+
+// Store is such an access.
+func Store(a int) api.Access { return api.Access{Op: 2, At: a, OK: true} }
+
+// CAS is an access that is one, and done or not.
+func CAS(a int, done bool) api.Access { return api.Access{Op: 3, At: a, OK: done} }
+
+// Words are those of m, asked of a clone, so that m does not count it.
+func Words(m *mem.Memory) []uint64 {
+	c := m.Clone()
+	l := make([]uint64, c.Len())
+	for a := range l {
+		l[a] = c.Load(a)
+	}
+	return l
+}
+
+// Word is one of m, asked likewise.
+func Word(m *mem.Memory, a int) uint64 { return m.Clone().Load(a) }
+
+// CheckWord tells if the word a is not the one that it must be.
+func CheckWord(t Teller, m *mem.Memory, a int, want uint64) {
+	t.Helper()
+	if got := Word(m, a); got != want {
+		t.Errorf("the word %d is %#x, want %#x", a, got, want)
+	}
+}
+
+// CheckWords tells the first of all words that is not the one that it must be.
+func CheckWords(t Teller, m *mem.Memory, want []uint64) {
+	t.Helper()
+	got := Words(m)
+	if len(got) != len(want) {
+		t.Errorf("there are %d words, want %d", len(got), len(want))
+		return
+	}
+	for a := range got {
+		if got[a] != want[a] {
+			t.Errorf("the word %d is %#x, want %#x", a, got[a], want[a])
+			return
+		}
+	}
+}
+
+// Step does one Step, which must tell done, and do this access alone.
+func Step(t Teller, x Machine, m *mem.Memory, want api.Access, done bool) {
+	t.Helper()
+	n, traps := m.Count(), m.Traps()
+	m.Take()
+	if got := x.Step(m); got != done {
+		t.Errorf("Step tells %t, want %t", got, done)
+	}
+	if m.Count() != n+1 || m.Traps() != traps {
+		t.Errorf("Step: %d accesses, %d traps", m.Count()-n, m.Traps()-traps)
+	}
+	if got := m.Take(); !slices.Equal(got, []api.Access{want}) {
+		t.Errorf("Step: accesses %v, want %v", got, want)
+	}
+}
+
+// CheckDone steps on: a machine that is done does nothing, and tells true.
+func CheckDone(t Teller, x Machine, m *mem.Memory) {
+	t.Helper()
+	n, before := m.Count(), Words(m)
+	for range 5 {
+		if !x.Step(m) {
+			t.Errorf("Step of a machine that is done tells false")
+		}
+	}
+	if m.Count() != n || !slices.Equal(Words(m), before) {
+		t.Errorf("Step of a machine that is done does something")
+	}
+}
+
+// Run does a machine's steps till it is done: how many it took (0: it does not end).
+func Run(t Teller, x Machine, m *mem.Memory) int {
+	t.Helper()
+	for n := 1; n <= most; n++ {
+		if x.Step(m) {
+			return n
+		}
+	}
+	t.Errorf("the machine does not end in %d steps", most)
+	return 0
+}

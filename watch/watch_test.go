@@ -1,0 +1,147 @@
+package watch
+
+import (
+	"testing"
+
+	"flit/api"
+	"flit/head"
+	"flit/mem"
+	"flit/stamp"
+)
+
+// faults counts what it is told.
+type faults int
+
+func (f *faults) Helper()               {}
+func (f *faults) Errorf(string, ...any) { *f++ }
+
+// row does one of its parts a Step, and tells with the last one that it is done; then it may deny that, or go on.
+type row struct {
+	l              []func(m *mem.Memory)
+	denies, goesOn bool
+	k              int
+}
+
+func (r *row) Step(m *mem.Memory) bool {
+	if r.k < len(r.l) {
+		r.l[r.k](m)
+		r.k++
+		return r.k == len(r.l)
+	}
+	if r.goesOn {
+		m.Load(0)
+	}
+	return !r.denies
+}
+
+func made(t *testing.T) *mem.Memory {
+	t.Helper()
+	m, e := mem.New(8)
+	if e != api.OK {
+		t.Fatalf("error %d", e)
+	}
+	for a := range 8 {
+		m.Store(a, uint64(a*a))
+	}
+	return m
+}
+
+func storeOne(m *mem.Memory)  { m.Store(1, 5) }
+func loadTwo(m *mem.Memory)   { m.Load(2) }
+func loadTwice(m *mem.Memory) { m.Load(2); m.Load(2) }
+func trap(m *mem.Memory)      { m.Load(8) }
+func none(m *mem.Memory)      {}
+func swapOne(m *mem.Memory)   { m.CAS(1, 1, 7) }
+
+// Words that are reckoned here are those of the layers.
+func TestReckonedWords(t *testing.T) {
+	if got, want := Top(5, 1), stamp.Top(api.Top{At: 5, Ver: 1}); got != want || got != 4101 {
+		t.Errorf("Top: %d, want %d", got, want)
+	}
+	if got, want := Free(2, 96), head.Word(api.Head{Class: 2, Link: 96}); got != want {
+		t.Errorf("Free: %d, want %d", got, want)
+	}
+	if got, want := Block(2, 1, 1, 4), stamp.Block(api.Block{State: 2, Class: 1, Stamp: 1, Next: 4}); got != want || got != 150 {
+		t.Errorf("Block: %d, want %d", got, want)
+	}
+}
+
+// A Step is what it must be, or that is told.
+func TestStep(t *testing.T) {
+	for _, x := range []struct {
+		name string
+		do   func(m *mem.Memory)
+		want api.Access
+		done bool
+		ok   bool
+	}{
+		{"a Store", storeOne, Store(1), true, true},
+		{"a Load", loadTwo, Load(2), true, true},
+		{"a CAS", swapOne, CAS(1, true), true, true},
+		{"of another Op", storeOne, Load(1), true, false},
+		{"at another place", loadTwo, Load(1), true, false},
+		{"of another answer", swapOne, CAS(1, false), true, false},
+		{"not done", storeOne, Store(1), false, false},
+		{"two accesses", loadTwice, Load(2), true, false},
+		{"no access", none, Load(2), true, false},
+		{"a trap", trap, api.Access{Op: 1, At: 8}, true, false},
+	} {
+		var f faults
+		m := made(t)
+		Step(&f, &row{l: []func(m *mem.Memory){x.do}}, m, x.want, x.done)
+		if (f == 0) != x.ok {
+			t.Errorf("%s: %d faults", x.name, f)
+		}
+	}
+}
+
+// A machine that is done does nothing, and tells true, or that is told.
+func TestCheckDone(t *testing.T) {
+	for _, x := range []struct {
+		name string
+		r    row
+		ok   bool
+	}{
+		{"done", row{}, true},
+		{"denies it", row{denies: true}, false},
+		{"goes on", row{goesOn: true}, false},
+		{"stores", row{l: []func(m *mem.Memory){storeOne}}, false},
+	} {
+		var f faults
+		CheckDone(&f, &x.r, made(t))
+		if (f == 0) != x.ok {
+			t.Errorf("%s: %d faults", x.name, f)
+		}
+	}
+}
+
+// Run tells how many steps there were, and whether there is no end.
+func TestRun(t *testing.T) {
+	var f faults
+	if n := Run(&f, &row{l: []func(m *mem.Memory){storeOne, loadTwo, swapOne}}, made(t)); n != 3 || f != 0 {
+		t.Errorf("%d steps, %d faults", n, f)
+	}
+	if n := Run(&f, &row{denies: true}, made(t)); n != 0 || f != 1 {
+		t.Errorf("%d steps, %d faults", n, f)
+	}
+}
+
+// Words are those that there are; asking is not counted.
+func TestWords(t *testing.T) {
+	m := made(t)
+	n := m.Count()
+	l := Words(m)
+	var f faults
+	CheckWords(&f, m, l)
+	CheckWord(&f, m, 3, 9)
+	if len(l) != 8 || l[3] != 9 || Word(m, 3) != 9 || f != 0 || m.Count() != n {
+		t.Errorf("words %d, %d faults, %d accesses", l, f, m.Count()-n)
+	}
+	CheckWord(&f, m, 3, 8)
+	CheckWords(&f, m, l[:7])
+	l[7]++
+	CheckWords(&f, m, l)
+	if f != 3 {
+		t.Errorf("%d faults", f)
+	}
+}
