@@ -10,21 +10,11 @@ import (
 	"flit/head"
 	"flit/mem"
 	"flit/stamp"
+	"flit/watch"
 )
 
 // at is where the head of the lists of these tests stands.
 const at = 3
-
-// machine is a Pop or a Push.
-type machine interface {
-	Step(m *mem.Memory) bool
-}
-
-// top is a head as a word, reckoned here.
-func top(first, version int) uint64 { return uint64(first) + uint64(version)<<12 }
-
-// free is the header of a free cell as a word, reckoned here.
-func free(class, link int) uint64 { return uint64(class)<<2 + uint64(link)<<12 }
 
 // made is a memory with a list of these cells, of class 1, whose head has that version.
 func made(t *testing.T, version int, cells ...int) *mem.Memory {
@@ -35,26 +25,13 @@ func made(t *testing.T, version int, cells ...int) *mem.Memory {
 	}
 	first := 0
 	for _, c := range slices.Backward(cells) {
-		m.Store(c, free(1, first))
+		m.Store(c, watch.Free(1, first))
 		first = c
 	}
-	m.Store(at, top(first, version))
+	m.Store(at, watch.Top(first, version))
 	m.Take()
 	return m
 }
-
-// words are those of m, asked of a clone, so that m does not count it.
-func words(m *mem.Memory) []uint64 {
-	c := m.Clone()
-	l := make([]uint64, c.Len())
-	for a := range l {
-		l[a] = c.Load(a)
-	}
-	return l
-}
-
-// word is one of m, asked likewise.
-func word(m *mem.Memory, a int) uint64 { return m.Clone().Load(a) }
 
 // cells are those on the list, first to last, at most as many as there are words.
 func cells(m *mem.Memory) []int {
@@ -73,33 +50,6 @@ func checkCells(t *testing.T, m *mem.Memory, want ...int) {
 	}
 }
 
-func checkWord(t *testing.T, m *mem.Memory, a int, want uint64) {
-	t.Helper()
-	if got := word(m, a); got != want {
-		t.Errorf("the word %d is %#x, want %#x", a, got, want)
-	}
-}
-
-// step does one Step, which must tell done, and do this access alone.
-func step(t *testing.T, x machine, m *mem.Memory, want api.Access, done bool) {
-	t.Helper()
-	n, traps := m.Count(), m.Traps()
-	m.Take()
-	if got := x.Step(m); got != done {
-		t.Errorf("Step tells %t, want %t", got, done)
-	}
-	if m.Count() != n+1 || m.Traps() != traps {
-		t.Errorf("Step: %d accesses, %d traps", m.Count()-n, m.Traps()-traps)
-	}
-	if got := m.Take(); !slices.Equal(got, []api.Access{want}) {
-		t.Errorf("Step: accesses %v, want %v", got, want)
-	}
-}
-
-func load(a int) api.Access           { return api.Access{Op: 1, At: a, OK: true} }
-func store(a int) api.Access          { return api.Access{Op: 2, At: a, OK: true} }
-func cas(a int, done bool) api.Access { return api.Access{Op: 3, At: a, OK: done} }
-
 func checkResult(t *testing.T, x *Pop, cell int, seen uint64) {
 	t.Helper()
 	if c, w := x.Result(); c != cell || w != seen {
@@ -107,37 +57,11 @@ func checkResult(t *testing.T, x *Pop, cell int, seen uint64) {
 	}
 }
 
-// checkDone steps on: a machine that is done does nothing, and tells true.
-func checkDone(t *testing.T, x machine, m *mem.Memory) {
-	t.Helper()
-	n, before := m.Count(), words(m)
-	for range 5 {
-		if !x.Step(m) {
-			t.Error("Step of a machine that is done tells false")
-		}
-	}
-	if m.Count() != n || !slices.Equal(words(m), before) {
-		t.Error("Step of a machine that is done does something")
-	}
-}
-
-// run does a machine's steps till it is done: how many it took.
-func run(t *testing.T, x machine, m *mem.Memory) int {
-	t.Helper()
-	for n := 1; n <= 99; n++ {
-		if x.Step(m) {
-			return n
-		}
-	}
-	t.Fatal("the machine does not end")
-	return 0
-}
-
 // pop takes a cell by a machine of its own.
 func pop(t *testing.T, m *mem.Memory) int {
 	t.Helper()
 	x := NewPop(at)
-	run(t, x, m)
+	watch.Run(t, x, m)
 	c, _ := x.Result()
 	return c
 }
@@ -145,21 +69,21 @@ func pop(t *testing.T, m *mem.Memory) int {
 // push lays a row of one class down by a machine of its own.
 func push(t *testing.T, m *mem.Memory, first, last int) {
 	t.Helper()
-	run(t, NewPush(at, first, last, 1), m)
+	watch.Run(t, NewPush(at, first, last, 1), m)
 }
 
 // P8.1: of an empty list the first step is the last one; the head that was seen is told, whatever its version.
 func TestPopOfNone(t *testing.T) {
 	for _, version := range []int{0, 1, 77, 1<<40 - 1} {
 		m := made(t, version)
-		before := words(m)
+		before := watch.Words(m)
 		x := NewPop(at)
 		checkResult(t, x, 0, 0)
-		step(t, x, m, load(at), true)
-		checkResult(t, x, 0, top(0, version))
-		checkDone(t, x, m)
-		checkResult(t, x, 0, top(0, version))
-		if !slices.Equal(words(m), before) {
+		watch.Step(t, x, m, watch.Load(at), true)
+		checkResult(t, x, 0, watch.Top(0, version))
+		watch.CheckDone(t, x, m)
+		checkResult(t, x, 0, watch.Top(0, version))
+		if !slices.Equal(watch.Words(m), before) {
 			t.Error("a Pop of an empty list changes words")
 		}
 	}
@@ -180,26 +104,26 @@ func TestPop(t *testing.T) {
 		{1<<40 - 2, 1<<40 - 1, []int{159}},
 	} {
 		m := made(t, x.version, x.cells...)
-		want := words(m)
+		want := watch.Words(m)
 		first, rest := x.cells[0], x.cells[1:]
 		p := NewPop(at)
-		step(t, p, m, load(at), false)
+		watch.Step(t, p, m, watch.Load(at), false)
 		checkResult(t, p, 0, 0)
-		step(t, p, m, load(first), false)
+		watch.Step(t, p, m, watch.Load(first), false)
 		checkResult(t, p, 0, 0)
 		checkCells(t, m, x.cells...)
-		step(t, p, m, cas(at, true), true)
-		checkResult(t, p, first, top(first, x.version))
+		watch.Step(t, p, m, watch.CAS(at, true), true)
+		checkResult(t, p, first, watch.Top(first, x.version))
 		checkCells(t, m, rest...)
-		checkDone(t, p, m)
-		checkResult(t, p, first, top(first, x.version))
+		watch.CheckDone(t, p, m)
+		checkResult(t, p, first, watch.Top(first, x.version))
 		after := 0
 		if len(rest) > 0 {
 			after = rest[0]
 		}
-		want[at] = top(after, x.next)
-		if !slices.Equal(words(m), want) {
-			t.Errorf("%d: words other than the head change, or the head is not as it must be: %#x", x.cells, word(m, at))
+		want[at] = watch.Top(after, x.next)
+		if !slices.Equal(watch.Words(m), want) {
+			t.Errorf("%d: words other than the head change, or the head is not as it must be: %#x", x.cells, watch.Word(m, at))
 		}
 	}
 }
@@ -210,16 +134,16 @@ func TestPopIsOfItsSteps(t *testing.T) {
 	x := NewPop(at)
 	push(t, m, 100, 100)
 	push(t, m, 96, 96)
-	if n := run(t, x, m); n != 3 {
+	if n := watch.Run(t, x, m); n != 3 {
 		t.Errorf("%d steps", n)
 	}
 	if c := pop(t, m); c != 100 {
 		t.Errorf("the next cell is %d", c)
 	}
 	push(t, m, 96, 96)
-	checkResult(t, x, 96, top(96, 2))
-	checkDone(t, x, m)
-	checkResult(t, x, 96, top(96, 2))
+	checkResult(t, x, 96, watch.Top(96, 2))
+	watch.CheckDone(t, x, m)
+	checkResult(t, x, 96, watch.Top(96, 2))
 }
 
 // P8.1: cells are told in the list's order, then none, with the head as it is then.
@@ -232,74 +156,74 @@ func TestPopAll(t *testing.T) {
 		}
 	}
 	x := NewPop(at)
-	run(t, x, m)
-	checkResult(t, x, 0, top(0, len(l)))
+	watch.Run(t, x, m)
+	checkResult(t, x, 0, watch.Top(0, len(l)))
 }
 
 // P8.1: bits of the head beyond a Top's are held against it too, and told; of the cell's header, whatever else it has, the Link counts alone.
 func TestPopOfOtherBits(t *testing.T) {
 	const beyond uint64 = 0xfff << 52
 	m := made(t, 4, 96, 100)
-	m.Store(at, top(96, 4)|beyond)
+	m.Store(at, watch.Top(96, 4)|beyond)
 	m.Store(96, math.MaxUint64&^(0xfff<<12)|100<<12)
 	x := NewPop(at)
-	if n := run(t, x, m); n != 3 {
+	if n := watch.Run(t, x, m); n != 3 {
 		t.Errorf("%d steps", n)
 	}
-	checkResult(t, x, 96, top(96, 4)|beyond)
-	checkWord(t, m, at, top(100, 5))
+	checkResult(t, x, 96, watch.Top(96, 4)|beyond)
+	watch.CheckWord(t, m, at, watch.Top(100, 5))
 	m.Store(at, beyond)
 	y := NewPop(at)
-	step(t, y, m, load(at), true)
+	watch.Step(t, y, m, watch.Load(at), true)
 	checkResult(t, y, 0, beyond)
-	m.Store(at, top(100, 5))
+	m.Store(at, watch.Top(100, 5))
 	z := NewPop(at)
 	z.Step(m)
 	z.Step(m)
-	m.Store(at, top(100, 5)|1<<63)
-	step(t, z, m, cas(at, false), false)
+	m.Store(at, watch.Top(100, 5)|1<<63)
+	watch.Step(t, z, m, watch.CAS(at, false), false)
 }
 
 // P8.1, P8.2: lists of other heads are others.
 func TestHeads(t *testing.T) {
 	m := made(t, 0, 96)
-	run(t, NewPush(8, 64, 64, 2), m)
+	watch.Run(t, NewPush(8, 64, 64, 2), m)
 	checkCells(t, m, 96)
-	checkWord(t, m, 8, top(64, 1))
+	watch.CheckWord(t, m, 8, watch.Top(64, 1))
 	x := NewPop(8)
-	run(t, x, m)
-	checkResult(t, x, 64, top(64, 1))
+	watch.Run(t, x, m)
+	checkResult(t, x, 64, watch.Top(64, 1))
 	checkCells(t, m, 96)
-	checkWord(t, m, 8, top(0, 2))
+	watch.CheckWord(t, m, 8, watch.Top(0, 2))
 	y := NewPop(0)
-	step(t, y, m, load(0), true)
+	watch.Step(t, y, m, watch.Load(0), true)
 }
 
 // P8.2: one cell, onto an empty list and onto one that is not. Whatever the cell had, its header has the class and the link alone.
 func TestPush(t *testing.T) {
-	for _, old := range []uint64{0, math.MaxUint64, free(3, 77), 21681} {
+	for _, old := range []uint64{0, math.MaxUint64, watch.Free(3, 77), 21681} {
 		for class := range 4 {
 			for _, on := range [][]int{nil, {100}, {100, 64}} {
 				m := made(t, 6, on...)
 				m.Store(96, old)
-				want := words(m)
+				want := watch.Words(m)
 				first := 0
 				if len(on) > 0 {
 					first = on[0]
 				}
 				x := NewPush(at, 96, 96, class)
-				step(t, x, m, load(at), false)
-				step(t, x, m, store(96), false)
-				checkWord(t, m, 96, free(class, first))
-				checkWord(t, m, at, top(first, 6))
-				step(t, x, m, cas(at, true), true)
+				watch.Step(t, x, m, watch.Load(at), false)
+				watch.Step(t, x, m, watch.Store(96), false)
+				watch.CheckWord(t, m, 96, watch.Free(class, first))
+				watch.CheckWord(t, m, at, watch.Top(first, 6))
+				watch.Step(t, x, m, watch.CAS(at, true), true)
 				checkCells(t, m, append([]int{96}, on...)...)
-				checkDone(t, x, m)
-				want[96], want[at] = free(class, first), top(96, 7)
-				if !slices.Equal(words(m), want) {
+				watch.CheckDone(t, x, m)
+				want[96], want[at] = watch.Free(class, first), watch.Top(96, 7)
+				if !slices.Equal(watch.Words(m), want) {
 					t.Errorf("class %d onto %d: other words change", class, on)
 				}
-				if h := head.Of(word(m, 96)); h != (api.Head{State: api.CellFree, Class: class, Link: first}) {
+				if h := head.Of(watch.Word(m, 96)); h != (api.Head{State: api.CellFree, Class: class, Link: first}) {
 					t.Errorf("the header is %+v", h)
 				}
 			}
@@ -317,20 +241,20 @@ func TestPushOfRow(t *testing.T) {
 				m.Store(c, uint64(row[i+1])<<12|0xfff|1<<40)
 			}
 			m.Store(last, math.MaxUint64)
-			want := words(m)
+			want := watch.Words(m)
 			x := NewPush(at, row[0], last, 2)
-			step(t, x, m, load(at), false)
-			step(t, x, m, store(last), false)
+			watch.Step(t, x, m, watch.Load(at), false)
+			watch.Step(t, x, m, watch.Store(last), false)
 			checkCells(t, m, on...)
-			step(t, x, m, cas(at, true), true)
+			watch.Step(t, x, m, watch.CAS(at, true), true)
 			checkCells(t, m, slices.Concat(row, on)...)
-			checkDone(t, x, m)
-			want[at] = top(row[0], 1)
-			want[last] = free(2, 0)
+			watch.CheckDone(t, x, m)
+			want[at] = watch.Top(row[0], 1)
+			want[last] = watch.Free(2, 0)
 			if len(on) > 0 {
-				want[last] = free(2, on[0])
+				want[last] = watch.Free(2, on[0])
 			}
-			if !slices.Equal(words(m), want) {
+			if !slices.Equal(watch.Words(m), want) {
 				t.Errorf("%d onto %d: other words change", row, on)
 			}
 			for _, c := range slices.Concat(row, on) {
@@ -346,13 +270,13 @@ func TestPushOfRow(t *testing.T) {
 func TestPushVersion(t *testing.T) {
 	m := made(t, 1<<40-1, 100)
 	push(t, m, 96, 96)
-	checkWord(t, m, at, top(96, 0))
-	m.Store(at, top(96, 0)|1<<63|1<<52)
-	if n := run(t, NewPush(at, 64, 64, 1), m); n != 3 {
+	watch.CheckWord(t, m, at, watch.Top(96, 0))
+	m.Store(at, watch.Top(96, 0)|1<<63|1<<52)
+	if n := watch.Run(t, NewPush(at, 64, 64, 1), m); n != 3 {
 		t.Errorf("%d steps", n)
 	}
-	checkWord(t, m, at, top(64, 1))
-	checkWord(t, m, 64, free(1, 96))
+	watch.CheckWord(t, m, at, watch.Top(64, 1))
+	watch.CheckWord(t, m, 64, watch.Free(1, 96))
 }
 
 // P8.1, P8.2: the chapter's examples.
@@ -362,36 +286,36 @@ func TestExamples(t *testing.T) {
 	if x.Step(m) || x.Step(m) || !x.Step(m) {
 		t.Error("a Pop's three steps are not false, false, true")
 	}
-	checkResult(t, x, 96, top(96, 0))
+	checkResult(t, x, 96, watch.Top(96, 0))
 
 	m = made(t, 0, 96, 100)
 	x = NewPop(at)
 	x.Step(m)
 	x.Step(m)
 	push(t, m, 96, 96)
-	step(t, x, m, cas(at, false), false)
-	step(t, x, m, load(at), false)
+	watch.Step(t, x, m, watch.CAS(at, false), false)
+	watch.Step(t, x, m, watch.Load(at), false)
 }
 
 // P8.1, P8.3: the cell is first again, but what is behind it is another one: the version tells it, the CAS is false, and the Pop goes on at its step 1.
 func TestPopOfCellThatIsBack(t *testing.T) {
 	m := made(t, 0, 96, 100, 64)
 	x := NewPop(at)
-	step(t, x, m, load(at), false)
-	step(t, x, m, load(96), false)
+	watch.Step(t, x, m, watch.Load(at), false)
+	watch.Step(t, x, m, watch.Load(96), false)
 	if pop(t, m) != 96 || pop(t, m) != 100 {
 		t.Error("the other does not take 96 and 100")
 	}
 	push(t, m, 96, 96)
 	checkCells(t, m, 96, 64)
-	step(t, x, m, cas(at, false), false)
+	watch.Step(t, x, m, watch.CAS(at, false), false)
 	checkCells(t, m, 96, 64)
-	checkWord(t, m, at, top(96, 3))
+	watch.CheckWord(t, m, at, watch.Top(96, 3))
 	checkResult(t, x, 0, 0)
-	step(t, x, m, load(at), false)
-	step(t, x, m, load(96), false)
-	step(t, x, m, cas(at, true), true)
-	checkResult(t, x, 96, top(96, 3))
+	watch.Step(t, x, m, watch.Load(at), false)
+	watch.Step(t, x, m, watch.Load(96), false)
+	watch.Step(t, x, m, watch.CAS(at, true), true)
+	checkResult(t, x, 96, watch.Top(96, 3))
 	checkCells(t, m, 64)
 }
 
@@ -407,14 +331,14 @@ func TestPopOfSameList(t *testing.T) {
 		push(t, m, 96, 96)
 		checkCells(t, m, 96, 100)
 		if steps == 1 {
-			step(t, x, m, load(96), false)
+			watch.Step(t, x, m, watch.Load(96), false)
 		}
-		step(t, x, m, cas(at, false), false)
+		watch.Step(t, x, m, watch.CAS(at, false), false)
 		checkResult(t, x, 0, 0)
-		if n := run(t, x, m); n != 3 {
+		if n := watch.Run(t, x, m); n != 3 {
 			t.Errorf("%d more steps", n)
 		}
-		checkResult(t, x, 96, top(96, 2))
+		checkResult(t, x, 96, watch.Top(96, 2))
 		checkCells(t, m, 100)
 	}
 }
@@ -426,10 +350,10 @@ func TestPopThatFindsNoneAnew(t *testing.T) {
 	x.Step(m)
 	x.Step(m)
 	pop(t, m)
-	step(t, x, m, cas(at, false), false)
-	step(t, x, m, load(at), true)
-	checkResult(t, x, 0, top(0, 10))
-	checkDone(t, x, m)
+	watch.Step(t, x, m, watch.CAS(at, false), false)
+	watch.Step(t, x, m, watch.Load(at), true)
+	checkResult(t, x, 0, watch.Top(0, 10))
+	watch.CheckDone(t, x, m)
 }
 
 // P8.2, P8.3: a Push whose head is another one, though it names the same cell, or no cell again, begins anew: the last cell's link is written once more.
@@ -456,19 +380,19 @@ func TestPushAnew(t *testing.T) {
 			}
 			x.other(m)
 			if steps == 1 {
-				step(t, p, m, store(96), false)
+				watch.Step(t, p, m, watch.Store(96), false)
 			}
 			on := cells(m)
-			step(t, p, m, cas(at, false), false)
+			watch.Step(t, p, m, watch.CAS(at, false), false)
 			checkCells(t, m, on...)
-			step(t, p, m, load(at), false)
-			step(t, p, m, store(96), false)
-			checkWord(t, m, 96, free(3, x.link))
-			step(t, p, m, cas(at, true), true)
+			watch.Step(t, p, m, watch.Load(at), false)
+			watch.Step(t, p, m, watch.Store(96), false)
+			watch.CheckWord(t, m, 96, watch.Free(3, x.link))
+			watch.Step(t, p, m, watch.CAS(at, true), true)
 			if got := cells(m); !slices.Equal(got, x.want) {
 				t.Errorf("%s, %d steps: the list has %d, want %d", x.name, steps, got, x.want)
 			}
-			checkDone(t, p, m)
+			watch.CheckDone(t, p, m)
 		}
 	}
 }
@@ -478,18 +402,18 @@ func TestCASAmongOthersSteps(t *testing.T) {
 	m := made(t, 0, 96, 100)
 	x, y := NewPop(at), NewPush(at, 64, 64, 0)
 	z := NewPop(at)
-	for _, p := range []machine{x, y, z, x, y, z} {
+	for _, p := range []watch.Machine{x, y, z, x, y, z} {
 		p.Step(m)
 	}
-	step(t, y, m, cas(at, true), true)
-	step(t, x, m, cas(at, false), false)
-	step(t, z, m, cas(at, false), false)
-	step(t, x, m, load(at), false)
-	step(t, z, m, load(at), false)
-	step(t, x, m, load(64), false)
-	step(t, z, m, load(64), false)
-	step(t, z, m, cas(at, true), true)
-	checkResult(t, z, 64, top(64, 1))
+	watch.Step(t, y, m, watch.CAS(at, true), true)
+	watch.Step(t, x, m, watch.CAS(at, false), false)
+	watch.Step(t, z, m, watch.CAS(at, false), false)
+	watch.Step(t, x, m, watch.Load(at), false)
+	watch.Step(t, z, m, watch.Load(at), false)
+	watch.Step(t, x, m, watch.Load(64), false)
+	watch.Step(t, z, m, watch.Load(64), false)
+	watch.Step(t, z, m, watch.CAS(at, true), true)
+	checkResult(t, z, 64, watch.Top(64, 1))
 	checkCells(t, m, 96, 100)
 }
 
@@ -499,22 +423,22 @@ func TestCopiesGoTheirOwnWay(t *testing.T) {
 	x := NewPop(at)
 	x.Step(m)
 	y, n := *x, m.Clone()
-	run(t, x, m)
+	watch.Run(t, x, m)
 	pop(t, n)
-	if steps := run(t, &y, n); steps != 5 {
+	if steps := watch.Run(t, &y, n); steps != 5 {
 		t.Errorf("the copy takes %d steps", steps)
 	}
-	checkResult(t, x, 96, top(96, 0))
-	checkResult(t, &y, 100, top(100, 1))
+	checkResult(t, x, 96, watch.Top(96, 0))
+	checkResult(t, &y, 100, watch.Top(100, 1))
 	checkCells(t, m, 100)
 	checkCells(t, n)
 
 	p := NewPush(at, 96, 96, 1)
 	p.Step(m)
 	q, n := *p, m.Clone()
-	run(t, p, m)
+	watch.Run(t, p, m)
 	push(t, n, 64, 64)
-	if steps := run(t, &q, n); steps != 5 {
+	if steps := watch.Run(t, &q, n); steps != 5 {
 		t.Errorf("the copy takes %d steps", steps)
 	}
 	checkCells(t, m, 96, 100)
@@ -525,11 +449,11 @@ func TestCopiesGoTheirOwnWay(t *testing.T) {
 func TestNumbersModulo(t *testing.T) {
 	for _, n := range edges.Numbers() {
 		m := made(t, 0, 100)
-		if steps := run(t, NewPush(at, n, 96, n), m); steps != 3 {
+		if steps := watch.Run(t, NewPush(at, n, 96, n), m); steps != 3 {
 			t.Errorf("%d steps", steps)
 		}
-		checkWord(t, m, at, top(int(edges.Modulo(n, 12)), 1))
-		checkWord(t, m, 96, free(int(edges.Modulo(n, 2)), 100))
+		watch.CheckWord(t, m, at, watch.Top(int(edges.Modulo(n, 12)), 1))
+		watch.CheckWord(t, m, 96, watch.Free(int(edges.Modulo(n, 2)), 100))
 	}
 }
 
@@ -537,7 +461,7 @@ func TestNumbersModulo(t *testing.T) {
 func TestHeadThatIsNot(t *testing.T) {
 	for _, a := range []int{-1, 160, 4096, 1 << 32, math.MaxInt, math.MinInt} {
 		m := made(t, 0, 100)
-		before, count := words(m), m.Count()
+		before, count := watch.Words(m), m.Count()
 		x := NewPop(a)
 		if !x.Step(m) || m.Count() != count+1 || m.Traps() != 1 {
 			t.Errorf("a Pop at %d: %d accesses, %d traps", a, m.Count()-count, m.Traps())
@@ -552,8 +476,8 @@ func TestHeadThatIsNot(t *testing.T) {
 				t.Errorf("a Push at %d: %d accesses of %d steps", a, m.Count()-count-1, k+1)
 			}
 		}
-		before[96] = free(1, 0)
-		if !slices.Equal(words(m), before) {
+		before[96] = watch.Free(1, 0)
+		if !slices.Equal(watch.Words(m), before) {
 			t.Errorf("a head at %d: words change", a)
 		}
 	}
@@ -562,21 +486,21 @@ func TestHeadThatIsNot(t *testing.T) {
 // R1: cells that there are not are traps, and link to none.
 func TestCellThatIsNot(t *testing.T) {
 	m := made(t, 0, 100)
-	m.Store(at, top(4095, 7))
+	m.Store(at, watch.Top(4095, 7))
 	x := NewPop(at)
-	if n := run(t, x, m); n != 3 || m.Traps() != 1 {
+	if n := watch.Run(t, x, m); n != 3 || m.Traps() != 1 {
 		t.Errorf("%d steps, %d traps", n, m.Traps())
 	}
-	checkResult(t, x, 4095, top(4095, 7))
-	checkWord(t, m, at, top(0, 8))
+	checkResult(t, x, 4095, watch.Top(4095, 7))
+	watch.CheckWord(t, m, at, watch.Top(0, 8))
 	for _, a := range []int{-1, 160, math.MaxInt, math.MinInt} {
 		m := made(t, 0, 100)
-		want := words(m)
-		if n := run(t, NewPush(at, 96, a, 1), m); n != 3 || m.Traps() != 1 {
+		want := watch.Words(m)
+		if n := watch.Run(t, NewPush(at, 96, a, 1), m); n != 3 || m.Traps() != 1 {
 			t.Errorf("last %d: %d steps, %d traps", a, n, m.Traps())
 		}
 		want[at] = stamp.Top(api.Top{At: 96, Ver: 1})
-		if !slices.Equal(words(m), want) {
+		if !slices.Equal(watch.Words(m), want) {
 			t.Errorf("last %d: other words change", a)
 		}
 	}
@@ -585,7 +509,7 @@ func TestCellThatIsNot(t *testing.T) {
 // R1: machines that nobody made are done, with none.
 func TestMadeByNobody(t *testing.T) {
 	m := made(t, 0, 100)
-	checkDone(t, &Pop{}, m)
-	checkDone(t, &Push{}, m)
+	watch.CheckDone(t, &Pop{}, m)
+	watch.CheckDone(t, &Push{}, m)
 	checkResult(t, &Pop{}, 0, 0)
 }

@@ -8,6 +8,7 @@ import (
 	"testing"
 
 	"flit/mem"
+	"flit/watch"
 )
 
 // What an actor does, each a letter.
@@ -114,7 +115,7 @@ func (p *play) begin(a *actor) bool {
 func (p *play) beginPush(a *actor, n int) {
 	a.row, a.held = a.held[:n:n], a.held[n:]
 	for i, c := range a.row[:n-1] {
-		p.m.Store(c, free(1, a.row[i+1]))
+		p.m.Store(c, watch.Free(1, a.row[i+1]))
 	}
 	p.m.Take()
 	a.push = NewPush(at, a.row[0], a.row[n-1], 1)
@@ -138,7 +139,7 @@ func (p *play) step(i int) string {
 		return fmt.Sprintf("%d accesses, %d traps", p.m.Count()-count, p.m.Traps())
 	}
 	if d := did[0]; d.Op == 1 && d.At == at {
-		a.changed, a.saw = false, int(word(p.m, at)%4096)
+		a.changed, a.saw = false, int(watch.Word(p.m, at)%4096)
 	} else if d.Op == 3 {
 		if d.OK == a.changed {
 			return fmt.Sprintf("its CAS is %t, while one of another was done: %t", d.OK, a.changed)
@@ -166,7 +167,7 @@ func (p *play) countFail(a *actor, ok bool) {
 	default:
 		p.seen.pushFails++
 	}
-	if a.saw == int(word(p.m, at)%4096) {
+	if a.saw == int(watch.Word(p.m, at)%4096) {
 		p.seen.backFails++
 	}
 }
@@ -184,7 +185,7 @@ func (p *play) end(i int) string {
 	a.pop = nil
 	if len(p.stack) == 0 {
 		p.seen.none++
-		if c != 0 || seen != word(p.m, at) {
+		if c != 0 || seen != watch.Word(p.m, at) {
 			return fmt.Sprintf("of an empty list %d is told, the head being %#x", c, seen)
 		}
 		return ""
