@@ -14,83 +14,6 @@ import (
 	"flit/watch"
 )
 
-// cellWords is how many words a cell of each class has, said here once more.
-var cellWords = [3]int{4, 8, 16}
-
-// junk is what the words of blocks have in these tests, till a machine writes to them.
-const junk = math.MaxUint64
-
-// made is a memory of a plan, of whose blocks these are free, the first one first; the head has that version.
-func made(t *testing.T, threads, blocks, version int, free ...int) (api.Plan, *mem.Memory) {
-	t.Helper()
-	p, e := plan.New(threads, blocks)
-	if e != api.OK {
-		t.Fatalf("plan.New: error %d", e)
-	}
-	m, e := mem.New(p.Size)
-	if e != api.OK {
-		t.Fatalf("mem.New: error %d", e)
-	}
-	for b := range blocks {
-		m.Store(p.Table+b, watch.Block(api.BlockUsed, 1, 1, 0))
-	}
-	for a := p.Heap; a < p.Size; a++ {
-		m.Store(a, junk)
-	}
-	first := 0
-	for _, b := range slices.Backward(free) {
-		m.Store(p.Table+b, watch.Block(api.BlockFree, 0, 0, first))
-		first = b + 1
-	}
-	m.Store(api.AtBlocks, watch.Top(first, version))
-	m.Take()
-	return p, m
-}
-
-// cellsOf are the cells of a block, rising.
-func cellsOf(p api.Plan, block, class int) []int {
-	var l []int
-	for a := 0; a < 32; a += cellWords[class] {
-		l = append(l, p.Heap+32*block+a)
-	}
-	return l
-}
-
-// headOf is where the head of a set's list of a class stands.
-func headOf(set, class int) int { return 3 + 3*set + class }
-
-// freeBlocks are those of a memory's words, first to last, at most as many as there are words.
-func freeBlocks(p api.Plan, words []uint64) []int {
-	l := []int{}
-	for n := int(words[api.AtBlocks] % 4096); n != 0 && len(l) < len(words); n = int(words[p.Table+n-1] >> 5 % 128) {
-		l = append(l, n-1)
-	}
-	return l
-}
-
-// listed are the cells on the list with that head, likewise.
-func listed(words []uint64, at int) []int {
-	l := []int{}
-	for c := int(words[at] % 4096); c != 0 && len(l) < len(words); c = int(words[c] >> 12 % 4096) {
-		l = append(l, c)
-	}
-	return l
-}
-
-func checkFree(t *testing.T, p api.Plan, m *mem.Memory, want ...int) {
-	t.Helper()
-	if got := freeBlocks(p, watch.Words(m)); !slices.Equal(got, want) {
-		t.Errorf("the blocks %d are free, want %d", got, want)
-	}
-}
-
-func checkListed(t *testing.T, m *mem.Memory, set, class int, want ...int) {
-	t.Helper()
-	if got := listed(watch.Words(m), headOf(set, class)); !slices.Equal(got, want) {
-		t.Errorf("the list of set %d, class %d has %d, want %d", set, class, got, want)
-	}
-}
-
 func checkCell(t *testing.T, x *Take, want int) {
 	t.Helper()
 	if got := x.Cell(); got != want {
@@ -120,7 +43,7 @@ func give(t *testing.T, p api.Plan, m *mem.Memory, blocks ...int) {
 func pushed(t *testing.T, m *mem.Memory, set, class int, cells ...int) {
 	t.Helper()
 	for _, c := range cells {
-		watch.Run(t, list.NewPush(headOf(set, class), c, c, class), m)
+		watch.Run(t, list.NewPush(watch.HeadOf(set, class), c, c, class), m)
 	}
 }
 
@@ -129,7 +52,7 @@ func TestTakeOfNone(t *testing.T) {
 	for _, word := range []uint64{0, watch.Top(0, 1), watch.Top(0, 1<<40-1), 0xfff << 52} {
 		for class := range 3 {
 			for set := range 2 {
-				p, m := made(t, 1, 2, 0)
+				p, m := watch.Made(t, 1, 2, 0)
 				m.Store(api.AtBlocks, word)
 				want := watch.Words(m)
 				x := NewTake(p, class, set)
@@ -161,8 +84,8 @@ func TestTake(t *testing.T) {
 		for class := range 3 {
 			for set := range 2 {
 				for _, listVersion := range []int{0, 9, 1<<40 - 1} {
-					p, m := made(t, x.threads, x.blocks, x.version, x.free...)
-					at := headOf(set, class)
+					p, m := watch.Made(t, x.threads, x.blocks, x.version, x.free...)
+					at := watch.HeadOf(set, class)
 					m.Store(at, watch.Top(0, listVersion))
 					takeStepByStep(t, p, m, x.free, class, set)
 					if got := watch.Word(m, at) >> 12; got != uint64(listVersion+1)%(1<<40) {
@@ -178,15 +101,15 @@ func TestTake(t *testing.T) {
 func TestTakeOntoCells(t *testing.T) {
 	for class := range 3 {
 		for set := range 2 {
-			p, m := made(t, 1, 3, 4, 1, 2)
-			old := cellsOf(p, 0, class)
+			p, m := watch.Made(t, 1, 3, 4, 1, 2)
+			old := watch.CellsOf(p, 0, class)
 			pushed(t, m, set, class, old[1], old[0])
 			pushed(t, m, 1-set, class, p.Heap+12)
 			pushed(t, m, set, (class+1)%3, p.Heap+28)
 			takeStepByStep(t, p, m, []int{1, 2}, class, set)
-			checkListed(t, m, set, class, append(cellsOf(p, 1, class)[1:], old[0], old[1])...)
-			checkListed(t, m, 1-set, class, p.Heap+12)
-			checkListed(t, m, set, (class+1)%3, p.Heap+28)
+			watch.CheckListed(t, m, set, class, append(watch.CellsOf(p, 1, class)[1:], old[0], old[1])...)
+			watch.CheckListed(t, m, 1-set, class, p.Heap+12)
+			watch.CheckListed(t, m, set, (class+1)%3, p.Heap+28)
 		}
 	}
 }
@@ -194,8 +117,8 @@ func TestTakeOntoCells(t *testing.T) {
 // takeStepByStep takes the first one of these free blocks, and holds all words against what they must be behind each step.
 func takeStepByStep(t *testing.T, p api.Plan, m *mem.Memory, free []int, class, set int) {
 	t.Helper()
-	entry, at := p.Table+free[0], headOf(set, class)
-	cells := cellsOf(p, free[0], class)
+	entry, at := p.Table+free[0], watch.HeadOf(set, class)
+	cells := watch.CellsOf(p, free[0], class)
 	last := cells[len(cells)-1]
 	next := 0
 	if len(free) > 1 {
@@ -231,14 +154,14 @@ func takeStepByStep(t *testing.T, p api.Plan, m *mem.Memory, free []int, class, 
 	checkCell(t, x, cells[0])
 	watch.CheckDone(t, x, m)
 	checkCell(t, x, cells[0])
-	checkFree(t, p, m, free[1:]...)
+	watch.CheckFree(t, p, m, free[1:]...)
 }
 
 // P9.1: how many steps a Take has, alone.
 func TestStepsOfTake(t *testing.T) {
 	for class, want := range []int{14, 10, 8} {
 		for set := range 2 {
-			p, m := made(t, 1, 2, 0, 0, 1)
+			p, m := watch.Made(t, 1, 2, 0, 0, 1)
 			x := NewTake(p, class, set)
 			if n := watch.Run(t, x, m); n != want || m.Traps() != 0 {
 				t.Errorf("class %d: %d steps, %d traps, want %d steps", class, n, m.Traps(), want)
@@ -251,9 +174,9 @@ func TestStepsOfTake(t *testing.T) {
 // P9.1, P9.2: of the head all bits count; of what the table says of a free block Next alone does.
 func TestOtherBits(t *testing.T) {
 	const beyond uint64 = 0xfff << 52
-	p, m := made(t, 1, 3, 4, 2, 0, 1)
+	p, m := watch.Made(t, 1, 3, 4, 2, 0, 1)
 	m.Store(api.AtBlocks, watch.Top(3, 4)|beyond)
-	m.Store(p.Table+2, junk&^(127<<5)|1<<5)
+	m.Store(p.Table+2, watch.Junk&^(127<<5)|1<<5)
 	if b := take(t, p, m, 2, 0); b != 2 {
 		t.Errorf("the block %d is taken", b)
 	}
@@ -302,7 +225,7 @@ func TestTakeAnew(t *testing.T) {
 	} {
 		for steps := 1; steps <= 2; steps++ {
 			t.Run(fmt.Sprintf("%s, %d steps", x.name, steps), func(t *testing.T) {
-				p, m := made(t, 1, 4, 0, x.free...)
+				p, m := watch.Made(t, 1, 4, 0, x.free...)
 				k := NewTake(p, 2, 0)
 				for range steps {
 					k.Step(m)
@@ -322,7 +245,7 @@ func TestTakeAnew(t *testing.T) {
 					return
 				}
 				takeOn(t, p, k, m, x.block)
-				checkFree(t, p, m, x.left...)
+				watch.CheckFree(t, p, m, x.left...)
 			})
 		}
 	}
@@ -331,32 +254,32 @@ func TestTakeAnew(t *testing.T) {
 // takeOn is a Take of class 2, set 0, from its step 1 to its end, with nobody in between.
 func takeOn(t *testing.T, p api.Plan, k *Take, m *mem.Memory, block int) {
 	t.Helper()
-	c := cellsOf(p, block, 2)
+	c := watch.CellsOf(p, block, 2)
 	watch.Step(t, k, m, watch.Load(api.AtBlocks), false)
 	watch.Step(t, k, m, watch.Load(p.Table+block), false)
 	watch.Step(t, k, m, watch.CAS(api.AtBlocks, true), false)
 	watch.Step(t, k, m, watch.Store(p.Table+block), false)
 	watch.Step(t, k, m, watch.Store(c[1]), false)
-	watch.Step(t, k, m, watch.Load(headOf(0, 2)), false)
+	watch.Step(t, k, m, watch.Load(watch.HeadOf(0, 2)), false)
 	watch.Step(t, k, m, watch.Store(c[1]), false)
 	checkCell(t, k, 0)
-	watch.Step(t, k, m, watch.CAS(headOf(0, 2), true), true)
+	watch.Step(t, k, m, watch.CAS(watch.HeadOf(0, 2), true), true)
 	checkCell(t, k, c[0])
-	checkListed(t, m, 0, 2, c[1])
+	watch.CheckListed(t, m, 0, 2, c[1])
 	watch.CheckWord(t, m, p.Table+block, watch.Block(api.BlockUsed, 2, 0, 0))
 }
 
 // P9.1: behind its CAS a Take has its block, whatever others do with the free ones.
 func TestTakeIsNotHeldUpByBlocks(t *testing.T) {
-	p, m := made(t, 1, 3, 0, 0, 1)
+	p, m := watch.Made(t, 1, 3, 0, 0, 1)
 	x := NewTake(p, 2, 0)
 	for k := range 3 {
 		x.Step(m)
 		if k < 2 {
-			checkFree(t, p, m, 0, 1)
+			watch.CheckFree(t, p, m, 0, 1)
 		}
 	}
-	checkFree(t, p, m, 1)
+	watch.CheckFree(t, p, m, 1)
 	give(t, p, m, 2)
 	take(t, p, m, 0, 1)
 	take(t, p, m, 1, 1)
@@ -364,12 +287,12 @@ func TestTakeIsNotHeldUpByBlocks(t *testing.T) {
 		t.Errorf("%d more steps", n)
 	}
 	checkCell(t, x, p.Heap)
-	checkFree(t, p, m)
+	watch.CheckFree(t, p, m)
 }
 
 // P9.1: the list's CAS is false, if another's was done since the list's first step: the steps of the list go on, with the block that was taken. (The block 1 has the cells 64, 72, 80 and 88; 40 and 48 are of the block 0.)
 func TestTakeOfListAnew(t *testing.T) {
-	at := headOf(1, 1)
+	at := watch.HeadOf(1, 1)
 	for _, x := range []struct {
 		name  string
 		other func(p api.Plan, m *mem.Memory)
@@ -385,7 +308,7 @@ func TestTakeOfListAnew(t *testing.T) {
 	} {
 		for steps := 8; steps <= 9; steps++ {
 			t.Run(fmt.Sprintf("%s, %d steps", x.name, steps), func(t *testing.T) {
-				p, m := made(t, 1, 4, 0, 1, 3)
+				p, m := watch.Made(t, 1, 4, 0, 1, 3)
 				pushed(t, m, 1, 1, 40)
 				k := NewTake(p, 1, 1)
 				for range steps {
@@ -395,16 +318,16 @@ func TestTakeOfListAnew(t *testing.T) {
 				if steps == 8 {
 					watch.Step(t, k, m, watch.Store(88), false)
 				}
-				checkListed(t, m, 1, 1, x.left...)
+				watch.CheckListed(t, m, 1, 1, x.left...)
 				watch.Step(t, k, m, watch.CAS(at, false), false)
-				checkListed(t, m, 1, 1, x.left...)
+				watch.CheckListed(t, m, 1, 1, x.left...)
 				checkCell(t, k, 0)
 				watch.Step(t, k, m, watch.Load(at), false)
 				watch.Step(t, k, m, watch.Store(88), false)
 				checkCell(t, k, 0)
 				watch.Step(t, k, m, watch.CAS(at, true), true)
 				checkCell(t, k, 64)
-				checkListed(t, m, 1, 1, append([]int{72, 80, 88}, x.left...)...)
+				watch.CheckListed(t, m, 1, 1, append([]int{72, 80, 88}, x.left...)...)
 				watch.CheckDone(t, k, m)
 			})
 		}
@@ -413,7 +336,7 @@ func TestTakeOfListAnew(t *testing.T) {
 
 // P9.1: an access of another that is no CAS of the list's head, or of another list, or of the blocks, lets the list's CAS be done.
 func TestTakeAmongOthersSteps(t *testing.T) {
-	p, m := made(t, 1, 4, 0, 0, 1, 2)
+	p, m := watch.Made(t, 1, 4, 0, 0, 1, 2)
 	x, y := NewTake(p, 2, 1), NewTake(p, 2, 1)
 	for range 7 {
 		x.Step(m)
@@ -423,14 +346,14 @@ func TestTakeAmongOthersSteps(t *testing.T) {
 	}
 	take(t, p, m, 2, 0)
 	give(t, p, m, 3)
-	watch.Step(t, x, m, watch.CAS(headOf(1, 2), true), true)
-	watch.Step(t, y, m, watch.CAS(headOf(1, 2), false), false)
+	watch.Step(t, x, m, watch.CAS(watch.HeadOf(1, 2), true), true)
+	watch.Step(t, y, m, watch.CAS(watch.HeadOf(1, 2), false), false)
 	if n := watch.Run(t, y, m); n != 3 {
 		t.Errorf("%d more steps", n)
 	}
 	checkCell(t, x, p.Heap)
 	checkCell(t, y, p.Heap+32)
-	checkListed(t, m, 1, 2, p.Heap+48, p.Heap+16)
+	watch.CheckListed(t, m, 1, 2, p.Heap+48, p.Heap+16)
 }
 
 // P9.2: each step of a Give, onto no free block and onto some, with what all words are behind it.
@@ -446,8 +369,8 @@ func TestGive(t *testing.T) {
 		{64, 64, 3, 63, []int{0, 62}},
 		{64, 64, 3, 0, []int{63}},
 	} {
-		for _, entry := range []uint64{0, junk, watch.Block(api.BlockUsed, 2, 1, 0), watch.Block(api.BlockEvac, 0, 0, 9)} {
-			p, m := made(t, x.threads, x.blocks, x.version, x.free...)
+		for _, entry := range []uint64{0, watch.Junk, watch.Block(api.BlockUsed, 2, 1, 0), watch.Block(api.BlockEvac, 0, 0, 9)} {
+			p, m := watch.Made(t, x.threads, x.blocks, x.version, x.free...)
 			m.Store(p.Table+x.block, entry)
 			want := watch.Words(m)
 			first := 0
@@ -464,7 +387,7 @@ func TestGive(t *testing.T) {
 			watch.Step(t, g, m, watch.CAS(api.AtBlocks, true), true)
 			watch.CheckWords(t, m, want)
 			watch.CheckDone(t, g, m)
-			checkFree(t, p, m, append([]int{x.block}, x.free...)...)
+			watch.CheckFree(t, p, m, append([]int{x.block}, x.free...)...)
 		}
 	}
 }
@@ -486,7 +409,7 @@ func TestGiveAnew(t *testing.T) {
 	} {
 		for steps := 1; steps <= 2; steps++ {
 			t.Run(fmt.Sprintf("%s, %d steps", x.name, steps), func(t *testing.T) {
-				p, m := made(t, 1, 4, 0, x.free...)
+				p, m := watch.Made(t, 1, 4, 0, x.free...)
 				entry := p.Table + 3
 				g := NewGive(p, 3)
 				for range steps {
@@ -497,7 +420,7 @@ func TestGiveAnew(t *testing.T) {
 					watch.Step(t, g, m, watch.Store(entry), false)
 				}
 				watch.Step(t, g, m, watch.CAS(api.AtBlocks, false), false)
-				checkFree(t, p, m, x.want...)
+				watch.CheckFree(t, p, m, x.want...)
 				watch.Step(t, g, m, watch.Load(api.AtBlocks), false)
 				watch.Step(t, g, m, watch.Store(entry), false)
 				first := 0
@@ -506,7 +429,7 @@ func TestGiveAnew(t *testing.T) {
 				}
 				watch.CheckWord(t, m, entry, watch.Block(api.BlockFree, 0, 0, first))
 				watch.Step(t, g, m, watch.CAS(api.AtBlocks, true), true)
-				checkFree(t, p, m, append([]int{3}, x.want...)...)
+				watch.CheckFree(t, p, m, append([]int{3}, x.want...)...)
 				watch.CheckDone(t, g, m)
 			})
 		}
@@ -515,7 +438,7 @@ func TestGiveAnew(t *testing.T) {
 
 // P9.1, P9.2: what was given back last is taken first, and each block once.
 func TestLastGivenIsFirstTaken(t *testing.T) {
-	p, m := made(t, 3, 6, 0)
+	p, m := watch.Made(t, 3, 6, 0)
 	order := []int{4, 0, 5, 2}
 	give(t, p, m, order...)
 	for i, b := range slices.Backward(order) {
@@ -535,7 +458,7 @@ func TestLastGivenIsFirstTaken(t *testing.T) {
 // P9.1, P9.2: all blocks of a plan are taken, of every class, and given back; no step is a trap.
 func TestAllBlocks(t *testing.T) {
 	for _, n := range []int{1, 2, 22, 23, 63, 64} {
-		p, m := made(t, n, n, 0)
+		p, m := watch.Made(t, n, n, 0)
 		for b := range n {
 			give(t, p, m, b)
 		}
@@ -565,7 +488,7 @@ func TestAllBlocks(t *testing.T) {
 
 // P9.1: the chapter's examples.
 func TestExamples(t *testing.T) {
-	p, m := made(t, 1, 2, 0, 0, 1)
+	p, m := watch.Made(t, 1, 2, 0, 0, 1)
 	if p.Table != 11 || p.Heap != 32 {
 		t.Fatalf("the plan is %+v", p)
 	}
@@ -585,7 +508,7 @@ func TestExamples(t *testing.T) {
 
 // R6: a new machine does no access; what it does hangs on its steps' moments.
 func TestMachinesAreOfTheirSteps(t *testing.T) {
-	p, m := made(t, 1, 3, 0)
+	p, m := watch.Made(t, 1, 3, 0)
 	n := m.Count()
 	x, y := NewTake(p, 0, 0), NewGive(p, 2)
 	if m.Count() != n {
@@ -593,7 +516,7 @@ func TestMachinesAreOfTheirSteps(t *testing.T) {
 	}
 	give(t, p, m, 0, 1)
 	watch.Run(t, y, m)
-	checkFree(t, p, m, 2, 1, 0)
+	watch.CheckFree(t, p, m, 2, 1, 0)
 	watch.Run(t, x, m)
 	checkCell(t, x, p.Heap+64)
 	give(t, p, m, 2)
@@ -604,7 +527,7 @@ func TestMachinesAreOfTheirSteps(t *testing.T) {
 // R6: a copy of a machine goes its own way, at each step of it.
 func TestCopiesGoTheirOwnWay(t *testing.T) {
 	for steps := range 8 {
-		p, m := made(t, 1, 3, 0, 0, 1, 2)
+		p, m := watch.Made(t, 1, 3, 0, 0, 1, 2)
 		x := NewTake(p, 2, 1)
 		for range steps {
 			x.Step(m)
@@ -622,7 +545,7 @@ func TestCopiesGoTheirOwnWay(t *testing.T) {
 		watch.CheckWords(t, n, want)
 	}
 	for steps := range 3 {
-		p, m := made(t, 1, 3, 0, 0)
+		p, m := watch.Made(t, 1, 3, 0, 0)
 		x := NewGive(p, 2)
 		for range steps {
 			x.Step(m)
@@ -640,7 +563,7 @@ func TestCopiesGoTheirOwnWay(t *testing.T) {
 // R1: whatever the numbers are, each Step ends, and does one access, till the machine is done.
 func TestWrongNumbers(t *testing.T) {
 	for _, n := range edges.Numbers() {
-		p, m := made(t, 1, 2, 0, 0, 1)
+		p, m := watch.Made(t, 1, 2, 0, 0, 1)
 		lost := api.Plan{Threads: n, Blocks: n, Table: n, Heap: n, Size: n}
 		for _, x := range []watch.Machine{
 			NewTake(p, n, 0), NewTake(p, 1, n), NewTake(p, n, n), NewTake(lost, 1, 1), NewTake(lost, n, n),
@@ -664,7 +587,7 @@ func TestWrongNumbers(t *testing.T) {
 // R1, P9.2: a block that there is not is taken modulo what its bits hold; its word of the table is a trap, if there is none.
 func TestGiveOfNoBlock(t *testing.T) {
 	for _, n := range []int{64, 127, 4095, 1 << 20, math.MaxInt, math.MinInt} {
-		p, m := made(t, 1, 1, 7)
+		p, m := watch.Made(t, 1, 1, 7)
 		if steps := watch.Run(t, NewGive(p, n), m); steps != 3 {
 			t.Errorf("%d steps", steps)
 		}
@@ -674,7 +597,7 @@ func TestGiveOfNoBlock(t *testing.T) {
 
 // R1: a first block that there is not: a Take goes by what it reads. A head that the memory does not have: a Take finds none, a Give goes on for ever.
 func TestMemoryThatIsShort(t *testing.T) {
-	p, m := made(t, 1, 1, 0)
+	p, m := watch.Made(t, 1, 1, 0)
 	m.Store(api.AtBlocks, watch.Top(4095, 3))
 	x := NewTake(p, 2, 0)
 	if n := watch.Run(t, x, m); n != 8 {
@@ -700,7 +623,7 @@ func TestMemoryThatIsShort(t *testing.T) {
 
 // R1: machines that nobody made are done, with none.
 func TestMadeByNobody(t *testing.T) {
-	_, m := made(t, 1, 1, 0, 0)
+	_, m := watch.Made(t, 1, 1, 0, 0)
 	watch.CheckDone(t, &Take{}, m)
 	watch.CheckDone(t, &Give{}, m)
 	checkCell(t, &Take{}, 0)

@@ -67,7 +67,7 @@ func (s *seen) check(t *testing.T) {
 // begun is a play of actors with these jobs, the actor i holding held[i].
 func begun(t *testing.T, blocks int, free []int, todo [][]job, held [][]int) *play {
 	p := &play{free: free}
-	p.p, p.m = made(t, 1, blocks, 0, free...)
+	p.p, p.m = watch.Made(t, 1, blocks, 0, free...)
 	for i, l := range todo {
 		a := actor{todo: l, block: none}
 		if i < len(held) {
@@ -232,7 +232,7 @@ func (p *play) followList(i int, ok bool) {
 		return
 	}
 	k := a.list()
-	p.lists[k] = append(cellsOf(p.p, a.block, a.now.class)[1:], p.lists[k]...)
+	p.lists[k] = append(watch.CellsOf(p.p, a.block, a.now.class)[1:], p.lists[k]...)
 	p.versions[k]++
 	p.tellList(k, i)
 }
@@ -282,14 +282,14 @@ func (p *play) end(a *actor, done bool) string {
 // check holds the memory against the stacks, and asks whether each block is at one place.
 func (p *play) check() string {
 	w := watch.Words(p.m)
-	if got := freeBlocks(p.p, w); !slices.Equal(got, p.free) {
+	if got := watch.FreeBlocks(p.p, w); !slices.Equal(got, p.free) {
 		return fmt.Sprintf("the blocks %d are free, want %d", got, p.free)
 	}
 	if w[api.AtBlocks] != watch.Top(firstOf(p.free)+1, p.version) {
 		return fmt.Sprintf("the head of the blocks is %#x, behind %d changes", w[api.AtBlocks], p.version)
 	}
 	for k, want := range p.lists {
-		if got := listed(w, 3+k); !slices.Equal(got, want) || int(w[3+k]>>12) != p.versions[k] {
+		if got := watch.Listed(w, 3+k); !slices.Equal(got, want) || int(w[3+k]>>12) != p.versions[k] {
 			return fmt.Sprintf("the list %d has %d, want %d, and the head %#x, behind %d changes", k, got, want, w[3+k], p.versions[k])
 		}
 	}

@@ -1,4 +1,4 @@
-// Package watch has what the tests of machines share: steps of which each access is looked at, words that are asked without being counted, and words that are reckoned without the layers that make them. No layer stands on it.
+// Package watch has what the tests of machines share: steps of which each access is looked at, words that are asked without being counted, words that are reckoned without the layers that make them, and blocks and lists as a memory has them. No layer stands on it.
 package watch
 
 import (
@@ -20,6 +20,7 @@ type Machine interface {
 type Teller interface {
 	Helper()
 	Errorf(format string, args ...any)
+	Fatalf(format string, args ...any)
 }
 
 // Top is the head of a list as a word.
@@ -27,6 +28,11 @@ func Top(first, version int) uint64 { return uint64(first) + uint64(version)<<12
 
 // Free is the header of a free cell as a word.
 func Free(class, link int) uint64 { return uint64(class)<<2 + uint64(link)<<12 }
+
+// Object is the header of an object as a word.
+func Object(class, count, mark int) uint64 {
+	return api.CellObject + uint64(class)<<2 + uint64(count)<<4 + uint64(mark)<<7
+}
 
 // Block is what the table says of a block, as a word.
 func Block(state, class, stamp, next int) uint64 {

@@ -14,6 +14,7 @@ type faults int
 
 func (f *faults) Helper()               {}
 func (f *faults) Errorf(string, ...any) { *f++ }
+func (f *faults) Fatalf(string, ...any) { *f++ }
 
 // row does one of its parts a Step, and tells with the last one that it is done; then it may deny that, or go on.
 type row struct {
@@ -60,6 +61,9 @@ func TestReckonedWords(t *testing.T) {
 	}
 	if got, want := Free(2, 96), head.Word(api.Head{Class: 2, Link: 96}); got != want {
 		t.Errorf("Free: %d, want %d", got, want)
+	}
+	if got, want := Object(1, 5, 1), head.Word(api.Head{State: api.CellObject, Class: 1, Count: 5, Mark: 1}); got != want {
+		t.Errorf("Object: %d, want %d", got, want)
 	}
 	if got, want := Block(2, 1, 1, 4), stamp.Block(api.Block{State: 2, Class: 1, Stamp: 1, Next: 4}); got != want || got != 150 {
 		t.Errorf("Block: %d, want %d", got, want)
