@@ -34,6 +34,11 @@ func Object(class, count, mark int) uint64 {
 	return api.CellObject + uint64(class)<<2 + uint64(count)<<4 + uint64(mark)<<7
 }
 
+// Grey is the header of an object that is grey, as a word.
+func Grey(class, count, mark, link int) uint64 {
+	return Object(class, count, mark) + 1<<8 + uint64(link)<<12
+}
+
 // Block is what the table says of a block, as a word.
 func Block(state, class, stamp, next int) uint64 {
 	return uint64(state) + uint64(class)<<2 + uint64(stamp)<<4 + uint64(next)<<5

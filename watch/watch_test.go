@@ -65,6 +65,9 @@ func TestReckonedWords(t *testing.T) {
 	if got, want := Object(1, 5, 1), head.Word(api.Head{State: api.CellObject, Class: 1, Count: 5, Mark: 1}); got != want {
 		t.Errorf("Object: %d, want %d", got, want)
 	}
+	if got, want := Grey(1, 5, 1, 96), head.Word(api.Head{State: api.CellObject, Class: 1, Count: 5, Mark: 1, Grey: 1, Link: 96}); got != want {
+		t.Errorf("Grey: %d, want %d", got, want)
+	}
 	if got, want := Block(2, 1, 1, 4), stamp.Block(api.Block{State: 2, Class: 1, Stamp: 1, Next: 4}); got != want || got != 150 {
 		t.Errorf("Block: %d, want %d", got, want)
 	}
