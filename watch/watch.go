@@ -39,6 +39,14 @@ func Grey(class, count, mark, link int) uint64 {
 	return Object(class, count, mark) + 1<<8 + uint64(link)<<12
 }
 
+// Moved is the header of an object that was moved to link, as a word.
+func Moved(class, count, mark, link int) uint64 {
+	return Object(class, count, mark) + api.TagMoved<<9 + uint64(link)<<12
+}
+
+// Field is what a field has as a word, if its number is one of a field's.
+func Field(v api.Val) uint64 { return uint64(v.Kind) + uint64(v.N)<<3 }
+
 // Block is what the table says of a block, as a word.
 func Block(state, class, stamp, next int) uint64 {
 	return uint64(state) + uint64(class)<<2 + uint64(stamp)<<4 + uint64(next)<<5

@@ -6,6 +6,7 @@ import (
 	"flit/api"
 	"flit/head"
 	"flit/mem"
+	"flit/slot"
 	"flit/stamp"
 )
 
@@ -67,6 +68,14 @@ func TestReckonedWords(t *testing.T) {
 	}
 	if got, want := Grey(1, 5, 1, 96), head.Word(api.Head{State: api.CellObject, Class: 1, Count: 5, Mark: 1, Grey: 1, Link: 96}); got != want {
 		t.Errorf("Grey: %d, want %d", got, want)
+	}
+	if got, want := Moved(1, 5, 1, 96), head.Word(api.Head{State: api.CellObject, Class: 1, Count: 5, Mark: 1, Tag: api.TagMoved, Link: 96}); got != want {
+		t.Errorf("Moved: %d, want %d", got, want)
+	}
+	for _, v := range []api.Val{{}, {Kind: api.Ref, N: 5}, {Kind: api.Empty}, {Kind: 3, N: 1<<61 - 1}} {
+		if got, want := Field(v), slot.Word(v); got != want {
+			t.Errorf("Field of %v: %d, want %d", v, got, want)
+		}
 	}
 	if got, want := Block(2, 1, 1, 4), stamp.Block(api.Block{State: 2, Class: 1, Stamp: 1, Next: 4}); got != want || got != 150 {
 		t.Errorf("Block: %d, want %d", got, want)
