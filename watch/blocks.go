@@ -9,8 +9,22 @@ import (
 	"flit/plan"
 )
 
-// Junk is what the words of blocks have in a memory that Made makes, till a machine writes to them.
+// Junk is what the words of blocks have in a memory that Made makes, and all words in one that Full makes, till a machine writes to them.
 const Junk uint64 = math.MaxUint64
+
+// Full is a memory of so many words, none of which is nought.
+func Full(t Teller, size int) *mem.Memory {
+	t.Helper()
+	m, e := mem.New(size)
+	if e != api.OK {
+		t.Fatalf("mem.New: error %d", e)
+		return nil
+	}
+	for a := range size {
+		m.Store(a, Junk)
+	}
+	return m
+}
 
 // cellWords is how many words a cell of each class has, said here once more.
 var cellWords = [3]int{4, 8, 16}

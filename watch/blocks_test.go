@@ -51,6 +51,19 @@ func TestMade(t *testing.T) {
 	}
 }
 
+// A memory that is full has no word of nought.
+func TestFull(t *testing.T) {
+	for _, w := range Words(Full(t, 7)) {
+		if w != Junk {
+			t.Errorf("a word is %#x", w)
+		}
+	}
+	var f faults
+	if m := Full(&f, 0); m != nil || f != 1 {
+		t.Errorf("a memory that there is not: %d faults", f)
+	}
+}
+
 // Blocks and cells are told as they stand, even if they go round, or to where nothing is.
 func TestRowsOfBlocksAndCells(t *testing.T) {
 	p, m := Made(t, 1, 4, 0, 3, 1)

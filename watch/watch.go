@@ -1,4 +1,4 @@
-// Package watch has what the tests of machines share: steps of which each access is looked at, words that are asked without being counted, words that are reckoned without the layers that make them, and blocks and lists as a memory has them. No layer stands on it.
+// Package watch has what the tests of machines share: steps of which each access is looked at, the steps of a chapter beside which a machine is held, all orders of steps, words that are asked without being counted, words that are reckoned without the layers that make them, and blocks and lists as a memory has them. No layer stands on it.
 package watch
 
 import (
@@ -41,11 +41,30 @@ func Grey(class, count, mark, link int) uint64 {
 
 // Moved is the header of an object that was moved to link, as a word.
 func Moved(class, count, mark, link int) uint64 {
-	return Object(class, count, mark) + api.TagMoved<<9 + uint64(link)<<12
+	return Tagged(class, count, mark, api.TagMoved, link)
+}
+
+// Tagged is the header of an object with any tag, as a word.
+func Tagged(class, count, mark, tag, link int) uint64 {
+	return Object(class, count, mark) + uint64(tag)<<9 + uint64(link)<<12
+}
+
+// Home is where the object is whose header at that address is w.
+func Home(w uint64, at int) int {
+	if w%4 == api.CellObject && w>>9%8 == api.TagMoved {
+		return int(w >> 12 % 4096)
+	}
+	return at
 }
 
 // Field is what a field has as a word, if its number is one of a field's.
 func Field(v api.Val) uint64 { return uint64(v.Kind) + uint64(v.N)<<3 }
+
+// Value is what a field has, of its word.
+func Value(w uint64) api.Val { return api.Val{Kind: int(w % 4), N: int(w >> 3)} }
+
+// Refers tells whether v is a reference that is not nil.
+func Refers(v api.Val) bool { return v.Kind == api.Ref && v.N != 0 }
 
 // Block is what the table says of a block, as a word.
 func Block(state, class, stamp, next int) uint64 {

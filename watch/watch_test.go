@@ -72,9 +72,24 @@ func TestReckonedWords(t *testing.T) {
 	if got, want := Moved(1, 5, 1, 96), head.Word(api.Head{State: api.CellObject, Class: 1, Count: 5, Mark: 1, Tag: api.TagMoved, Link: 96}); got != want {
 		t.Errorf("Moved: %d, want %d", got, want)
 	}
-	for _, v := range []api.Val{{}, {Kind: api.Ref, N: 5}, {Kind: api.Empty}, {Kind: 3, N: 1<<61 - 1}} {
+	if got, want := Tagged(1, 5, 1, api.TagStays, 96), head.Word(api.Head{State: api.CellObject, Class: 1, Count: 5, Mark: 1, Tag: api.TagStays, Link: 96}); got != want {
+		t.Errorf("Tagged: %d, want %d", got, want)
+	}
+	for w := range uint64(1 << 12) {
+		w |= 96<<12 | 1<<40
+		if got, want := Home(w, 9), head.Moved(w, 9); got != want {
+			t.Errorf("Home of %#x: %d, want %d", w, got, want)
+		}
+	}
+	for _, v := range []api.Val{{}, {Kind: api.Ref}, {Kind: api.Ref, N: 5}, {Kind: api.Empty}, {Kind: 3, N: 1<<61 - 1}} {
 		if got, want := Field(v), slot.Word(v); got != want {
 			t.Errorf("Field of %v: %d, want %d", v, got, want)
+		}
+		if got := Value(slot.Freeze(slot.Word(v))); got != v {
+			t.Errorf("Value of %v: %v", v, got)
+		}
+		if got := Refers(v); got != (v == api.Val{Kind: api.Ref, N: 5}) {
+			t.Errorf("Refers of %v: %t", v, got)
 		}
 	}
 	if got, want := Block(2, 1, 1, 4), stamp.Block(api.Block{State: 2, Class: 1, Stamp: 1, Next: 4}); got != want || got != 150 {

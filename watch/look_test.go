@@ -1,0 +1,83 @@
+package watch
+
+import (
+	"testing"
+
+	"flit/api"
+	"flit/mem"
+)
+
+// telling is a row that tells, behind each of its parts, what is written down for it; ahead of the first one, the first of these.
+type telling struct {
+	row
+	hits []bool
+	outs []api.Out
+}
+
+func (x *telling) Hit() bool       { return x.hits[x.k] }
+func (x *telling) Result() api.Out { return x.outs[x.k] }
+
+// swapping reads the word 2, which is a hit, and lets the word 1 be 7 then.
+func swapping() *telling {
+	return &telling{
+		row{l: []func(m *mem.Memory){loadTwo, swapOne}},
+		[]bool{false, true, true},
+		[]api.Out{{}, {}, {Yes: true}},
+	}
+}
+
+// A look at steps that are what they must be finds nothing.
+func TestLook(t *testing.T) {
+	m := made(t)
+	l := LookAt(t, m, swapping())
+	l.Step(Load(2), true)
+	l.Want[1] = 7
+	l.Last(CAS(1, true), true, api.Out{Yes: true})
+
+	m = made(t)
+	m.Store(1, Field(api.Val{N: 3}))
+	store := func(m *mem.Memory) { m.Store(1, Field(api.Val{N: 4})) }
+	swap := func(m *mem.Memory) { m.CAS(1, Field(api.Val{N: 4}), Field(api.Val{N: 5})) }
+	l = LookAt(t, m, &telling{row{l: []func(m *mem.Memory){swap, store}}, []bool{false, false, true}, make([]api.Out, 3)})
+	l.Fails(1)
+	l.Stored(2, 6)
+	l.Stores(1, api.Val{N: 4})
+	l = LookAt(t, m, &telling{row{l: []func(m *mem.Memory){swap}}, []bool{false, true}, []api.Out{{}, {Yes: true}}})
+	l.Swaps(1, api.Val{N: 5})
+	AtOnce(t, m, &telling{row{}, []bool{false}, []api.Out{{Code: api.ErrNil}}}, api.Out{Code: api.ErrNil})
+}
+
+// What is not as it must be is told.
+func TestLookThatFinds(t *testing.T) {
+	for name, look := range map[string]func(l *Look){
+		"no hit":          func(l *Look) { l.Step(Load(2), false) },
+		"another access":  func(l *Look) { l.Step(Load(3), true) },
+		"not done yet":    func(l *Look) { l.Last(Load(2), true, api.Out{}) },
+		"another word":    func(l *Look) { l.Want[5]++; l.Step(Load(2), true) },
+		"something told":  func(l *Look) { l.Told(false, api.Out{Yes: true}) },
+		"a hit too early": func(l *Look) { l.Told(true, api.Out{}) },
+	} {
+		var f faults
+		look(LookAt(&f, made(t), swapping()))
+		if f == 0 {
+			t.Errorf("%s: nothing is found", name)
+		}
+	}
+	var f faults
+	early := swapping()
+	early.hits[0] = true
+	LookAt(&f, made(t), early)
+	if f != 1 {
+		t.Errorf("a hit ahead of the first step: %d faults", f)
+	}
+	f = 0
+	AtOnce(&f, made(t), &telling{row{}, []bool{false}, []api.Out{{}}}, api.Out{Code: api.ErrNil})
+	if f == 0 {
+		t.Error("nothing is found of something else that is told at once")
+	}
+	f = 0
+	AtOnce(&f, made(t), swapping(), api.Out{})
+	if f == 0 {
+		t.Error("nothing is found of a machine that is not done at once")
+	}
+}

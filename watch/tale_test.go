@@ -1,0 +1,160 @@
+package watch
+
+import (
+	"slices"
+	"testing"
+
+	"flit/api"
+	"flit/direct"
+	"flit/mem"
+)
+
+// adding lets the word 1 be the sum of the words 2 and 3, if it is nought by then.
+func adding(t *Tale) api.Out {
+	sum := t.Load(2) + t.Load(3)
+	t.Hit = true
+	if t.CAS(1, 0, sum) {
+		t.Hit = true
+		return api.Out{Yes: true}
+	}
+	t.Store(4, sum)
+	return api.Out{}
+}
+
+// A tale is as far as its answers; its next access is not done till somebody does it.
+func TestTale(t *testing.T) {
+	m := made(t)
+	var met []uint64
+	for k, want := range []struct {
+		hit  bool
+		next api.Access
+	}{{false, Load(2)}, {false, Load(3)}, {true, CAS(1, false)}, {false, Store(4)}} {
+		x := Tell(adding, met)
+		if x.Hit != want.hit || x.Out != (api.Out{}) || x.Next == nil {
+			t.Fatalf("behind %d answers: %+v", k, x)
+		}
+		m.Take()
+		met = append(met, x.Next(m))
+		if did := m.Take(); !slices.Equal(did, []api.Access{want.next}) {
+			t.Errorf("the access %d is %v, want %v", k, did, want.next)
+		}
+	}
+	CheckWord(t, m, 4, 13)
+	if x := Tell(adding, met); x.Next != nil || x.Hit || x.Out != (api.Out{}) {
+		t.Errorf("at its end: %+v", x)
+	}
+	if x := Tell(adding, []uint64{4, 9, 1}); x.Next != nil || !x.Hit || x.Out != (api.Out{Yes: true}) {
+		t.Errorf("at its other end: %+v", x)
+	}
+}
+
+// What else a work panics with goes on.
+func TestTaleThatPanics(t *testing.T) {
+	defer func() {
+		if e := recover(); e != "own" {
+			t.Errorf("recover tells %v", e)
+		}
+	}()
+	Tell(func(*Tale) api.Out { panic("own") }, nil)
+}
+
+// The steps of a Direct that are written here once more are those of layer 12.
+func TestTaleOfDirect(t *testing.T) {
+	const at, old, now, size = 8, 12, 16, 20
+	refTo := func(n int) api.Val { return api.Val{Kind: api.Ref, N: n} }
+	values := []api.Val{{}, {N: 5}, {Kind: api.Empty}, refTo(0), refTo(at), refTo(old), refTo(now)}
+	for op := range 5 {
+		for _, v := range values {
+			for _, exp := range values {
+				for bits := range 8 {
+					m, _ := mem.New(size)
+					m.Store(old, Moved(0, 1, 0, now))
+					m.Store(at+2, Field(v))
+					r := api.Req{Op: op, Field: 1, Exp: exp, New: refTo(now)}
+					canon, fix := bits&1 != 0, bits&2 != 0
+					b := Beside{
+						X:    direct.NewDirect(at, r, direct.How{Canon: canon, Fix: fix}),
+						Work: func(t *Tale) api.Out { return t.Direct(at, r, canon, fix) },
+					}
+					walk(t, &b, m, bits&4 != 0 && v == exp)
+				}
+			}
+		}
+	}
+}
+
+// walk does all steps; if others come in between, the word of the field is frozen ahead of the first CAS, so that this one fails.
+func walk(t *testing.T, b *Beside, m *mem.Memory, others bool) {
+	t.Helper()
+	for done := Tell(b.Work, b.Met).Next == nil; !done; {
+		var wrong string
+		if others && len(b.Met) == 1 {
+			m.Store(10, Word(m, 10)|4)
+		}
+		if _, done, wrong = b.Step(m); wrong != "" {
+			t.Fatalf("behind %d: %s", b.Met, wrong)
+		}
+	}
+	if _, _, wrong := b.Step(m); wrong == "" {
+		t.Error("there is a step behind the last one")
+	}
+}
+
+// A machine that does something else than its work says is told.
+func TestBesideThatFinds(t *testing.T) {
+	loads := func(t *Tale) api.Out {
+		t.Load(2)
+		t.Hit = true
+		return api.Out{Yes: true}
+	}
+	for _, x := range []struct {
+		name string
+		do   []func(m *mem.Memory)
+		hit  bool
+		out  api.Out
+		ok   bool
+	}{
+		{"the same", []func(m *mem.Memory){loadTwo}, true, api.Out{Yes: true}, true},
+		{"another access", []func(m *mem.Memory){storeOne}, true, api.Out{Yes: true}, false},
+		{"two accesses", []func(m *mem.Memory){loadTwice}, true, api.Out{Yes: true}, false},
+		{"no access", []func(m *mem.Memory){none}, true, api.Out{Yes: true}, false},
+		{"not done", []func(m *mem.Memory){loadTwo, none}, true, api.Out{Yes: true}, false},
+		{"no hit", []func(m *mem.Memory){loadTwo}, false, api.Out{Yes: true}, false},
+		{"another Out", []func(m *mem.Memory){loadTwo}, true, api.Out{}, false},
+	} {
+		b := Beside{X: &telling{row{l: x.do}, []bool{false, x.hit, x.hit}, []api.Out{{}, x.out, x.out}}, Work: loads}
+		if _, _, wrong := b.Step(made(t)); (wrong == "") != x.ok {
+			t.Errorf("%s: %q", x.name, wrong)
+		}
+	}
+	stores := func(t *Tale) api.Out {
+		t.Store(1, 6)
+		return api.Out{}
+	}
+	b := Beside{X: &telling{row{l: []func(m *mem.Memory){storeOne}}, make([]bool, 2), make([]api.Out, 2)}, Work: stores}
+	if _, _, wrong := b.Step(made(t)); wrong == "" {
+		t.Error("another word that is stored is not found")
+	}
+}
+
+// A copy of a Beside goes its own way.
+func TestBesideCopied(t *testing.T) {
+	r := api.Req{Op: api.Swap, Exp: api.Val{N: 1}, New: api.Val{N: 2}}
+	tells := func(t *Tale) api.Out { return t.Direct(0, r, false, false) }
+	m := made(t)
+	m.Store(1, Field(r.Exp))
+	x := direct.NewDirect(0, r, direct.How{})
+	b := Beside{X: x, Work: tells}
+	if _, _, wrong := b.Step(m); wrong != "" {
+		t.Fatal(wrong)
+	}
+	y, n, c := *x, m.Clone(), b
+	c.X = &y
+	m.Store(1, 0)
+	if _, _, wrong := b.Step(m); wrong != "" {
+		t.Error(wrong)
+	}
+	if _, done, wrong := c.Step(n); wrong != "" || !done || slices.Equal(b.Met, c.Met) {
+		t.Errorf("%s: %d and %d were met", wrong, b.Met, c.Met)
+	}
+}
