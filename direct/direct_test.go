@@ -18,7 +18,7 @@ func TestRead(t *testing.T) {
 			m := made(t, v)
 			r := api.Req{Op: api.Read, At: 7, Exp: v, New: ref(white)}
 			l := lookAt(t, m, NewDirect(base, r, h))
-			l.last(watch.Load(base+1), true, api.Out{V: v})
+			l.Last(watch.Load(base+1), true, api.Out{V: v})
 		}
 	}
 }
@@ -30,11 +30,11 @@ func TestReadFix(t *testing.T) {
 			h.Fix = true
 			l := lookAt(t, made(t, v), NewDirect(base, api.Req{Op: api.Read}, h))
 			if v.Kind != api.Ref || v.N == 0 {
-				l.last(watch.Load(base+1), true, api.Out{V: v})
+				l.Last(watch.Load(base+1), true, api.Out{V: v})
 				continue
 			}
-			l.step(watch.Load(base+1), true)
-			l.last(watch.Load(v.N), false, api.Out{V: ref(homeOf(v.N))})
+			l.Step(watch.Load(base+1), true)
+			l.Last(watch.Load(v.N), false, api.Out{V: ref(homeOf(v.N))})
 		}
 	}
 }
@@ -50,8 +50,8 @@ func TestReadFixOfEachHeader(t *testing.T) {
 			if bits%4 == api.CellObject && bits>>9 == api.TagMoved {
 				want = link
 			}
-			watch.Run(t, l.x, m)
-			l.told(false, api.Out{V: ref(want)})
+			watch.Run(t, l.X, m)
+			l.Told(false, api.Out{V: ref(want)})
 		}
 	}
 }
@@ -62,7 +62,7 @@ func TestReadFrozen(t *testing.T) {
 		m := made(t, v)
 		m.Store(base+1, watch.Field(v)|frozen)
 		l := lookAt(t, m, NewDirect(base, api.Req{Op: api.Read}, How{}))
-		l.last(watch.Load(base+1), true, api.Out{V: v})
+		l.Last(watch.Load(base+1), true, api.Out{V: v})
 	}
 }
 
@@ -72,12 +72,12 @@ func TestReadAtItsSteps(t *testing.T) {
 	x := NewDirect(base, api.Req{Op: api.Read}, How{Fix: true})
 	m.Store(base+1, watch.Field(ref(white)))
 	l := lookAt(t, m, x)
-	l.step(watch.Load(base+1), true)
-	l.stored(base+1, watch.Field(scalar(6)))
-	l.stored(white, watch.Moved(0, 2, 0, now))
-	l.last(watch.Load(white), false, api.Out{V: ref(now)})
-	l.stored(white, watch.Moved(0, 2, 0, black))
-	l.told(false, api.Out{V: ref(now)})
+	l.Step(watch.Load(base+1), true)
+	l.Stored(base+1, watch.Field(scalar(6)))
+	l.Stored(white, watch.Moved(0, 2, 0, now))
+	l.Last(watch.Load(white), false, api.Out{V: ref(now)})
+	l.Stored(white, watch.Moved(0, 2, 0, black))
+	l.Told(false, api.Out{V: ref(now)})
 }
 
 // P12.1: the field of each access stands behind the header, at base, 1 and r.Field; r.At is not asked.
@@ -89,12 +89,12 @@ func TestFieldsOfEachBase(t *testing.T) {
 				f := b + 1 + field
 				m.Store(f, watch.Field(scalar(77)))
 				l := lookAt(t, m, NewDirect(b, api.Req{Op: api.Read, At: at, Field: field}, How{}))
-				l.last(watch.Load(f), true, api.Out{V: scalar(77)})
+				l.Last(watch.Load(f), true, api.Out{V: scalar(77)})
 				l = lookAt(t, m, NewDirect(b, api.Req{Op: api.Write, At: at, Field: field, New: scalar(78)}, How{}))
-				l.stores(f, scalar(78))
+				l.Stores(f, scalar(78))
 				l = lookAt(t, m, NewDirect(b, api.Req{Op: api.Swap, At: at, Field: field, Exp: scalar(78), New: ref(4)}, How{}))
-				l.step(watch.Load(f), true)
-				l.swaps(f, ref(4))
+				l.Step(watch.Load(f), true)
+				l.Swaps(f, ref(4))
 			}
 		}
 	}
@@ -107,7 +107,7 @@ func TestWrite(t *testing.T) {
 			for _, h := range hows() {
 				h.Shade = false
 				l := lookAt(t, made(t, v), NewDirect(base, api.Req{Op: api.Write, Exp: ref(white), New: w}, h))
-				l.stores(base+1, w)
+				l.Stores(base+1, w)
 			}
 		}
 	}
@@ -120,10 +120,10 @@ func TestWriteShade(t *testing.T) {
 			for _, h := range hows() {
 				h.Shade = true
 				l := lookAt(t, made(t, v), NewDirect(base, api.Req{Op: api.Write, Exp: ref(white), New: w}, h))
-				l.step(watch.Load(base+1), false)
+				l.Step(watch.Load(base+1), false)
 				l.shaded(v, h)
 				l.shaded(w, h)
-				l.stores(base+1, w)
+				l.Stores(base+1, w)
 			}
 		}
 	}
@@ -136,10 +136,10 @@ func TestWriteOfFrozen(t *testing.T) {
 		m.Store(base+1, watch.Field(ref(white))|frozen)
 		l := lookAt(t, m, NewDirect(base, api.Req{Op: api.Write, New: scalar(7)}, h))
 		if h.Shade {
-			l.step(watch.Load(base+1), false)
+			l.Step(watch.Load(base+1), false)
 			l.shaded(ref(white), h)
 		}
-		l.stores(base+1, scalar(7))
+		l.Stores(base+1, scalar(7))
 	}
 }
 
@@ -148,13 +148,13 @@ func TestWriteAtItsSteps(t *testing.T) {
 	h := How{Shade: true, Mark: 1}
 	m := made(t, ref(white))
 	l := lookAt(t, m, NewDirect(base, api.Req{Op: api.Write, New: ref(now)}, h))
-	l.step(watch.Load(base+1), false)
-	l.stored(base+1, watch.Field(ref(tagged)))
+	l.Step(watch.Load(base+1), false)
+	l.Stored(base+1, watch.Field(ref(tagged)))
 	l.shaded(ref(white), h)
-	l.stored(base+1, watch.Field(scalar(3)))
+	l.Stored(base+1, watch.Field(scalar(3)))
 	l.shaded(ref(now), h)
-	l.stored(base+1, watch.Junk)
-	l.stores(base+1, ref(now))
+	l.Stored(base+1, watch.Junk)
+	l.Stores(base+1, ref(now))
 }
 
 // P12.1: the steps of a Shade are all of them, those that it does once more because another one was faster, too.
@@ -162,26 +162,26 @@ func TestWriteShadesToTheEnd(t *testing.T) {
 	h := How{Shade: true, Mark: 1}
 	m := made(t, ref(white))
 	l := lookAt(t, m, NewDirect(base, api.Req{Op: api.Write, New: scalar(5)}, h))
-	l.step(watch.Load(base+1), false)
-	l.step(watch.Load(white), false)
-	l.stored(white, watch.Object(0, 2, 0)+api.TagTagged<<9)
-	l.step(watch.CAS(white, false), false)
-	l.step(watch.Load(white), false)
+	l.Step(watch.Load(base+1), false)
+	l.Step(watch.Load(white), false)
+	l.Stored(white, watch.Object(0, 2, 0)+api.TagTagged<<9)
+	l.Step(watch.CAS(white, false), false)
+	l.Step(watch.Load(white), false)
 	grey := watch.Grey(0, 2, 1, 0) + api.TagTagged<<9
-	l.want[white] = grey
-	l.step(watch.CAS(white, true), false)
+	l.Want[white] = grey
+	l.Step(watch.CAS(white, true), false)
 	for k := range 5 {
-		l.step(watch.Load(api.AtGrey), false)
-		l.want[white] = grey + listed<<12
-		l.step(watch.Store(white), false)
-		l.stored(api.AtGrey, watch.Top(listed, 20+k))
-		l.step(watch.CAS(api.AtGrey, false), false)
+		l.Step(watch.Load(api.AtGrey), false)
+		l.Want[white] = grey + listed<<12
+		l.Step(watch.Store(white), false)
+		l.Stored(api.AtGrey, watch.Top(listed, 20+k))
+		l.Step(watch.CAS(api.AtGrey, false), false)
 	}
-	l.step(watch.Load(api.AtGrey), false)
-	l.step(watch.Store(white), false)
-	l.want[api.AtGrey] = watch.Top(white, 25)
-	l.step(watch.CAS(api.AtGrey, true), false)
-	l.stores(base+1, scalar(5))
+	l.Step(watch.Load(api.AtGrey), false)
+	l.Step(watch.Store(white), false)
+	l.Want[api.AtGrey] = watch.Top(white, 25)
+	l.Step(watch.CAS(api.AtGrey, true), false)
+	l.Stores(base+1, scalar(5))
 }
 
 // swapValues are some of those for New.
@@ -195,10 +195,10 @@ func TestSwapOfWhatIsExpected(t *testing.T) {
 		for _, w := range append(swapValues(), v) {
 			for _, h := range hows() {
 				l := lookAt(t, made(t, v), NewDirect(base, api.Req{Op: api.Swap, Exp: v, New: w}, h))
-				l.step(watch.Load(base+1), true)
+				l.Step(watch.Load(base+1), true)
 				l.shaded(v, h)
 				l.shaded(w, h)
-				l.swaps(base+1, w)
+				l.Swaps(base+1, w)
 			}
 		}
 	}
@@ -215,19 +215,19 @@ func TestSwapOfSomethingElse(t *testing.T) {
 				for _, h := range hows() {
 					l := lookAt(t, made(t, v), NewDirect(base, api.Req{Op: api.Swap, Exp: exp, New: w}, h))
 					if !h.Canon || v.Kind != api.Ref || v.N == 0 || exp.Kind != api.Ref || exp.N == 0 {
-						l.last(watch.Load(base+1), true, api.Out{})
+						l.Last(watch.Load(base+1), true, api.Out{})
 						continue
 					}
-					l.step(watch.Load(base+1), true)
-					l.step(watch.Load(v.N), false)
+					l.Step(watch.Load(base+1), true)
+					l.Step(watch.Load(v.N), false)
 					if homeOf(v.N) != homeOf(exp.N) {
-						l.last(watch.Load(exp.N), false, api.Out{})
+						l.Last(watch.Load(exp.N), false, api.Out{})
 						continue
 					}
-					l.step(watch.Load(exp.N), false)
+					l.Step(watch.Load(exp.N), false)
 					l.shaded(v, h)
 					l.shaded(w, h)
-					l.swaps(base+1, w)
+					l.Swaps(base+1, w)
 				}
 			}
 		}
@@ -241,7 +241,7 @@ func TestSwapOfNoValue(t *testing.T) {
 	} {
 		for _, v := range []api.Val{scalar(5), scalar(1<<61 - 1), ref(white), {Kind: 3, N: 5}, scalar(0)} {
 			l := lookAt(t, made(t, v), NewDirect(base, api.Req{Op: api.Swap, Exp: exp, New: scalar(6)}, How{}))
-			l.last(watch.Load(base+1), true, api.Out{})
+			l.Last(watch.Load(base+1), true, api.Out{})
 		}
 	}
 }
@@ -251,8 +251,8 @@ func TestSwapOfFrozen(t *testing.T) {
 	m := made(t, scalar(0))
 	m.Store(base+1, watch.Field(scalar(5))|frozen)
 	l := lookAt(t, m, NewDirect(base, api.Req{Op: api.Swap, Exp: scalar(5), New: scalar(6)}, How{}))
-	l.step(watch.Load(base+1), true)
-	l.swaps(base+1, scalar(6))
+	l.Step(watch.Load(base+1), true)
+	l.Swaps(base+1, scalar(6))
 }
 
 // P12.1: a CAS that finds another word is no hit, and the Swap goes on at its step 1, which is one: by what the field has then.
@@ -270,22 +270,22 @@ func TestSwapGoesOn(t *testing.T) {
 			l := lookAt(t, made(t, exp), NewDirect(base, api.Req{Op: api.Swap, Exp: exp, New: with}, h))
 			has := exp
 			for _, try := range tries {
-				l.step(watch.Load(base+1), true)
+				l.Step(watch.Load(base+1), true)
 				l.shaded(exp, h)
 				l.shaded(with, h)
-				l.stored(base+1, watch.Field(try[0])|frozen)
-				l.fails(base + 1)
+				l.Stored(base+1, watch.Field(try[0])|frozen)
+				l.Fails(base + 1)
 				has = try[1]
-				l.stored(base+1, watch.Field(has))
+				l.Stored(base+1, watch.Field(has))
 			}
 			if has != exp {
-				l.last(watch.Load(base+1), true, api.Out{})
+				l.Last(watch.Load(base+1), true, api.Out{})
 				continue
 			}
-			l.step(watch.Load(base+1), true)
+			l.Step(watch.Load(base+1), true)
 			l.shaded(exp, h)
 			l.shaded(with, h)
-			l.swaps(base+1, with)
+			l.Swaps(base+1, with)
 		}
 	}
 }
@@ -296,26 +296,26 @@ func TestSwapGoesOnWithCanon(t *testing.T) {
 		h := How{Shade: shade, Canon: true, Mark: 1}
 		m := made(t, ref(old))
 		l := lookAt(t, m, NewDirect(base, api.Req{Op: api.Swap, Exp: ref(old), New: scalar(6)}, h))
-		l.step(watch.Load(base+1), true)
+		l.Step(watch.Load(base+1), true)
 		l.shaded(ref(old), h)
-		l.stored(base+1, watch.Field(ref(now)))
-		l.fails(base + 1)
-		l.step(watch.Load(base+1), true)
-		l.step(watch.Load(now), false)
-		l.stored(old, watch.Moved(0, 3, 1, now)) // a Shade has taken its link away
-		l.step(watch.Load(old), false)
+		l.Stored(base+1, watch.Field(ref(now)))
+		l.Fails(base + 1)
+		l.Step(watch.Load(base+1), true)
+		l.Step(watch.Load(now), false)
+		l.Stored(old, watch.Moved(0, 3, 1, now)) // a Shade has taken its link away
+		l.Step(watch.Load(old), false)
 		l.shaded(ref(now), h)
-		l.stored(base+1, watch.Field(ref(elder)))
-		l.fails(base + 1)
-		l.step(watch.Load(base+1), true)
-		l.step(watch.Load(elder), false)
-		l.step(watch.Load(old), false)
+		l.Stored(base+1, watch.Field(ref(elder)))
+		l.Fails(base + 1)
+		l.Step(watch.Load(base+1), true)
+		l.Step(watch.Load(elder), false)
+		l.Step(watch.Load(old), false)
 		l.shaded(ref(elder), h)
-		l.stored(base+1, watch.Field(ref(white)))
-		l.fails(base + 1)
-		l.step(watch.Load(base+1), true)
-		l.step(watch.Load(white), false)
-		l.last(watch.Load(old), false, api.Out{})
+		l.Stored(base+1, watch.Field(ref(white)))
+		l.Fails(base + 1)
+		l.Step(watch.Load(base+1), true)
+		l.Step(watch.Load(white), false)
+		l.Last(watch.Load(old), false, api.Out{})
 	}
 }
 
@@ -324,39 +324,39 @@ func TestSwapAtItsSteps(t *testing.T) {
 	h := How{Canon: true}
 	r := api.Req{Op: api.Swap, Exp: ref(now), New: scalar(6)}
 	l := lookAt(t, made(t, ref(white)), NewDirect(base, r, h))
-	l.step(watch.Load(base+1), true)
-	l.stored(white, watch.Moved(0, 2, 0, now))
-	l.step(watch.Load(white), false)
-	l.stored(white, watch.Object(0, 2, 0))
-	l.step(watch.Load(now), false)
-	l.swaps(base+1, scalar(6))
+	l.Step(watch.Load(base+1), true)
+	l.Stored(white, watch.Moved(0, 2, 0, now))
+	l.Step(watch.Load(white), false)
+	l.Stored(white, watch.Object(0, 2, 0))
+	l.Step(watch.Load(now), false)
+	l.Swaps(base+1, scalar(6))
 
 	l = lookAt(t, made(t, ref(white)), NewDirect(base, r, h))
-	l.step(watch.Load(base+1), true)
-	l.step(watch.Load(white), false)
-	l.stored(white, watch.Moved(0, 2, 0, now))
-	l.last(watch.Load(now), false, api.Out{})
+	l.Step(watch.Load(base+1), true)
+	l.Step(watch.Load(white), false)
+	l.Stored(white, watch.Moved(0, 2, 0, now))
+	l.Last(watch.Load(now), false, api.Out{})
 
 	l = lookAt(t, made(t, ref(white)), NewDirect(base, r, h))
-	l.step(watch.Load(base+1), true)
-	l.stored(base+1, watch.Field(ref(now)))
-	l.step(watch.Load(white), false)
-	l.last(watch.Load(now), false, api.Out{})
+	l.Step(watch.Load(base+1), true)
+	l.Stored(base+1, watch.Field(ref(now)))
+	l.Step(watch.Load(white), false)
+	l.Last(watch.Load(now), false, api.Out{})
 }
 
 // P12.1: all bits of the field's word are held against what was seen.
 func TestSwapHoldsAllBits(t *testing.T) {
 	for bit := range 64 {
 		l := lookAt(t, made(t, scalar(5)), NewDirect(base, api.Req{Op: api.Swap, Exp: scalar(5), New: scalar(6)}, How{}))
-		l.step(watch.Load(base+1), true)
-		l.stored(base+1, watch.Field(scalar(5))^1<<bit)
-		l.fails(base + 1)
+		l.Step(watch.Load(base+1), true)
+		l.Stored(base+1, watch.Field(scalar(5))^1<<bit)
+		l.Fails(base + 1)
 		if 1<<bit != frozen {
-			l.last(watch.Load(base+1), true, api.Out{})
+			l.Last(watch.Load(base+1), true, api.Out{})
 			continue
 		}
-		l.step(watch.Load(base+1), true)
-		l.swaps(base+1, scalar(6))
+		l.Step(watch.Load(base+1), true)
+		l.Swaps(base+1, scalar(6))
 	}
 }
 
@@ -372,12 +372,12 @@ func TestNewIsCut(t *testing.T) {
 			for _, h := range []How{{}, {Shade: true, Mark: 1}} {
 				l := lookAt(t, made(t, scalar(5)), NewDirect(base, api.Req{Op: api.Write, New: w}, h))
 				if h.Shade {
-					l.step(watch.Load(base+1), false)
+					l.Step(watch.Load(base+1), false)
 				}
-				l.stores(base+1, v)
+				l.Stores(base+1, v)
 				l = lookAt(t, made(t, scalar(5)), NewDirect(base, api.Req{Op: api.Swap, Exp: scalar(5), New: w}, h))
-				l.step(watch.Load(base+1), true)
-				l.swaps(base+1, v)
+				l.Step(watch.Load(base+1), true)
+				l.Swaps(base+1, v)
 			}
 		}
 	}
@@ -391,7 +391,7 @@ func TestOtherOps(t *testing.T) {
 		}
 		m := made(t, ref(white))
 		r := api.Req{Op: op, At: base, Exp: ref(white), New: ref(now)}
-		atOnce(t, m, NewDirect(base, r, How{Shade: true, Canon: true, Fix: true, Mark: 1}), api.Out{})
+		watch.AtOnce(t, m, NewDirect(base, r, How{Shade: true, Canon: true, Fix: true, Mark: 1}), api.Out{})
 	}
 }
 
@@ -484,10 +484,10 @@ func TestNewDoesNothing(t *testing.T) {
 		t.Error("a new machine does an access")
 	}
 	l := lookAt(t, m, x)
-	l.last(watch.Load(base+1), true, api.Out{V: ref(white)})
+	l.Last(watch.Load(base+1), true, api.Out{V: ref(white)})
 	l = lookAt(t, m, y)
-	l.step(watch.Load(base), false)
-	l.last(watch.Load(base+1), true, api.Out{V: ref(white)})
+	l.Step(watch.Load(base), false)
+	l.Last(watch.Load(base+1), true, api.Out{V: ref(white)})
 }
 
 // R1: of a field that the memory does not have each step is still one access: a Read tells nought, a Write is done, a Swap of something else than nought too; one of nought goes on for ever, as its CAS is a trap.
@@ -543,20 +543,20 @@ func TestReferencesThatAreNotThere(t *testing.T) {
 	}
 	m := made(t, ref(1<<61-1))
 	l := lookAt(t, m, NewDirect(base, api.Req{Op: api.Read}, How{Fix: true}))
-	watch.Run(t, l.x, m)
-	l.told(false, api.Out{V: ref(1<<61 - 1)})
+	watch.Run(t, l.X, m)
+	l.Told(false, api.Out{V: ref(1<<61 - 1)})
 }
 
 // R1: machines that nobody made are done, with nothing.
 func TestMadeByNobody(t *testing.T) {
 	m := made(t, ref(white))
-	atOnce(t, m, &Direct{}, api.Out{})
-	atOnce(t, m, &Plain{}, api.Out{})
-	atOnce(t, m, sameTells{&Same{}}, api.Out{})
+	watch.AtOnce(t, m, &Direct{}, api.Out{})
+	watch.AtOnce(t, m, &Plain{}, api.Out{})
+	watch.AtOnce(t, m, sameTells{&Same{}}, api.Out{})
 }
 
 // copyOf is a copy of a machine.
-func copyOf(x machine) machine {
+func copyOf(x watch.Accessor) watch.Accessor {
 	switch x := x.(type) {
 	case *Direct:
 		y := *x
@@ -574,14 +574,14 @@ func copyOf(x machine) machine {
 // A copy of a machine goes its own way, at each step of it: also if the machine has done the same steps already.
 func TestCopiesGoTheirOwnWay(t *testing.T) {
 	swap := api.Req{Op: api.Swap, At: base, Exp: ref(old), New: ref(white)}
-	for name, begin := range map[string]func() machine{
-		"a Read": func() machine { return NewDirect(base, api.Req{Op: api.Read}, How{Fix: true}) },
-		"a Write": func() machine {
+	for name, begin := range map[string]func() watch.Accessor{
+		"a Read": func() watch.Accessor { return NewDirect(base, api.Req{Op: api.Read}, How{Fix: true}) },
+		"a Write": func() watch.Accessor {
 			return NewDirect(base, api.Req{Op: api.Write, New: ref(white)}, How{Shade: true, Mark: 1})
 		},
-		"a Swap":       func() machine { return NewDirect(base, swap, How{Shade: true, Canon: true, Mark: 1}) },
-		"a Plain Swap": func() machine { return NewPlain(swap, api.Env{Mode: api.ModeRoots, Mark: 1}) },
-		"a Same":       func() machine { return sameTells{NewSame(old, elder)} },
+		"a Swap":       func() watch.Accessor { return NewDirect(base, swap, How{Shade: true, Canon: true, Mark: 1}) },
+		"a Plain Swap": func() watch.Accessor { return NewPlain(swap, api.Env{Mode: api.ModeRoots, Mark: 1}) },
+		"a Same":       func() watch.Accessor { return sameTells{NewSame(old, elder)} },
 	} {
 		m := made(t, ref(old))
 		all := watch.Run(t, begin(), m)

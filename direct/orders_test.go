@@ -18,7 +18,7 @@ type job struct {
 	plain bool
 }
 
-func (j job) begin() machine {
+func (j job) begin() watch.Accessor {
 	if !j.plain {
 		return NewDirect(base, j.r, j.h)
 	}
@@ -36,7 +36,7 @@ func (j job) field() int { return base + 1 + j.r.Field }
 type actor struct {
 	todo   []job
 	job    job
-	x      machine // nil: none is under way
+	x      watch.Accessor // nil: none is under way
 	hits   int
 	saw    api.Val // what the field had ahead of the last hit
 	loaded api.Val // what it had when it was loaded last
@@ -55,21 +55,11 @@ type play struct {
 	words  []uint64 // as all words were at the beginning
 	yes    int      // how many Swaps are done
 	since  int      // steps since a job ended
-	seen   seen
+	seen   *seen    // one for all plays
 }
 
 // seen tells whether plays had what they are for: how many Swaps were done, found something else at once, and behind a CAS that had found another word; how many such CAS there were; how many Reads and Writes; how many Writes with Shade laid New down where the field had something else by then than they had seen.
 type seen struct{ yes, no, late, fails, reads, writes, blind int }
-
-func (s *seen) add(o seen) {
-	s.yes += o.yes
-	s.no += o.no
-	s.late += o.late
-	s.fails += o.fails
-	s.reads += o.reads
-	s.writes += o.writes
-	s.blind += o.blind
-}
 
 func (s *seen) check(t *testing.T) {
 	t.Helper()
@@ -81,8 +71,8 @@ func (s *seen) check(t *testing.T) {
 }
 
 // begun is a play of actors with these jobs, on fields that have that.
-func begun(t *testing.T, fields [3]api.Val, todo ...[]job) *play {
-	p := &play{m: made(t, fields[0]), fields: fields}
+func begun(t *testing.T, s *seen, fields [3]api.Val, todo ...[]job) *play {
+	p := &play{m: made(t, fields[0]), fields: fields, seen: s}
 	for k, v := range fields {
 		p.m.Store(base+1+k, watch.Field(v))
 	}
@@ -94,10 +84,10 @@ func begun(t *testing.T, fields [3]api.Val, todo ...[]job) *play {
 	return p
 }
 
-// clone goes its own way; what was seen stays behind.
-func (p *play) clone() *play {
+// Clone goes its own way, but for what is seen.
+func (p *play) Clone() *play {
 	c := *p
-	c.m, c.actors, c.seen = p.m.Clone(), slices.Clone(p.actors), seen{}
+	c.m, c.actors = p.m.Clone(), slices.Clone(p.actors)
 	for i := range c.actors {
 		if a := &c.actors[i]; a.x != nil {
 			a.x = copyOf(a.x)
@@ -106,12 +96,13 @@ func (p *play) clone() *play {
 	return &c
 }
 
-// step is one of the actor i: what is wrong with it, or nothing.
-func (p *play) step(i int) string {
+// Actors is how many there are, Idle whether one has nothing to do any more.
+func (p *play) Actors() int     { return len(p.actors) }
+func (p *play) Idle(i int) bool { return p.actors[i].idle() }
+
+// Step is one of the actor i: what is wrong with it, or nothing.
+func (p *play) Step(i int) string {
 	a := &p.actors[i]
-	if a.idle() {
-		return ""
-	}
 	if a.x == nil {
 		*a = actor{todo: a.todo[1:], job: a.todo[0], x: a.todo[0].begin()}
 	}
@@ -272,8 +263,8 @@ func (p *play) finish() string {
 	return ""
 }
 
-// key is another one of each two plays that go on in other ways: what a machine does next hangs on what its steps have met.
-func (p *play) key() string {
+// Key is another one of each two plays that go on in other ways: what a machine does next hangs on what its steps have met.
+func (p *play) Key() string {
 	k := fmt.Sprint(p.yes, p.since)
 	for at, w := range watch.Words(p.m) {
 		if w != p.words[at] {
@@ -284,35 +275,6 @@ func (p *play) key() string {
 		k += fmt.Sprint("; ", len(a.todo), a.x != nil, a.met, a.again, a.hits > 0, a.saw, a.loaded)
 	}
 	return k
-}
-
-// everyOrder does each order of steps that there is, from here on, and then asks end what is wrong. What orders have come to is not gone on from once more.
-func (p *play) everyOrder(t *testing.T, so []int, come map[string]bool, end func(p *play) string) {
-	key := p.key()
-	if come[key] {
-		return
-	}
-	come[key] = true
-	over := true
-	for i := range p.actors {
-		if p.actors[i].idle() {
-			continue
-		}
-		over = false
-		c := p.clone()
-		order := append(slices.Clone(so), i)
-		if wrong := c.step(i); wrong != "" {
-			t.Fatalf("steps %d: %s", order, wrong)
-		}
-		c.everyOrder(t, order, come, end)
-		p.seen.add(c.seen)
-	}
-	if !over {
-		return
-	}
-	if wrong := end(p); wrong != "" {
-		t.Fatalf("steps %d: %s", so, wrong)
-	}
 }
 
 // Jobs of the first field.
@@ -355,8 +317,8 @@ func TestOneSwapOfSeveral(t *testing.T) {
 			for i := range by.n {
 				todo = append(todo, []job{swapJob(x.exp[i], x.with[i], x.h, by.plain)})
 			}
-			p := begun(t, [3]api.Val{x.has, scalar(1), scalar(2)}, todo...)
-			p.everyOrder(t, nil, map[string]bool{}, func(p *play) string {
+			p := begun(t, &all, [3]api.Val{x.has, scalar(1), scalar(2)}, todo...)
+			watch.EveryOrder(t, p, func(p *play) string {
 				if wrong := p.finish(); wrong != "" {
 					return wrong
 				}
@@ -365,7 +327,6 @@ func TestOneSwapOfSeveral(t *testing.T) {
 				}
 				return ""
 			})
-			all.add(p.seen)
 		}
 	}
 	if all.yes == 0 || all.no == 0 || all.late == 0 || all.fails == 0 {
@@ -391,9 +352,8 @@ func TestEveryOrder(t *testing.T) {
 		{{swapJob(scalar(5), ref(white), How{}, true), swapJob(ref(white), scalar(5), How{}, true)}, {swapJob(scalar(5), ref(now), shade, true)}},
 	} {
 		for _, v := range []api.Val{scalar(5), ref(0), ref(white), ref(now)} {
-			p := begun(t, [3]api.Val{v, scalar(1), ref(black)}, todo...)
-			p.everyOrder(t, nil, map[string]bool{}, (*play).finish)
-			all.add(p.seen)
+			p := begun(t, &all, [3]api.Val{v, scalar(1), ref(black)}, todo...)
+			watch.EveryOrder(t, p, (*play).finish)
 		}
 	}
 	all.check(t)
@@ -404,15 +364,11 @@ func TestManyOrders(t *testing.T) {
 	var all seen
 	for seed := range 90 {
 		r := rand.New(rand.NewSource(int64(seed)))
-		p := begun(t, [3]api.Val{scalar(5), ref(white), ref(0)}, someJobs(r, 2+r.Intn(6), seed%3)...)
-		wrong := p.anyOrder(r)
-		if wrong == "" {
-			wrong = p.finish()
+		p := begun(t, &all, [3]api.Val{scalar(5), ref(white), ref(0)}, someJobs(r, 2+r.Intn(6), seed%3)...)
+		watch.AnyOrder(t, p, (*play).finish, r.Intn)
+		if t.Failed() {
+			t.Fatalf("seed %d", seed)
 		}
-		if wrong != "" {
-			t.Fatalf("seed %d: %s", seed, wrong)
-		}
-		all.add(p.seen)
 	}
 	all.check(t)
 }
@@ -453,18 +409,4 @@ func someJobs(r *rand.Rand, n, kind int) [][]job {
 		todo = append(todo, jobs)
 	}
 	return todo
-}
-
-// anyOrder goes on till all are done.
-func (p *play) anyOrder(r *rand.Rand) string {
-	for k := 0; slices.ContainsFunc(p.actors, func(a actor) bool { return !a.idle() }); k++ {
-		i := r.Intn(len(p.actors))
-		if r.Intn(4) == 0 { // one that goes on alone for a while
-			i = k / 20 % len(p.actors)
-		}
-		if wrong := p.step(i); wrong != "" {
-			return fmt.Sprintf("step %d, of the actor %d: %s", k, i, wrong)
-		}
-	}
-	return ""
 }

@@ -17,7 +17,7 @@ func TestPlainOfNil(t *testing.T) {
 				m := made(t, ref(white))
 				m.Store(0, watch.Object(0, 7, 0))
 				x := NewPlain(api.Req{Op: op, Field: field, Exp: ref(white), New: ref(now)}, api.Env{Mode: mode, Mark: 1})
-				atOnce(t, m, x, api.Out{Code: api.ErrNil})
+				watch.AtOnce(t, m, x, api.Out{Code: api.ErrNil})
 			}
 		}
 	}
@@ -33,7 +33,7 @@ func TestPlainOfNoField(t *testing.T) {
 					m.Store(base, watch.Object(1, count, 1))
 					r := api.Req{Op: op, At: base, Field: field, Exp: ref(white), New: ref(now)}
 					l := lookAt(t, m, NewPlain(r, api.Env{Mode: mode, Mark: 1}))
-					l.last(watch.Load(base), false, api.Out{Code: api.ErrField})
+					l.Last(watch.Load(base), false, api.Out{Code: api.ErrField})
 				}
 			}
 		}
@@ -74,8 +74,8 @@ func TestPlainOfEachMode(t *testing.T) {
 			for _, v := range values() {
 				r := api.Req{Op: api.Read, At: base, Exp: scalar(1), New: scalar(2)}
 				l := lookAt(t, made(t, v), NewPlain(r, e))
-				l.step(watch.Load(base), false)
-				l.last(watch.Load(base+1), true, api.Out{V: v})
+				l.Step(watch.Load(base), false)
+				l.Last(watch.Load(base+1), true, api.Out{V: v})
 				for _, w := range swapValues() {
 					plainWrite(t, v, w, e, h)
 					plainSwap(t, v, v, w, e, h)
@@ -89,43 +89,43 @@ func TestPlainOfEachMode(t *testing.T) {
 func plainWrite(t *testing.T, v, w api.Val, e api.Env, h How) {
 	t.Helper()
 	l := lookAt(t, made(t, v), NewPlain(api.Req{Op: api.Write, At: base, New: w}, e))
-	l.step(watch.Load(base), false)
+	l.Step(watch.Load(base), false)
 	if h.Shade {
-		l.step(watch.Load(base+1), false)
+		l.Step(watch.Load(base+1), false)
 	}
 	l.shaded(v, h)
 	l.shaded(w, h)
-	l.stores(base+1, w)
+	l.Stores(base+1, w)
 }
 
 func plainSwap(t *testing.T, v, exp, w api.Val, e api.Env, h How) {
 	t.Helper()
 	l := lookAt(t, made(t, v), NewPlain(api.Req{Op: api.Swap, At: base, Exp: exp, New: w}, e))
-	l.step(watch.Load(base), false)
+	l.Step(watch.Load(base), false)
 	if v != exp {
-		l.last(watch.Load(base+1), true, api.Out{})
+		l.Last(watch.Load(base+1), true, api.Out{})
 		return
 	}
-	l.step(watch.Load(base+1), true)
+	l.Step(watch.Load(base+1), true)
 	l.shaded(v, h)
 	l.shaded(w, h)
-	l.swaps(base+1, w)
+	l.Swaps(base+1, w)
 }
 
 // P12.2: a Swap whose CAS finds another word goes on at the Direct's step 1: the header is not asked once more.
 func TestPlainSwapGoesOn(t *testing.T) {
 	m := made(t, scalar(5))
 	l := lookAt(t, m, NewPlain(api.Req{Op: api.Swap, At: base, Exp: scalar(5), New: scalar(6)}, api.Env{}))
-	l.step(watch.Load(base), false)
-	l.stored(base, 0)
+	l.Step(watch.Load(base), false)
+	l.Stored(base, 0)
 	for range 3 {
-		l.step(watch.Load(base+1), true)
-		l.stored(base+1, watch.Field(scalar(7)))
-		l.fails(base + 1)
-		l.stored(base+1, watch.Field(scalar(5)))
+		l.Step(watch.Load(base+1), true)
+		l.Stored(base+1, watch.Field(scalar(7)))
+		l.Fails(base + 1)
+		l.Stored(base+1, watch.Field(scalar(5)))
 	}
-	l.step(watch.Load(base+1), true)
-	l.swaps(base+1, scalar(6))
+	l.Step(watch.Load(base+1), true)
+	l.Swaps(base+1, scalar(6))
 }
 
 // P12.2: the header that counts is that of the step 1; an object that was moved is accessed where it stood.
@@ -135,17 +135,17 @@ func TestPlainAtItsSteps(t *testing.T) {
 	x := NewPlain(api.Req{Op: api.Read, At: base}, api.Env{})
 	m.Store(base, watch.Moved(0, 1, 0, now))
 	l := lookAt(t, m, x)
-	l.step(watch.Load(base), false)
-	l.stored(base+1, watch.Field(scalar(6)))
-	l.last(watch.Load(base+1), true, api.Out{V: scalar(6)})
+	l.Step(watch.Load(base), false)
+	l.Stored(base+1, watch.Field(scalar(6)))
+	l.Last(watch.Load(base+1), true, api.Out{V: scalar(6)})
 
 	m = made(t, scalar(5))
 	m.Store(base, 0)
 	x = NewPlain(api.Req{Op: api.Read, At: base}, api.Env{})
 	l = lookAt(t, m, x)
-	l.last(watch.Load(base), false, api.Out{Code: api.ErrField})
-	l.stored(base, watch.Object(0, 1, 0))
-	l.told(false, api.Out{Code: api.ErrField})
+	l.Last(watch.Load(base), false, api.Out{Code: api.ErrField})
+	l.Stored(base, watch.Object(0, 1, 0))
+	l.Told(false, api.Out{Code: api.ErrField})
 }
 
 // P12.2: of another Op the Direct has no steps: it is done with its first one, with nothing told.
@@ -156,7 +156,7 @@ func TestPlainOfOtherOps(t *testing.T) {
 		}
 		r := api.Req{Op: op, At: base, Exp: ref(white), New: ref(now)}
 		l := lookAt(t, made(t, ref(white)), NewPlain(r, api.Env{Mode: api.ModeShade, Mark: 1}))
-		l.last(watch.Load(base), false, api.Out{})
+		l.Last(watch.Load(base), false, api.Out{})
 	}
 }
 
@@ -207,9 +207,9 @@ func TestPlainOfWhatIsNotThere(t *testing.T) {
 func TestSameAtOnce(t *testing.T) {
 	for _, n := range append(edges.Numbers(), base, white, old, free) {
 		m := made(t, scalar(5))
-		atOnce(t, m, sameTells{NewSame(n, n)}, api.Out{Yes: true})
-		atOnce(t, m, sameTells{NewSame(0, n)}, api.Out{Yes: n == 0})
-		atOnce(t, m, sameTells{NewSame(n, 0)}, api.Out{Yes: n == 0})
+		watch.AtOnce(t, m, sameTells{NewSame(n, n)}, api.Out{Yes: true})
+		watch.AtOnce(t, m, sameTells{NewSame(0, n)}, api.Out{Yes: n == 0})
+		watch.AtOnce(t, m, sameTells{NewSame(n, 0)}, api.Out{Yes: n == 0})
 	}
 }
 
@@ -222,8 +222,8 @@ func TestSame(t *testing.T) {
 				continue
 			}
 			l := lookAt(t, made(t, scalar(5)), sameTells{NewSame(a, b)})
-			l.step(watch.Load(a), false)
-			l.last(watch.Load(b), false, api.Out{Yes: homeOf(a) == homeOf(b)})
+			l.Step(watch.Load(a), false)
+			l.Last(watch.Load(b), false, api.Out{Yes: homeOf(a) == homeOf(b)})
 		}
 	}
 }
@@ -232,23 +232,23 @@ func TestSame(t *testing.T) {
 func TestSameAtItsSteps(t *testing.T) {
 	m := made(t, scalar(5))
 	l := lookAt(t, m, sameTells{NewSame(white, now)})
-	l.stored(white, watch.Moved(0, 2, 0, now))
-	l.step(watch.Load(white), false)
-	l.stored(white, watch.Object(0, 2, 0))
-	l.last(watch.Load(now), false, api.Out{Yes: true})
-	l.stored(now, watch.Moved(0, 2, 0, black))
-	l.told(false, api.Out{Yes: true})
+	l.Stored(white, watch.Moved(0, 2, 0, now))
+	l.Step(watch.Load(white), false)
+	l.Stored(white, watch.Object(0, 2, 0))
+	l.Last(watch.Load(now), false, api.Out{Yes: true})
+	l.Stored(now, watch.Moved(0, 2, 0, black))
+	l.Told(false, api.Out{Yes: true})
 
 	l = lookAt(t, made(t, scalar(5)), sameTells{NewSame(white, now)})
-	l.step(watch.Load(white), false)
-	l.stored(white, watch.Moved(0, 2, 0, now))
-	l.last(watch.Load(now), false, api.Out{})
+	l.Step(watch.Load(white), false)
+	l.Stored(white, watch.Moved(0, 2, 0, now))
+	l.Last(watch.Load(now), false, api.Out{})
 
 	m = made(t, scalar(5))
 	m.Store(now, watch.Moved(0, 3, 0, white))
 	l = lookAt(t, m, sameTells{NewSame(old, white)})
-	l.step(watch.Load(old), false)
-	l.last(watch.Load(white), false, api.Out{})
+	l.Step(watch.Load(old), false)
+	l.Last(watch.Load(white), false, api.Out{})
 }
 
 // R1: of addresses that the memory does not have each is its own.
