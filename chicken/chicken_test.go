@@ -2,7 +2,6 @@ package chicken
 
 import (
 	"math"
-	"slices"
 	"testing"
 
 	"flit/api"
@@ -85,34 +84,12 @@ func TestBelowPrep(t *testing.T) {
 				for _, r := range append(accesses(v), api.Req{At: base}, api.Req{Op: 4, At: base, New: ref(there)}) {
 					for mark := range 2 {
 						e := api.Env{Mode: mode, Mark: mark, Alpha: 5}
-						asPlain(t, made(t, header(tag, copied), v), r, e)
+						watch.Alike(t, made(t, header(tag, copied), v), New(r, e), direct.NewPlain(r, e))
 					}
 				}
 			}
 		}
 	}
-}
-
-// asPlain steps an Access and a Plain, each on a memory of its own.
-func asPlain(t *testing.T, m *mem.Memory, r api.Req, e api.Env) {
-	t.Helper()
-	x, y, n := New(r, e), direct.NewPlain(r, e), m.Clone()
-	for range 40 {
-		count := m.Count()
-		got, want := x.Step(m), y.Step(n)
-		if got != want || x.Hit() != y.Hit() || x.Result() != y.Result() {
-			t.Fatalf("%+v, %+v: %t, %t, %v; a Plain: %t, %t, %v", r, e, got, x.Hit(), x.Result(), want, y.Hit(), y.Result())
-		}
-		if m.Count() != count+1 || m.Traps() != n.Traps() || !slices.Equal(m.Take(), n.Take()) {
-			t.Fatalf("%+v, %+v: the accesses are others", r, e)
-		}
-		if got {
-			watch.CheckWords(t, m, watch.Words(n))
-			watch.CheckDone(t, x, m)
-			return
-		}
-	}
-	t.Errorf("%+v, %+v: it is not done", r, e)
 }
 
 // P13.1: so a tagged object keeps its tag, and what was moved is accessed where it stood, in the last mode below ModePrep; from ModePrep on not.
@@ -141,7 +118,7 @@ func TestMoved(t *testing.T) {
 			for _, r := range accesses(v) {
 				l := lookAt(t, madeMoved(t, v), r, mode)
 				l.Step(watch.Load(base), false)
-				l.direct(copied, r, fixes(mode))
+				l.Direct(copied, r, fixes(mode))
 			}
 		}
 	}
@@ -155,7 +132,7 @@ func TestOtherTags(t *testing.T) {
 				for _, r := range accesses(v) {
 					l := lookAt(t, made(t, header(tag, copied), v), r, mode)
 					l.Step(watch.Load(base), false)
-					l.direct(base, r, fixes(mode))
+					l.Direct(base, r, fixes(mode))
 				}
 			}
 		}
@@ -201,7 +178,7 @@ func TestReadOfTaggedThatIsMoved(t *testing.T) {
 					continue
 				}
 				l.Step(watch.Load(base), false)
-				l.direct(to, r, fixes(mode))
+				l.Direct(to, r, fixes(mode))
 			}
 		}
 	}
@@ -241,7 +218,7 @@ func TestWriteOfTagged(t *testing.T) {
 				l := lookAt(t, made(t, header(api.TagTagged, copied), v), r, mode)
 				l.Step(watch.Load(base), false)
 				l.takes()
-				l.direct(base, r, fixes(mode))
+				l.Direct(base, r, fixes(mode))
 			}
 		}
 	}
@@ -280,7 +257,7 @@ func TestStateIsNotAsked(t *testing.T) {
 		m.Store(copied+1, watch.Field(scalar(5)))
 		l := lookAt(t, m, r, api.ModeClose)
 		l.Step(watch.Load(base), false)
-		l.direct(at, r, false)
+		l.Direct(at, r, false)
 	}
 }
 
@@ -297,10 +274,10 @@ func TestTagThatIsTakenByAnother(t *testing.T) {
 			l.Stored(base, then)
 			l.Fails(base)
 			l.Step(watch.Load(base), false)
-			if then>>9%8 == api.TagTagged {
+			if watch.Tag(then) == api.TagTagged {
 				l.takes()
 			}
-			l.direct(base, r, false)
+			l.Direct(base, r, false)
 		}
 	}
 }
@@ -338,20 +315,19 @@ func TestGoesOnByWhatIsFound(t *testing.T) {
 func (l look) goesOn(r api.Req, mode int) {
 	l.T.Helper()
 	w := l.Want[base]
-	tag, count := w>>9%8, int(w>>4%8)
-	if r.Field >= count {
+	if r.Field >= watch.Count(w) {
 		l.Last(watch.Load(base), false, api.Out{Code: api.ErrField})
 		return
 	}
 	l.Step(watch.Load(base), false)
-	switch tag {
+	switch watch.Tag(w) {
 	case api.TagTagged:
 		l.takes()
-		l.direct(base, r, fixes(mode))
+		l.Direct(base, r, fixes(mode))
 	case api.TagMoved:
-		l.direct(copied, r, fixes(mode))
+		l.Direct(copied, r, fixes(mode))
 	default:
-		l.direct(base, r, fixes(mode))
+		l.Direct(base, r, fixes(mode))
 	}
 }
 
@@ -366,7 +342,7 @@ func TestHeaderIsAskedOnce(t *testing.T) {
 		if tag == api.TagTagged {
 			l.takes()
 		}
-		at := l.home(base)
+		at := l.Home(base)
 		for k := range 3 {
 			l.Stored(base, watch.Tagged(0, 0, 1, k, there))
 			l.Step(watch.Load(at+1), true)
@@ -375,7 +351,7 @@ func TestHeaderIsAskedOnce(t *testing.T) {
 			l.Stored(at+1, watch.Field(scalar(5)))
 		}
 		l.Stored(base, 0)
-		l.direct(at, r, false)
+		l.Direct(at, r, false)
 	}
 }
 
@@ -555,23 +531,8 @@ func TestCopiesGoTheirOwnWay(t *testing.T) {
 				made := made(t, header(tag, copied), ref(old))
 				made.Store(copied+1, watch.Field(ref(old)))
 				r := api.Req{Op: op, At: base, Exp: ref(old), New: ref(there)}
-				all := watch.Run(t, New(r, api.Env{Mode: mode, Mark: 1}), made.Clone())
-				for steps := range all {
-					m := made.Clone()
-					x := New(r, api.Env{Mode: mode, Mark: 1})
-					for range steps {
-						x.Step(m)
-					}
-					y, n := copyOf(x), m.Clone()
-					k := watch.Run(t, x, m)
-					if y.Result() != (api.Out{}) {
-						t.Errorf("the copy tells %v behind %d steps", y.Result(), steps)
-					}
-					if watch.Run(t, y, n) != k || k != all-steps || y.Result() != x.Result() || y.Hit() != x.Hit() {
-						t.Errorf("the copy tells %v, want %v", y.Result(), x.Result())
-					}
-					watch.CheckWords(t, n, watch.Words(m))
-				}
+				begin := func() watch.Accessor { return New(r, api.Env{Mode: mode, Mark: 1}) }
+				watch.CheckCopies(t, made, begin, copyOf)
 			}
 		}
 	}

@@ -90,52 +90,12 @@ func madeMoved(t *testing.T, v api.Val) *mem.Memory {
 	return m
 }
 
-// look looks at an Access's steps, those of a Direct too.
+// look looks at an Access's steps.
 type look struct{ *watch.Look }
 
 func lookAt(t *testing.T, m *mem.Memory, r api.Req, mode int) look {
 	t.Helper()
 	return look{watch.LookAt(t, m, New(r, api.Env{Mode: mode, Mark: 1}))}
-}
-
-func (l look) home(at int) int { return watch.Home(l.Want[at], at) }
-
-// direct is the steps of a Direct of the object at that address, to the end.
-func (l look) direct(at int, r api.Req, fix bool) {
-	l.T.Helper()
-	field := at + 1 + r.Field
-	v := watch.Value(l.Want[field])
-	switch {
-	case r.Op == api.Write:
-		l.Stores(field, r.New)
-	case r.Op == api.Swap:
-		l.swap(field, v, r)
-	case fix && watch.Refers(v):
-		l.Step(watch.Load(field), true)
-		l.Last(watch.Load(v.N), false, api.Out{V: ref(l.home(v.N))})
-	default:
-		l.Last(watch.Load(field), true, api.Out{V: v})
-	}
-}
-
-// swap is that of a field that has v: two references are the same, if they are one object's.
-func (l look) swap(field int, v api.Val, r api.Req) {
-	l.T.Helper()
-	both := watch.Refers(v) && watch.Refers(r.Exp)
-	if v != r.Exp && !both {
-		l.Last(watch.Load(field), true, api.Out{})
-		return
-	}
-	l.Step(watch.Load(field), true)
-	if v != r.Exp {
-		l.Step(watch.Load(v.N), false)
-		if l.home(v.N) != l.home(r.Exp.N) {
-			l.Last(watch.Load(r.Exp.N), false, api.Out{})
-			return
-		}
-		l.Step(watch.Load(r.Exp.N), false)
-	}
-	l.Swaps(field, r.New)
 }
 
 // takes is the CAS that takes the tag away.

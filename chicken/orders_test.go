@@ -3,7 +3,6 @@ package chicken
 import (
 	"fmt"
 	"math/rand"
-	"slices"
 	"testing"
 
 	"flit/api"
@@ -20,10 +19,10 @@ func work(r api.Req, mode int) watch.Work {
 		moves, fix := mode >= api.ModePrep, mode == api.ModeFix
 		for {
 			h := t.Load(r.At)
-			if r.Field < 0 || r.Field >= int(h>>4%8) {
+			if r.Field < 0 || r.Field >= watch.Count(h) {
 				return api.Out{Code: api.ErrField}
 			}
-			tag, link := h>>9%8, int(h>>12%4096)
+			tag, link := watch.Tag(h), watch.Link(h)
 			switch {
 			case moves && tag == api.TagMoved:
 				return t.Direct(link, r, true, fix)
@@ -32,8 +31,8 @@ func work(r api.Req, mode int) watch.Work {
 			case r.Op == api.Read:
 				w := t.Load(r.At + 1 + r.Field)
 				t.Hit = true
-				if g := t.Load(r.At); g>>9%8 == api.TagMoved {
-					return t.Direct(int(g>>12%4096), r, true, fix)
+				if g := t.Load(r.At); watch.Tag(g) == api.TagMoved {
+					return t.Direct(watch.Link(g), r, true, fix)
 				}
 				return api.Out{V: watch.Value(w)}
 			}
@@ -49,427 +48,138 @@ func begin(r api.Req, mode int) watch.Beside {
 	return watch.Beside{X: New(r, api.Env{Mode: mode, Mark: 1}), Work: work(r, mode)}
 }
 
-// fields is how many each thing of a play has.
-const fields = 2
+// way is what a scene asks of Chicken.
+type way struct{}
 
-// thing is an object of a play, and the cell of its copy.
-type thing struct{ at, to int }
+func (way) Begin(r api.Req, mode int) watch.Beside     { return begin(r, mode) }
+func (way) Copy(x watch.Accessor) watch.Accessor       { return copyOf(x) }
+func (way) Place(s *watch.Scene, thing, field int) int { return s.Home(thing) + 1 + field }
 
-// things are those of all plays. A reference to one is said by where it is at first.
-var things = [3]thing{{8, 24}, {12, 28}, {16, 32}}
-
-// original is a value with which a reference says where its object is at first.
-func original(v api.Val) api.Val {
-	for _, x := range things {
-		if v == ref(x.to) {
-			return ref(x.at)
-		}
-	}
-	return v
+// Prep tags (chapter 20).
+func (way) Prep(t *watch.Tale, x watch.Thing) {
+	h := t.Load(x.At)
+	t.Store(x.To, h)
+	t.Store(x.At, h+api.TagTagged<<9+uint64(x.To)<<12)
 }
 
-// job is an access of a thing.
-type job struct {
-	op, thing, field int
-	exp, with        api.Val
-}
-
-// actor does jobs, one behind the other, each in the mode that is asked for when it begins.
-type actor struct {
-	todo []job
-	job  job
-	r    api.Req // what the job asks for
-	mode int
-	b    watch.Beside // X is nil: none is under way
-	hits int
-	saw  api.Val // what the field had ahead of the last hit
-	said api.Val // as its word said it, at the last Load of it
-}
-
-func (a *actor) busy() bool { return a.b.X != nil }
-
-// play is actors on things that a collector moves, of these the first few, and what each field must have at each moment.
-type play struct {
-	m      *mem.Memory
-	actors []actor
-	moves  int
-	met    []uint64 // what the collector's accesses so far answered
-	fields [len(things)][fields]api.Val
-	stays  [len(things)]bool // a writer has taken its tag away
-	since  int               // steps of actors since a job ended
-	seen   *seen             // one for all plays
-}
-
-// seen tells whether plays had what they are for: how often a tag was taken away, and a CAS of the header found another one; how many Reads of tagged objects were done, and how many went on at the copy; how many accesses went to a copy at once; how often a CAS of a field found another word; how many Swaps were done, were not, and were done of an address that is not the expected one; how many things were moved, and stayed.
-type seen struct{ taken, lost, tagged, late, copies, fails, yes, no, canon, moved, stayed int }
-
-func (s *seen) check(t *testing.T) {
-	t.Helper()
-	for _, n := range []int{s.taken, s.lost, s.tagged, s.late, s.copies, s.fails, s.yes, s.no, s.canon, s.moved, s.stayed} {
-		if n == 0 {
-			t.Errorf("some case was never met: %+v", *s)
-		}
-	}
-}
-
-// begun is a play of actors with these jobs, on things whose fields have that, of which the first few are moved.
-func begun(t *testing.T, s *seen, moves int, has [len(things)][fields]api.Val, todo ...[]job) *play {
-	t.Helper()
-	m, e := mem.New(40)
-	if e != api.OK {
-		t.Fatalf("mem.New: error %d", e)
-	}
-	p := &play{m: m, moves: moves, fields: has, seen: s}
-	for i, x := range things {
-		m.Store(x.at, watch.Object(0, fields, 1))
-		for k, v := range has[i] {
-			m.Store(x.at+1+k, watch.Field(v))
-		}
-	}
-	for _, l := range todo {
-		p.actors = append(p.actors, actor{todo: l})
-	}
-	m.Take()
-	return p
-}
-
-// collect is what a collector does with things while threads go on (chapters 20 to 22), and, in mode, which one it asks for ahead of the next access.
-func (p *play) collect(mode *int) watch.Work {
-	return func(t *watch.Tale) api.Out {
-		l := things[:p.moves]
-		*mode = api.ModeSweep
-		t.Load(api.AtPhase)
-		*mode = api.ModePrep
-		for _, x := range l {
-			h := t.Load(x.at)
-			t.Store(x.to, h)
-			t.Store(x.at, h+api.TagTagged<<9+uint64(x.to)<<12)
-		}
-		*mode = api.ModeCopy
-		for _, x := range l {
-			copyThing(t, x)
-		}
-		*mode = api.ModeClose
-		t.Load(api.AtPhase)
-		*mode = api.ModeFix
-		for _, x := range things {
-			fixFields(t, x.at)
-			fixFields(t, x.to)
-		}
-		*mode = api.ModePlain
-		t.Load(api.AtPhase)
-		return api.Out{}
-	}
-}
-
-// copyThing copies the fields, and lets the copy count, if the tag is still there.
-func copyThing(t *watch.Tale, x thing) {
-	h := t.Load(x.at)
-	if h>>9%8 != api.TagTagged {
+// Move copies the fields, and lets the copy count, if the tag is still there (chapter 21).
+func (way) Move(t *watch.Tale, x watch.Thing, closes bool) {
+	if closes {
 		return
 	}
-	for k := range fields {
-		t.Store(x.to+1+k, t.Load(x.at+1+k))
-	}
-	t.CAS(x.at, h, watch.Moved(0, fields, 1, x.to))
-}
-
-// fixFields lets what refers to an object that was moved refer to its copy.
-func fixFields(t *watch.Tale, at int) {
-	h := t.Load(at)
-	if h%4 != api.CellObject || h>>9%8 == api.TagMoved {
+	h := t.Load(x.At)
+	if watch.Tag(h) != api.TagTagged {
 		return
 	}
-	for k := range fields {
-		w := t.Load(at + 1 + k)
-		v := watch.Value(w)
-		if !watch.Refers(v) {
-			continue
-		}
-		if n := watch.Home(t.Load(v.N), v.N); n != v.N {
-			t.CAS(at+1+k, w, watch.Field(ref(n)))
-		}
+	for k := range watch.Fields {
+		t.Store(x.To+1+k, t.Load(x.At+1+k))
 	}
+	t.CAS(x.At, h, watch.Moved(0, watch.Fields, 1, x.To))
 }
 
-// tale is where the collector stands, and which mode it asks for.
-func (p *play) tale() (*watch.Tale, int) {
-	var mode int
-	t := watch.Tell(p.collect(&mode), p.met)
-	return t, mode
-}
-
-// Clone goes its own way, but for what is seen.
-func (p *play) Clone() *play {
-	c := *p
-	c.m, c.actors = p.m.Clone(), slices.Clone(p.actors)
-	for i := range c.actors {
-		if a := &c.actors[i]; a.busy() {
-			a.b.X = copyOf(a.b.X)
-		}
-	}
-	return &c
-}
-
-// Actors is how many there are: the last one is the collector.
-func (p *play) Actors() int { return len(p.actors) + 1 }
-
-// Idle tells whether an actor has nothing to do any more. The collector waits while a job is under way that was begun in another mode than it asks for.
-func (p *play) Idle(i int) bool {
-	if i < len(p.actors) {
-		return !p.actors[i].busy() && len(p.actors[i].todo) == 0
-	}
-	t, mode := p.tale()
-	return t.Next == nil || slices.ContainsFunc(p.actors, func(a actor) bool { return a.busy() && a.mode != mode })
-}
-
-// Step is one of the actor i: what is wrong with it, or nothing.
-func (p *play) Step(i int) string {
-	if i == len(p.actors) {
-		t, _ := p.tale()
-		p.met = append(slices.Clip(p.met), t.Next(p.m))
-		return p.check()
-	}
-	a := &p.actors[i]
-	if !a.busy() {
-		p.begin(a)
-	}
-	did, done, wrong := a.b.Step(p.m)
-	if wrong == "" {
-		wrong = p.follow(a, did)
-	}
-	if wrong == "" && done {
-		wrong = p.told(a, did)
-	}
-	if p.since++; p.since > 48*len(p.actors) {
-		wrong = fmt.Sprintf("no job ended in %d steps", p.since)
-	}
-	if wrong != "" {
-		return fmt.Sprintf("%+v in mode %d: %v, done: %t: %s", a.r, a.mode, did, done, wrong)
-	}
-	if done {
-		p.since = 0
-		*a = actor{todo: a.todo}
-	}
-	return p.check()
-}
-
-// begin lets an actor begin its next job. In ModeFix, and behind it, its references are fixed.
-func (p *play) begin(a *actor) {
-	_, mode := p.tale()
-	say := func(v api.Val) api.Val {
-		if watch.Refers(v) && (mode == api.ModeFix || mode == api.ModePlain) {
-			v.N = watch.Home(watch.Word(p.m, v.N), v.N)
-		}
-		return v
-	}
-	j := a.todo[0]
-	r := api.Req{Op: j.op, At: say(ref(things[j.thing].at)).N, Field: j.field, Exp: say(j.exp), New: say(j.with)}
-	*a = actor{todo: a.todo[1:], job: j, r: r, mode: mode, b: begin(r, mode)}
-}
-
-// word is that of a field, where its thing is now.
-func (p *play) word(thing, field int) int { return p.home(thing) + 1 + field }
-
-func (p *play) home(thing int) int {
-	at := things[thing].at
-	return watch.Home(watch.Word(p.m, at), at)
-}
-
-// follow does with the fields what an access of the actor did.
-func (p *play) follow(a *actor, did api.Access) string {
-	j := a.job
-	at, f := things[j.thing].at, &p.fields[j.thing][j.field]
-	if a.b.X.Hit() {
-		a.hits++
-		a.saw = *f
-	}
-	if p.m.Traps() != 0 {
-		return "it is a trap"
-	}
-	tag := watch.Word(p.m, at) >> 9 % 8
+// Did: who writes to a tagged object takes the tag away first, and then it stays.
+func (way) Did(s *watch.Scene, a *watch.Actor, did api.Access, done bool) string {
+	thing := a.Job.Thing
+	at := s.Things[thing].At
+	tag := watch.Tag(watch.Word(s.M, at))
+	hit := a.Access.X.Hit()
 	switch {
-	case did.Op == 1:
-		if len(a.b.Met) == 1 && tag == api.TagMoved && did.At == at {
-			p.seen.copies++
-		}
-		if a.b.X.Hit() {
-			a.said = watch.Value(watch.Word(p.m, did.At))
-		}
 	case did == watch.CAS(at, false):
-		p.seen.lost++
+		s.Tally["a tag that another has taken"]++
 	case did == watch.CAS(at, true):
-		p.seen.taken++
-		if p.stays[j.thing] {
+		s.Tally["a tag that is taken"]++
+		if s.Stays[thing] {
 			return "the object has stayed already"
 		}
-		p.stays[j.thing] = true
-	case did.Op == 3 && !did.OK:
-		p.seen.fails++
-	case did.At != p.word(j.thing, j.field):
-		return "the field is elsewhere"
-	case tag == api.TagTagged && a.mode >= api.ModeCopy:
+		s.Stays[thing] = true
+	case did.Op != 1 && did.OK && tag == api.TagTagged && a.Mode >= api.ModeCopy:
 		return "the object has its tag still"
-	default:
-		*f = j.with
+	case did == watch.Load(at) && len(a.Access.Met) == 1 && tag == api.TagMoved:
+		s.Tally["an object that was moved"]++
+	case did == watch.Load(at) && done:
+		s.Tally["a Read of a tagged object"]++
+	case did.Op == 1 && hit && a.Hits > 1 && a.Job.Op == api.Read:
+		s.Tally["a Read that goes on at the copy"]++
 	}
 	return ""
 }
 
-// told is whether a job that is done had the result that it would have if it were done at once, at its last hit.
-func (p *play) told(a *actor, did api.Access) string {
-	j, got := a.job, a.b.X.Result()
-	want := api.Out{}
-	switch j.op {
-	case api.Read:
-		want.V = a.saw
-		got.V = original(got.V)
-		if did == watch.Load(things[j.thing].at) {
-			p.seen.tagged++
-		} else if a.hits > 1 {
-			p.seen.late++
-		}
-	case api.Swap:
-		want.Yes = a.saw == j.exp
-		if got.Yes {
-			p.seen.yes++
-		} else {
-			p.seen.no++
-		}
-		if got.Yes && a.said != a.r.Exp {
-			p.seen.canon++
-		}
-	}
-	if a.hits == 0 || got != want {
-		return fmt.Sprintf("Result is %v, want %v, at one of %d hits", got, want, a.hits)
-	}
-	return ""
-}
-
-// check holds each field, where its thing is, against what it must have; a thing that stays has no tag.
-func (p *play) check() string {
-	for i, x := range things {
-		for k, v := range p.fields[i] {
-			if got := original(watch.Value(watch.Word(p.m, p.word(i, k)))); got != v {
-				return fmt.Sprintf("the field %d of %v has %v, want %v", k, x, got, v)
-			}
-		}
-		if h := watch.Word(p.m, x.at); p.stays[i] && h != watch.Object(0, fields, 1) {
+// Holds: what stays has no tag.
+func (way) Holds(s *watch.Scene) string {
+	for i, x := range s.Things {
+		if h := watch.Word(s.M, x.At); s.Stays[i] && h != watch.Object(0, watch.Fields, 1) {
 			return fmt.Sprintf("%v does not stay: its header is %#x", x, h)
 		}
 	}
 	return ""
 }
 
-// finish is whether, when all are done, each thing was moved that was to be, if nobody wrote to it, and is referred to by where it is.
-func (p *play) finish() string {
-	if t, _ := p.tale(); t.Next != nil {
-		return "the collector waits for ever"
-	}
-	for i, x := range things {
-		moved := p.home(i) == x.to
-		if moved != (i < p.moves && !p.stays[i]) {
-			return fmt.Sprintf("%v is at %d", x, p.home(i))
-		}
-		if moved {
-			p.seen.moved++
-		} else if i < p.moves {
-			p.seen.stayed++
-		}
-		for k := range fields {
-			v := watch.Value(watch.Word(p.m, p.word(i, k)))
-			if watch.Refers(v) && watch.Home(watch.Word(p.m, v.N), v.N) != v.N {
-				return fmt.Sprintf("the field %d of %v has %v, which was moved", k, x, v)
-			}
-		}
-	}
-	return ""
+// things are those of all scenes.
+func things() [watch.Things]watch.Thing {
+	return [watch.Things]watch.Thing{{At: 8, To: 24}, {At: 12, To: 28}, {At: 16, To: 32}}
 }
 
-// Key is another one of each two plays that go on in other ways: what a machine does next hangs on what its steps have met.
-func (p *play) Key() string {
-	k := fmt.Sprint(watch.Words(p.m), p.met, p.stays)
-	for _, a := range p.actors {
-		k += fmt.Sprint("; ", len(a.todo), a.mode, a.b.Met, a.hits > 0, a.saw)
+// opened is a scene of actors with these jobs, on things whose fields have that, of which the first few are moved.
+func opened(t *testing.T, l watch.Tally, moves int, has watch.Values, todo ...[]watch.Job) *watch.Scene {
+	t.Helper()
+	m, e := mem.New(40)
+	if e != api.OK {
+		t.Fatalf("mem.New: error %d", e)
 	}
-	return k
+	s := watch.Scene{M: m, Way: way{}, Things: things(), Moves: moves, Has: has, Tally: l}
+	return s.Open(todo...)
 }
 
-// Jobs of the first field of the first thing.
-func readJob() job               { return job{op: api.Read} }
-func writeJob(v api.Val) job     { return job{op: api.Write, with: v} }
-func swapJob(exp, v api.Val) job { return job{op: api.Swap, exp: exp, with: v} }
+// cases are what scenes are for.
+func cases() []string {
+	return append(watch.Cases(), "a tag that is taken", "a tag that another has taken", "a Read of a tagged object", "a Read that goes on at the copy", "an object that was moved")
+}
 
 // P13.1, T1, T2, in every order of the steps of a few accesses and of a collector: each step does what the chapter says by what the words are then; each access has the result that it would have if it were done at once at its last hit; each field is at one place, and has what was laid down last; who writes to a tagged object takes the tag away first, and then it stays.
 func TestEveryOrder(t *testing.T) {
-	self, other, none := ref(things[0].at), ref(things[1].at), ref(0)
-	elsewhere := func(j job) job {
-		j.field = 1
+	self, other, none := ref(things()[0].At), ref(things()[1].At), ref(0)
+	elsewhere := func(j watch.Job) watch.Job {
+		j.Field = 1
 		return j
 	}
-	var all seen
-	for _, todo := range [][][]job{
-		{{readJob(), readJob()}},
-		{{writeJob(scalar(6)), readJob()}},
-		{{readJob()}, {writeJob(scalar(6))}},
-		{{readJob()}, {elsewhere(writeJob(self))}},
-		{{writeJob(scalar(6))}, {writeJob(other)}},
-		{{writeJob(none)}, {elsewhere(writeJob(scalar(6)))}},
-		{{swapJob(self, none)}, {swapJob(self, scalar(6))}},
-		{{swapJob(self, none)}, {swapJob(none, self)}},
-		{{swapJob(scalar(5), self)}, {readJob()}},
-		{{swapJob(self, self)}, {readJob()}},
+	all := watch.Tally{}
+	for _, todo := range [][][]watch.Job{
+		{{watch.Reads(), watch.Reads()}},
+		{{watch.Writes(scalar(6)), watch.Reads()}},
+		{{watch.Reads()}, {watch.Writes(scalar(6))}},
+		{{watch.Reads()}, {elsewhere(watch.Writes(self))}},
+		{{watch.Writes(scalar(6))}, {watch.Writes(other)}},
+		{{watch.Writes(none)}, {elsewhere(watch.Writes(scalar(6)))}},
+		{{watch.Swaps(self, none)}, {watch.Swaps(self, scalar(6))}},
+		{{watch.Swaps(self, none)}, {watch.Swaps(none, self)}},
+		{{watch.Swaps(scalar(5), self)}, {watch.Reads()}},
+		{{watch.Swaps(self, self)}, {watch.Reads()}},
 	} {
 		for _, v := range []api.Val{scalar(5), self} {
-			has := [len(things)][fields]api.Val{{v, none}, {self, none}, {none, scalar(3)}}
-			p := begun(t, &all, 1, has, todo...)
-			watch.EveryOrder(t, p, (*play).finish)
+			has := watch.Values{{v, none}, {self, none}, {none, scalar(3)}}
+			watch.EveryOrder(t, opened(t, all, 1, has, todo...), (*watch.Scene).Finish)
 		}
 	}
-	all.check(t)
+	all.Check(t, cases()...)
 }
 
 // P13.1, T1, T2, in orders that a fixed seed gives, of many accesses of several things, some of which are moved.
 func TestManyOrders(t *testing.T) {
-	var all seen
+	all := watch.Tally{}
+	l := []api.Val{scalar(5), scalar(6), ref(0)}
+	for _, x := range things() {
+		l = append(l, ref(x.At))
+	}
 	for seed := range 400 {
 		r := rand.New(rand.NewSource(int64(seed)))
-		has := [len(things)][fields]api.Val{}
-		for i := range has {
-			for k := range has[i] {
-				has[i][k] = someValue(r)
-			}
-		}
-		p := begun(t, &all, 1+r.Intn(len(things)), has, someJobs(r, 1+r.Intn(5))...)
-		watch.AnyOrder(t, p, (*play).finish, r.Intn)
+		has := watch.SomeValues(r.Intn, l)
+		s := opened(t, all, 1+r.Intn(watch.Things), has, watch.SomeJobs(r.Intn, l)...)
+		watch.AnyOrder(t, s, (*watch.Scene).Finish, r.Intn)
 		if t.Failed() {
 			t.Fatalf("seed %d", seed)
 		}
 	}
-	all.check(t)
-}
-
-// someValue is one of a few, so that Swaps find what they expect.
-func someValue(r *rand.Rand) api.Val {
-	return []api.Val{scalar(5), scalar(6), ref(0), ref(things[0].at), ref(things[1].at), ref(things[2].at)}[r.Intn(6)]
-}
-
-// someJobs are those of n actors. Some write seldom, so that things are moved.
-func someJobs(r *rand.Rand, n int) [][]job {
-	var todo [][]job
-	writes := 1 + r.Intn(12)
-	for range n {
-		var jobs []job
-		for range 12 {
-			j := job{op: api.Read, thing: r.Intn(len(things)), field: r.Intn(fields), exp: someValue(r), with: someValue(r)}
-			if r.Intn(writes) == 0 {
-				j.op = api.Write + r.Intn(2)
-			}
-			jobs = append(jobs, j)
-		}
-		todo = append(todo, jobs)
-	}
-	return todo
+	all.Check(t, cases()...)
 }
 
 // P13.1: however headers and fields change between the steps of several accesses, each step does what the chapter says by what the words are then.

@@ -1,6 +1,8 @@
 package watch
 
 import (
+	"slices"
+
 	"flit/api"
 	"flit/mem"
 )
@@ -95,4 +97,91 @@ func (l *Look) Swaps(field int, v api.Val) {
 func (l *Look) Fails(a int) {
 	l.T.Helper()
 	l.Step(CAS(a, false), false)
+}
+
+// Direct is the steps of layer 12's Direct of the object at that address, with Canon and without Shade, to the end.
+func (l *Look) Direct(at int, r api.Req, fix bool) {
+	l.T.Helper()
+	field := at + 1 + r.Field
+	v := Value(l.Want[field])
+	switch {
+	case r.Op == api.Write:
+		l.Stores(field, r.New)
+	case r.Op == api.Swap:
+		l.swap(field, v, r)
+	case fix && Refers(v):
+		l.Step(Load(field), true)
+		l.Last(Load(v.N), false, api.Out{V: api.Val{Kind: api.Ref, N: l.Home(v.N)}})
+	default:
+		l.Last(Load(field), true, api.Out{V: v})
+	}
+}
+
+// swap is that of a field that has v: two references are the same, if they are one object's.
+func (l *Look) swap(field int, v api.Val, r api.Req) {
+	l.T.Helper()
+	both := Refers(v) && Refers(r.Exp)
+	if v != r.Exp && !both {
+		l.Last(Load(field), true, api.Out{})
+		return
+	}
+	l.Step(Load(field), true)
+	if v != r.Exp {
+		l.Step(Load(v.N), false)
+		if l.Home(v.N) != l.Home(r.Exp.N) {
+			l.Last(Load(r.Exp.N), false, api.Out{})
+			return
+		}
+		l.Step(Load(r.Exp.N), false)
+	}
+	l.Swaps(field, r.New)
+}
+
+// Home is where the object is that stands, or stood, at that address.
+func (l *Look) Home(at int) int { return Home(l.Want[at], at) }
+
+// Alike steps two Accessors, each on a memory of its own: they must do, and tell, the same.
+func Alike(t Teller, m *mem.Memory, x, y Accessor) {
+	t.Helper()
+	n := m.Clone()
+	for k := range most {
+		count := m.Count()
+		got, want := x.Step(m), y.Step(n)
+		if got != want || x.Hit() != y.Hit() || x.Result() != y.Result() {
+			t.Errorf("step %d: %t, %t, %v; the other one: %t, %t, %v", k, got, x.Hit(), x.Result(), want, y.Hit(), y.Result())
+			return
+		}
+		if m.Count() != count+1 || m.Traps() != n.Traps() || !slices.Equal(m.Take(), n.Take()) {
+			t.Errorf("step %d: the accesses are others", k)
+			return
+		}
+		if got {
+			CheckWords(t, m, Words(n))
+			CheckDone(t, x, m)
+			return
+		}
+	}
+	t.Errorf("they are not done")
+}
+
+// CheckCopies copies an Accessor, of those that begin makes, behind each of its steps: the copy goes its own way, also if the other one has done the same steps already.
+func CheckCopies(t Teller, m *mem.Memory, begin func() Accessor, copyOf func(x Accessor) Accessor) {
+	t.Helper()
+	all := Run(t, begin(), m.Clone())
+	for steps := range all {
+		m := m.Clone()
+		x := begin()
+		for range steps {
+			x.Step(m)
+		}
+		y, n := copyOf(x), m.Clone()
+		k := Run(t, x, m)
+		if y.Result() != (api.Out{}) {
+			t.Errorf("the copy tells %v behind %d steps", y.Result(), steps)
+		}
+		if Run(t, y, n) != k || k != all-steps || y.Result() != x.Result() || y.Hit() != x.Hit() {
+			t.Errorf("the copy tells %v, want %v", y.Result(), x.Result())
+		}
+		CheckWords(t, n, Words(m))
+	}
 }

@@ -4,6 +4,7 @@ import (
 	"testing"
 
 	"flit/api"
+	"flit/direct"
 	"flit/mem"
 )
 
@@ -79,5 +80,67 @@ func TestLookThatFinds(t *testing.T) {
 	AtOnce(&f, made(t), swapping(), api.Out{})
 	if f == 0 {
 		t.Error("nothing is found of a machine that is not done at once")
+	}
+}
+
+// The steps of a Direct that a look asks for are those of layer 12.
+func TestLookAtDirect(t *testing.T) {
+	const at, old, now, size = 8, 12, 16, 20
+	refTo := func(n int) api.Val { return api.Val{Kind: api.Ref, N: n} }
+	values := []api.Val{{}, {N: 5}, {Kind: api.Empty}, refTo(0), refTo(at), refTo(old), refTo(now)}
+	for op := api.Read; op <= api.Swap; op++ {
+		for _, v := range values {
+			for _, exp := range values {
+				for _, fix := range []bool{false, true} {
+					m, _ := mem.New(size)
+					m.Store(old, Moved(0, 1, 0, now))
+					m.Store(at+2, Field(v))
+					r := api.Req{Op: op, Field: 1, Exp: exp, New: refTo(now)}
+					x := direct.NewDirect(at, r, direct.How{Canon: true, Fix: fix})
+					LookAt(t, m, x).Direct(at, r, fix)
+				}
+			}
+		}
+	}
+	var f faults
+	m := made(t)
+	LookAt(&f, m, direct.NewDirect(0, api.Req{Op: api.Read}, direct.How{})).Direct(1, api.Req{Op: api.Read}, false)
+	if f == 0 {
+		t.Error("nothing is found of a Direct elsewhere")
+	}
+}
+
+// Two Accessors that do the same are alike; others are told.
+func TestAlike(t *testing.T) {
+	Alike(t, made(t), swapping(), swapping())
+	for name, change := range map[string]func(x *telling){
+		"another access": func(x *telling) { x.l[0] = loadTwice },
+		"a step less":    func(x *telling) { x.l = x.l[:1] },
+		"another hit":    func(x *telling) { x.hits[1] = false },
+		"another Out":    func(x *telling) { x.outs[2] = api.Out{} },
+		"another word":   func(x *telling) { x.l[1] = func(m *mem.Memory) { m.CAS(1, 0, 8) } },
+	} {
+		var f faults
+		x := swapping()
+		change(x)
+		Alike(&f, made(t), x, swapping())
+		if f == 0 {
+			t.Errorf("%s: nothing is found", name)
+		}
+	}
+}
+
+// A copy that goes its own way is as it must be; one that shares something with the other is told.
+func TestCheckCopies(t *testing.T) {
+	r := api.Req{Op: api.Swap, Exp: api.Val{}, New: api.Val{N: 2}}
+	begin := func() Accessor { return direct.NewDirect(-1, r, direct.How{}) }
+	CheckCopies(t, made(t), begin, func(x Accessor) Accessor {
+		y := *x.(*direct.Direct)
+		return &y
+	})
+	var f faults
+	CheckCopies(&f, made(t), begin, func(x Accessor) Accessor { return x })
+	if f == 0 {
+		t.Error("nothing is found of a copy that is none")
 	}
 }

@@ -1,4 +1,4 @@
-// Package watch has what the tests of machines share: steps of which each access is looked at, the steps of a chapter beside which a machine is held, all orders of steps, words that are asked without being counted, words that are reckoned without the layers that make them, and blocks and lists as a memory has them. No layer stands on it.
+// Package watch has what the tests of machines share: steps of which each access is looked at, the steps of a chapter beside which a machine is held, all orders of steps, scenes in which objects move while they are accessed, words that are asked without being counted, words that are reckoned without the layers that make them, and blocks and lists as a memory has them. No layer stands on it.
 package watch
 
 import (
@@ -49,10 +49,15 @@ func Tagged(class, count, mark, tag, link int) uint64 {
 	return Object(class, count, mark) + uint64(tag)<<9 + uint64(link)<<12
 }
 
+// Tag, Link and Count are those of a header, of its word.
+func Tag(w uint64) int   { return int(w >> 9 % 8) }
+func Link(w uint64) int  { return int(w >> 12 % 4096) }
+func Count(w uint64) int { return int(w >> 4 % 8) }
+
 // Home is where the object is whose header at that address is w.
 func Home(w uint64, at int) int {
-	if w%4 == api.CellObject && w>>9%8 == api.TagMoved {
-		return int(w >> 12 % 4096)
+	if w%4 == api.CellObject && Tag(w) == api.TagMoved {
+		return Link(w)
 	}
 	return at
 }

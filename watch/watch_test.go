@@ -80,6 +80,9 @@ func TestReckonedWords(t *testing.T) {
 		if got, want := Home(w, 9), head.Moved(w, 9); got != want {
 			t.Errorf("Home of %#x: %d, want %d", w, got, want)
 		}
+		if h := head.Of(w); Tag(w) != h.Tag || Link(w) != h.Link || Count(w) != h.Count {
+			t.Errorf("of %#x: Tag %d, Link %d, Count %d", w, Tag(w), Link(w), Count(w))
+		}
 	}
 	for _, v := range []api.Val{{}, {Kind: api.Ref}, {Kind: api.Ref, N: 5}, {Kind: api.Empty}, {Kind: 3, N: 1<<61 - 1}} {
 		if got, want := Field(v), slot.Word(v); got != want {

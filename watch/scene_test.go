@@ -1,0 +1,216 @@
+package watch
+
+import (
+	"math/rand"
+	"testing"
+
+	"flit/api"
+	"flit/mem"
+)
+
+// working is an Accessor that does what its work says.
+type working struct {
+	work Work
+	met  []uint64
+}
+
+func (x *working) Step(m *mem.Memory) bool {
+	if t := Tell(x.work, x.met); t.Next != nil {
+		x.met = append(x.met[:len(x.met):len(x.met)], t.Next(m))
+	}
+	return Tell(x.work, x.met).Next == nil
+}
+
+func (x *working) Hit() bool       { return Tell(x.work, x.met).Hit }
+func (x *working) Result() api.Out { return Tell(x.work, x.met).Out }
+
+// rash is a way in which an access asks where its object is, and the collector copies whatever comes in between.
+type rash struct {
+	work       func(t *Tale, r api.Req, mode int) api.Out
+	stands     bool // nothing is moved
+	did, holds string
+}
+
+func (w rash) Begin(r api.Req, mode int) Beside {
+	work := func(t *Tale) api.Out { return w.work(t, r, mode) }
+	return Beside{X: &working{work: work}, Work: work}
+}
+
+func (w rash) Copy(x Accessor) Accessor {
+	y := *x.(*working)
+	return &y
+}
+
+func (w rash) Prep(t *Tale, x Thing) { t.Store(x.To, t.Load(x.At)) }
+
+func (w rash) Move(t *Tale, x Thing, closes bool) {
+	if closes || w.stands {
+		return
+	}
+	for k := range Fields {
+		t.Store(x.To+1+k, t.Load(x.At+1+k))
+	}
+	t.Store(x.At, Moved(0, Fields, 1, x.To))
+}
+
+func (w rash) Place(s *Scene, thing, field int) int                { return s.Home(thing) + 1 + field }
+func (w rash) Did(_ *Scene, _ *Actor, _ api.Access, _ bool) string { return w.did }
+func (w rash) Holds(*Scene) string                                 { return w.holds }
+
+// where is what all works of these tests do, but for their faults.
+func where(t *Tale, r api.Req, mode int) api.Out {
+	return t.Direct(Home(t.Load(r.At), r.At), r, true, mode == api.ModeFix)
+}
+
+// opened is a scene whose first thing refers to the first two.
+func opened(t *testing.T, l Tally, w rash, moves int, todo ...[]Job) *Scene {
+	t.Helper()
+	m, e := mem.New(36)
+	if e != api.OK {
+		t.Fatalf("mem.New: error %d", e)
+	}
+	refTo := func(at int) api.Val { return api.Val{Kind: api.Ref, N: at} }
+	s := Scene{M: m, Way: w, Moves: moves, Tally: l, Things: [Things]Thing{{8, 20}, {12, 24}, {16, 28}}}
+	s.Has = Values{{refTo(8), refTo(12)}, {{N: 5}}, {{N: 6}}}
+	return s.Open(todo...)
+}
+
+// A scene in which nothing is lost has nothing wrong: what is read while all is moved, what is written while nothing is, and what waits till that is over.
+func TestScene(t *testing.T) {
+	waits := func(t *Tale, r api.Req, mode int) api.Out {
+		out := where(t, api.Req{Op: api.Read, At: r.At, Field: r.Field}, mode)
+		if mode < api.ModeFix && mode != api.ModePlain && r.Op != api.Read {
+			return api.Out{Code: api.ErrBusy}
+		}
+		if r.Op == api.Read {
+			return out
+		}
+		return where(t, r, mode)
+	}
+	self, none := api.Val{Kind: api.Ref, N: 8}, api.Val{Kind: api.Ref}
+	all := Tally{}
+	for _, x := range []struct {
+		way   rash
+		moves int
+		todo  [][]Job
+	}{
+		{rash{work: where}, 2, [][]Job{{Reads(), Reads()}, {Reads()}}},
+		{rash{work: where, stands: true}, 0, [][]Job{{Writes(none)}, {Swaps(self, none)}, {Reads()}}},
+		{rash{work: where, stands: true}, 0, [][]Job{{Swaps(none, self)}, {Swaps(self, none)}}},
+		{rash{work: waits}, 1, [][]Job{{Writes(none), Reads()}, {Swaps(self, none)}}},
+	} {
+		EveryOrder(t, opened(t, all, x.way, x.moves, x.todo...), (*Scene).Finish)
+	}
+	all.Check(t, fieldChanged, swapDone, swapNot, thingMoved)
+	if all[thingStays] != 0 {
+		t.Errorf("%d things stay", all[thingStays])
+	}
+}
+
+// What is wrong is told.
+func TestSceneThatFinds(t *testing.T) {
+	six := api.Val{N: 6}
+	tells := func(out api.Out) func(t *Tale, r api.Req, mode int) api.Out {
+		return func(t *Tale, r api.Req, mode int) api.Out {
+			where(t, r, mode)
+			return out
+		}
+	}
+	for _, x := range []struct {
+		name  string
+		way   rash
+		moves int
+		job   Job
+	}{
+		{"a write that is lost", rash{work: where}, 1, Writes(six)},
+		{"a thing that is not moved", rash{work: where, stands: true}, 1, Reads()},
+		{"a Read that tells another value", rash{work: tells(api.Out{V: six})}, 0, Reads()},
+		{"a Swap that is not done, and tells that it is", rash{work: tells(api.Out{Yes: true})}, 0, Swaps(six, six)},
+		{"an error", rash{work: tells(api.Out{Code: api.ErrField})}, 0, Writes(six)},
+		{"one that has to wait, and has written", rash{work: tells(api.Out{Code: api.ErrBusy})}, 0, Writes(six)},
+		{"a step of which the way tells it", rash{work: where, did: "no"}, 0, Reads()},
+		{"words of which the way tells it", rash{work: where, holds: "no"}, 0, Reads()},
+		{"no hit", rash{work: func(t *Tale, r api.Req, _ int) api.Out {
+			return api.Out{V: Value(t.Load(r.At + 1))}
+		}}, 0, Reads()},
+		{"a Write that writes nothing", rash{work: func(t *Tale, r api.Req, _ int) api.Out {
+			t.Load(r.At + 1)
+			t.Hit = true
+			return api.Out{}
+		}}, 0, Writes(six)},
+		{"a Write elsewhere", rash{work: func(t *Tale, r api.Req, mode int) api.Out {
+			r.Field++
+			return where(t, r, mode)
+		}}, 0, Writes(six)},
+		{"a trap", rash{work: func(t *Tale, r api.Req, mode int) api.Out {
+			t.Load(36)
+			return where(t, r, mode)
+		}}, 0, Reads()},
+		{"no end", rash{work: func(t *Tale, r api.Req, mode int) api.Out {
+			for range 60 {
+				t.Load(r.At)
+			}
+			return where(t, r, mode)
+		}}, 0, Reads()},
+	} {
+		var f faults
+		EveryOrder(&f, opened(t, Tally{}, x.way, x.moves, []Job{x.job}), (*Scene).Finish)
+		if f != 1 {
+			t.Errorf("%s: %d faults", x.name, f)
+		}
+	}
+	var f faults
+	Tally{"this": 1}.Check(&f, "this", "that")
+	if f != 1 {
+		t.Errorf("a tally finds %d faults", f)
+	}
+}
+
+// A clone of a scene goes its own way, at each of its steps.
+func TestSceneCloned(t *testing.T) {
+	s := opened(t, Tally{}, rash{work: where}, 1, []Job{Swaps(api.Val{Kind: api.Ref, N: 8}, api.Val{})})
+	for k := range 3 {
+		c := s.Clone()
+		key := s.Key()
+		if c.Key() != key {
+			t.Errorf("behind %d steps a clone is another scene", k)
+		}
+		for range 3 - k {
+			if wrong := c.Step(0); wrong != "" {
+				t.Error(wrong)
+			}
+		}
+		if !c.Idle(0) || s.Key() != key {
+			t.Errorf("behind %d steps a clone is not on its own", k)
+		}
+		s.Step(0)
+	}
+}
+
+// Jobs and values that are picked name what there is.
+func TestSomeJobs(t *testing.T) {
+	l := []api.Val{{N: 5}, {Kind: api.Ref}}
+	ops := map[int]int{}
+	for seed := range 20 {
+		pick := rand.New(rand.NewSource(int64(seed))).Intn
+		has := SomeValues(pick, l)
+		for i := range has {
+			for _, v := range has[i] {
+				if v != l[0] && v != l[1] {
+					t.Errorf("a field has %v", v)
+				}
+			}
+		}
+		for _, todo := range SomeJobs(pick, l) {
+			for _, j := range todo {
+				ops[j.Op]++
+				if j.Thing < 0 || j.Thing >= Things || j.Field < 0 || j.Field >= Fields {
+					t.Errorf("there is no field of %+v", j)
+				}
+			}
+		}
+	}
+	if len(ops) != 3 || ops[api.Read] == 0 || ops[api.Write] == 0 || ops[api.Swap] == 0 {
+		t.Errorf("the Ops are %v", ops)
+	}
+}
