@@ -278,7 +278,8 @@ func (s *Scene) place(j Job) int { return s.Way.Place(s, j.Thing, j.Field) }
 // follow does with the fields what an access of the actor did. The word of its field stood at that place.
 func (s *Scene) follow(a *Actor, did api.Access, place int) string {
 	f := &s.Has[a.Job.Thing][a.Job.Field]
-	if a.Access.X.Hit() {
+	hit := a.Access.X.Hit()
+	if hit {
 		a.Hits++
 		a.Saw = *f
 		if did.Op == 1 {
@@ -293,12 +294,22 @@ func (s *Scene) follow(a *Actor, did api.Access, place int) string {
 	case !did.OK:
 		s.Tally[fieldChanged]++
 		return ""
-	case did.At != place:
+	case !hit: // it moves the field on, and writes nothing
+		return ""
+	case written(did) != place:
 		return "the field is elsewhere"
 	}
 	*f = a.Job.New
 	a.wrote = true
 	return ""
+}
+
+// written is where an access writes a field: a CAS2 has another word ahead of it.
+func written(did api.Access) int {
+	if did.Op == 4 {
+		return did.At + 1
+	}
+	return did.At
 }
 
 // told is whether an access that is done had the result that it would have if it were done at once, at its last hit. One that has to wait has done nothing, and is begun anew.

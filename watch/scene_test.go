@@ -166,6 +166,49 @@ func TestSceneThatFinds(t *testing.T) {
 	}
 }
 
+// A CAS2 writes a field by its second word. An access that is no hit moves a field on, and writes nothing: neither is it counted as written, nor may it change what the field has.
+func TestSceneOfPairs(t *testing.T) {
+	lays := func(first, second api.Val) func(t *Tale, r api.Req, mode int) api.Out {
+		return func(t *Tale, r api.Req, mode int) api.Out {
+			for {
+				v, w := t.Load(r.At+1), t.Load(r.At+2)
+				if !t.CAS2(r.At+1, v, w, v|4, w|4) {
+					continue
+				}
+				if t.CAS2(r.At+1, v|4, w|4, Field(first), Field(second)) {
+					t.Hit = true
+					return api.Out{}
+				}
+			}
+		}
+	}
+	only := func(t *Tale, r api.Req, mode int) api.Out {
+		t.CAS2(r.At+1, Field(api.Val{N: 5}), Field(api.Val{N: 6}), Field(api.Val{N: 5}), Field(r.New))
+		return api.Out{}
+	}
+	for _, x := range []struct {
+		name string
+		work func(t *Tale, r api.Req, mode int) api.Out
+		job  Job
+		ok   bool
+	}{
+		{"the field's word", lays(api.Val{N: 5}, api.Val{N: 7}), Job{Op: api.Write, Field: 1, New: api.Val{N: 7}}, true},
+		{"the word ahead of that", lays(api.Val{N: 7}, api.Val{N: 6}), Job{Op: api.Write, New: api.Val{N: 7}}, false},
+		{"both", lays(api.Val{N: 7}, api.Val{N: 7}), Job{Op: api.Write, Field: 1, New: api.Val{N: 7}}, false},
+		{"no hit", only, Job{Op: api.Write, Field: 1, New: api.Val{N: 7}}, false},
+		{"no hit, and what the field had already", only, Job{Op: api.Write, Field: 1, New: api.Val{N: 6}}, false},
+	} {
+		m, _ := mem.New(36)
+		s := Scene{M: m, Way: rash{work: x.work, stands: true}, Tally: Tally{}, Things: [Things]Thing{{9, 21}, {13, 25}, {17, 29}}}
+		s.Has = Values{{{N: 5}, {N: 6}}}
+		var f faults
+		EveryOrder(&f, s.Open([]Job{x.job}), (*Scene).Finish)
+		if (f == 0) != x.ok {
+			t.Errorf("%s: %d faults", x.name, f)
+		}
+	}
+}
+
 // A clone of a scene goes its own way, at each of its steps.
 func TestSceneCloned(t *testing.T) {
 	s := opened(t, Tally{}, rash{work: where}, 1, []Job{Swaps(api.Val{Kind: api.Ref, N: 8}, api.Val{})})

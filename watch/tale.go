@@ -47,7 +47,7 @@ func (t *Tale) access(do func(m *mem.Memory) uint64) uint64 {
 	return t.met[t.told-1]
 }
 
-// Load is an access of a work, as Store and CAS are.
+// Load is an access of a work, as Store, CAS and CAS2 are.
 func (t *Tale) Load(a int) uint64 {
 	return t.access(func(m *mem.Memory) uint64 { return m.Load(a) })
 }
@@ -60,8 +60,17 @@ func (t *Tale) Store(a int, w uint64) {
 }
 
 func (t *Tale) CAS(a int, old, w uint64) bool {
+	return t.asks(func(m *mem.Memory) bool { return m.CAS(a, old, w) })
+}
+
+func (t *Tale) CAS2(a int, old0, old1, w0, w1 uint64) bool {
+	return t.asks(func(m *mem.Memory) bool { return m.CAS2(a, old0, old1, w0, w1) })
+}
+
+// asks is an access that is done or not.
+func (t *Tale) asks(do func(m *mem.Memory) bool) bool {
 	return t.access(func(m *mem.Memory) uint64 {
-		if m.CAS(a, old, w) {
+		if do(m) {
 			return 1
 		}
 		return 0

@@ -48,6 +48,29 @@ func TestTale(t *testing.T) {
 	}
 }
 
+// A CAS2 is an access of two words, which is done or not.
+func TestTaleOfPairs(t *testing.T) {
+	swapping := func(t *Tale) api.Out {
+		return api.Out{Yes: t.CAS2(2, 4, 9, 7, 8)}
+	}
+	for w, done := range map[uint64]bool{9: true, 10: false} {
+		m := made(t)
+		m.Store(3, w)
+		m.Take()
+		met := []uint64{Tell(swapping, nil).Next(m)}
+		if did := m.Take(); !slices.Equal(did, []api.Access{CAS2(2, done)}) {
+			t.Errorf("the access is %v", did)
+		}
+		if x := Tell(swapping, met); x.Next != nil || x.Out != (api.Out{Yes: done}) {
+			t.Errorf("at its end: %+v", x)
+		}
+		if done {
+			w = 8
+		}
+		CheckWord(t, m, 3, w)
+	}
+}
+
 // What else a work panics with goes on.
 func TestTaleThatPanics(t *testing.T) {
 	defer func() {

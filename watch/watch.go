@@ -49,6 +49,11 @@ func Tagged(class, count, mark, tag, link int) uint64 {
 	return Object(class, count, mark) + uint64(tag)<<9 + uint64(link)<<12
 }
 
+// Wide is the header of a wide object of an object of so many fields, whose final copy is link, as a word.
+func Wide(class, count, link int) uint64 {
+	return api.CellWide + uint64(class)<<2 + uint64(count)<<4 + uint64(link)<<12
+}
+
 // Tag, Link and Count are those of a header, of its word.
 func Tag(w uint64) int   { return int(w >> 9 % 8) }
 func Link(w uint64) int  { return int(w >> 12 % 4096) }
@@ -84,6 +89,9 @@ func Store(a int) api.Access { return api.Access{Op: 2, At: a, OK: true} }
 
 // CAS is an access that is one, and done or not.
 func CAS(a int, done bool) api.Access { return api.Access{Op: 3, At: a, OK: done} }
+
+// CAS2 is such an access of two words.
+func CAS2(a int, done bool) api.Access { return api.Access{Op: 4, At: a, OK: done} }
 
 // Words are those of m, asked of a clone, so that m does not count it.
 func Words(m *mem.Memory) []uint64 {

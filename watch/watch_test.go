@@ -54,6 +54,7 @@ func loadTwice(m *mem.Memory) { m.Load(2); m.Load(2) }
 func trap(m *mem.Memory)      { m.Load(8) }
 func none(m *mem.Memory)      {}
 func swapOne(m *mem.Memory)   { m.CAS(1, 1, 7) }
+func swapTwo(m *mem.Memory)   { m.CAS2(2, 4, 9, 7, 8) }
 
 // Words that are reckoned here are those of the layers.
 func TestReckonedWords(t *testing.T) {
@@ -74,6 +75,9 @@ func TestReckonedWords(t *testing.T) {
 	}
 	if got, want := Tagged(1, 5, 1, api.TagStays, 96), head.Word(api.Head{State: api.CellObject, Class: 1, Count: 5, Mark: 1, Tag: api.TagStays, Link: 96}); got != want {
 		t.Errorf("Tagged: %d, want %d", got, want)
+	}
+	if got, want := Wide(1, 5, 96), head.Word(api.Head{State: api.CellWide, Class: 1, Count: 5, Link: 96}); got != want {
+		t.Errorf("Wide: %d, want %d", got, want)
 	}
 	for w := range uint64(1 << 12) {
 		w |= 96<<12 | 1<<40
@@ -112,9 +116,11 @@ func TestStep(t *testing.T) {
 		{"a Store", storeOne, Store(1), true, true},
 		{"a Load", loadTwo, Load(2), true, true},
 		{"a CAS", swapOne, CAS(1, true), true, true},
+		{"a CAS2", swapTwo, CAS2(2, true), true, true},
 		{"of another Op", storeOne, Load(1), true, false},
 		{"at another place", loadTwo, Load(1), true, false},
 		{"of another answer", swapOne, CAS(1, false), true, false},
+		{"of two words, and of another answer", swapTwo, CAS2(2, false), true, false},
 		{"not done", storeOne, Store(1), false, false},
 		{"two accesses", loadTwice, Load(2), true, false},
 		{"no access", none, Load(2), true, false},
