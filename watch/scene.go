@@ -1,8 +1,8 @@
 package watch
 
 import (
-	"fmt"
 	"slices"
+	"strconv"
 
 	"flit/api"
 	"flit/mem"
@@ -246,10 +246,10 @@ func (s *Scene) Step(i int) string {
 		wrong = s.told(a)
 	}
 	if s.since++; s.since > 48*len(s.actors) {
-		wrong = fmt.Sprintf("no access ended in %d steps", s.since)
+		wrong = "no access ended in " + number(s.since) + " steps"
 	}
 	if wrong != "" {
-		return fmt.Sprintf("%+v in mode %d: %v, done: %t: %s", a.Req, a.Mode, did, done, wrong)
+		return reqText(a.Req) + " in mode " + number(a.Mode) + ": " + accessText(did) + ", done: " + whether(done) + ": " + wrong
 	}
 	if done {
 		s.since = 0
@@ -331,7 +331,7 @@ func (s *Scene) told(a *Actor) string {
 		s.countSwap(a, got.Yes)
 	}
 	if a.Hits == 0 || got != want || a.wrote != (j.Op == api.Write || got.Yes) {
-		return fmt.Sprintf("Result is %v, want %v, at one of %d hits, written: %t", got, want, a.Hits, a.wrote)
+		return "Result is " + outText(got) + ", want " + outText(want) + ", at one of " + number(a.Hits) + " hits, written: " + whether(a.wrote)
 	}
 	return ""
 }
@@ -368,7 +368,7 @@ func (s *Scene) holds() string {
 	for i, l := range s.Has {
 		for k, v := range l {
 			if got := s.original(Value(Word(s.M, s.Way.Place(s, i, k)))); got != v {
-				return fmt.Sprintf("the field %d of %v has %v, want %v", k, s.Things[i], got, v)
+				return fieldText(s.Things[i], k, got) + ", want " + valText(v)
 			}
 		}
 	}
@@ -383,7 +383,7 @@ func (s *Scene) Finish() string {
 	for i, x := range s.Things {
 		moved := s.Home(i) == x.To
 		if moved != (i < s.Moves && !s.Stays[i]) {
-			return fmt.Sprintf("%v is at %d", x, s.Home(i))
+			return thingText(x) + " is at " + number(s.Home(i))
 		}
 		if moved {
 			s.Tally[thingMoved]++
@@ -393,7 +393,7 @@ func (s *Scene) Finish() string {
 		for k := range Fields {
 			v := Value(Word(s.M, s.Way.Place(s, i, k)))
 			if Refers(v) && Home(Word(s.M, v.N), v.N) != v.N {
-				return fmt.Sprintf("the field %d of %v has %v, which was moved", k, x, v)
+				return fieldText(x, k, v) + ", which was moved"
 			}
 		}
 	}
@@ -402,9 +402,30 @@ func (s *Scene) Finish() string {
 
 // Key is another one of each two scenes that go on in other ways: what a machine does next hangs on what its steps have met.
 func (s *Scene) Key() string {
-	k := fmt.Sprint(Words(s.M), s.met, s.Stays)
+	k := appendWords(nil, Words(s.M))
+	k = appendWords(k, s.met)
+	for _, stays := range s.Stays {
+		k = strconv.AppendBool(k, stays)
+	}
 	for _, a := range s.actors {
-		k += fmt.Sprint("; ", len(a.todo), a.Mode, a.Access.Met, a.Hits > 0, a.Saw)
+		k = appendNumbers(k, len(a.todo), a.Mode, a.Saw.Kind, a.Saw.N)
+		k = strconv.AppendBool(k, a.Hits > 0)
+		k = appendWords(k, a.Access.Met)
+	}
+	return string(k)
+}
+
+// appendWords ends each word, and the row of them, so that no two rows are told alike, whatever is behind them.
+func appendWords(k []byte, l []uint64) []byte {
+	for _, w := range l {
+		k = append(strconv.AppendUint(k, w, 36), ' ')
+	}
+	return append(k, ';')
+}
+
+func appendNumbers(k []byte, l ...int) []byte {
+	for _, n := range l {
+		k = append(strconv.AppendInt(k, int64(n), 36), ' ')
 	}
 	return k
 }

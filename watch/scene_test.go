@@ -166,6 +166,110 @@ func TestSceneThatFinds(t *testing.T) {
 	}
 }
 
+// steps does so many of an actor: what is wrong with the first one that is, or nothing.
+func steps(s *Scene, actor, n int) string {
+	for range n {
+		if wrong := s.Step(actor); wrong != "" {
+			return wrong
+		}
+	}
+	return ""
+}
+
+// What is told of what is wrong names what was done, what there is, and what there should be.
+func TestSceneTexts(t *testing.T) {
+	write := Writes(api.Val{N: 6})
+	errs := rash{stands: true, work: func(t *Tale, r api.Req, mode int) api.Out {
+		where(t, r, mode)
+		return api.Out{Code: api.ErrField, V: r.New, Yes: true}
+	}}
+	loads := rash{stands: true, work: func(t *Tale, r api.Req, _ int) api.Out {
+		for {
+			t.Load(r.At)
+		}
+	}}
+	moves, stands := rash{work: where}, rash{work: where, stands: true}
+	for _, x := range []struct {
+		want string
+		way  rash
+		do   func(s *Scene) string
+	}{
+		{
+			"{Op:2 At:8 Field:0 Exp:{Kind:0 N:0} New:{Kind:0 N:6}} in mode 4: {2 9 true}, done: true: Result is {15 {0 6} true}, want {0 {0 0} false}, at one of 1 hits, written: true",
+			errs, func(s *Scene) string { return steps(s, 0, 2) },
+		},
+		{
+			"{Op:2 At:8 Field:0 Exp:{Kind:0 N:0} New:{Kind:0 N:6}} in mode 4: {1 8 true}, done: false: no access ended in 49 steps",
+			loads, func(s *Scene) string { return steps(s, 0, 49) },
+		},
+		{
+			"the field 1 of {12 24} has {2 7}, want {0 0}",
+			stands, func(s *Scene) string {
+				s.M.Store(14, Field(api.Val{Kind: api.Empty, N: 7}))
+				return steps(s, 0, 1)
+			},
+		},
+		{
+			"{8 20} is at 8",
+			stands, func(s *Scene) string {
+				for s.actors = nil; !s.Idle(0); {
+					s.Step(0)
+				}
+				return s.Finish()
+			},
+		},
+		{
+			"the field 0 of {8 20} has {1 8}, which was moved",
+			moves, func(s *Scene) string {
+				for s.actors = nil; !s.Idle(0); {
+					s.Step(0)
+				}
+				s.M.Store(21, Field(api.Val{Kind: api.Ref, N: 8}))
+				return s.Finish()
+			},
+		},
+	} {
+		if got := x.do(opened(t, Tally{}, x.way, 1, []Job{write})); got != x.want {
+			t.Errorf("%q, want %q", got, x.want)
+		}
+	}
+}
+
+// Scenes that go on in other ways have other keys, each by one thing alone.
+func TestSceneKey(t *testing.T) {
+	keys := map[string]int{}
+	for i, change := range []func(s *Scene){
+		func(s *Scene) {},
+		func(s *Scene) { s.M.Store(35, 1) },
+		func(s *Scene) { s.M.Store(35, 11) },
+		func(s *Scene) { s.met = append(s.met, 1) },
+		func(s *Scene) { s.met = append(s.met, 1, 1) },
+		func(s *Scene) { s.met = append(s.met, 11) },
+		func(s *Scene) { s.Stays[0] = true },
+		func(s *Scene) { s.Stays[1] = true },
+		func(s *Scene) { s.actors = s.actors[:1] },
+		func(s *Scene) { s.actors[0].todo = nil },
+		func(s *Scene) { s.actors[1].todo = nil },
+		func(s *Scene) { s.actors[0].Mode = 1 },
+		func(s *Scene) { s.actors[1].Mode = 1 },
+		func(s *Scene) { s.actors[0].Access.Met = []uint64{1} },
+		func(s *Scene) { s.actors[0].Access.Met = []uint64{11} },
+		func(s *Scene) { s.actors[0].Access.Met = []uint64{1, 1} },
+		func(s *Scene) { s.actors[1].Access.Met = []uint64{1} },
+		func(s *Scene) { s.actors[0].Hits = 1 },
+		func(s *Scene) { s.actors[0].Saw = api.Val{Kind: 1} },
+		func(s *Scene) { s.actors[0].Saw = api.Val{N: 1} },
+		func(s *Scene) { s.actors[0].Saw = api.Val{N: -1} },
+	} {
+		s := opened(t, Tally{}, rash{work: where}, 1, []Job{Reads()}, []Job{Reads()})
+		change(s)
+		if before, is := keys[s.Key()]; is {
+			t.Errorf("the scenes %d and %d have one key", before, i)
+		}
+		keys[s.Key()] = i
+	}
+}
+
 // A CAS2 writes a field by its second word. An access that is no hit moves a field on, and writes nothing: neither is it counted as written, nor may it change what the field has.
 func TestSceneOfPairs(t *testing.T) {
 	lays := func(first, second api.Val) func(t *Tale, r api.Req, mode int) api.Out {
