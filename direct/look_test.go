@@ -99,24 +99,10 @@ func lookAt(t *testing.T, m *mem.Memory, x watch.Accessor) look {
 	return look{watch.LookAt(t, m, x)}
 }
 
-// shaded is the steps of a Shade of the object to which v refers, if it does and if h says so: five, or one, if it is no object or has the mark.
+// shaded is the steps of a Shade of the object to which v refers, if it does and if h says so.
 func (l look) shaded(v api.Val, h How) {
 	l.T.Helper()
-	if !h.Shade || v.Kind != api.Ref || v.N == 0 {
-		return
+	if h.Shade && watch.Refers(v) {
+		l.Shaded(v.N, h.Mark)
 	}
-	w := l.Want[v.N]
-	l.Step(watch.Load(v.N), false)
-	if w%4 != api.CellObject || int(w>>7%2) == h.Mark {
-		return
-	}
-	w = w%(1<<12)&^(1<<7) | uint64(h.Mark)<<7 | 1<<8
-	l.Want[v.N] = w
-	l.Step(watch.CAS(v.N, true), false)
-	l.Step(watch.Load(api.AtGrey), false)
-	list := l.Want[api.AtGrey]
-	l.Want[v.N] = w + list%4096<<12
-	l.Step(watch.Store(v.N), false)
-	l.Want[api.AtGrey] = watch.Top(v.N, int(list>>12)+1)
-	l.Step(watch.CAS(api.AtGrey, true), false)
 }

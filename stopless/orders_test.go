@@ -361,13 +361,7 @@ func TestEveryOrder(t *testing.T) {
 			})
 		}
 	})
-	all := watch.Tally{}
-	for _, l := range tallies {
-		for name, n := range l {
-			all[name] += n
-		}
-	}
-	all.Check(t, cases()...)
+	watch.Together(tallies...).Check(t, cases()...)
 }
 
 // P15.1, P15.2, T1, T2, in orders that a fixed seed gives, of many accesses of several things, some of which are moved.

@@ -137,6 +137,31 @@ func (l *Look) swap(field int, v api.Val, r api.Req) {
 	l.Swaps(field, r.New)
 }
 
+// Shaded is the steps of layer 11's Shade of what stands at that address, none of which is the last one: five, or one, if it is no object or has the mark.
+func (l *Look) Shaded(at, mark int) {
+	l.T.Helper()
+	l.Step(Load(at), false)
+	w := l.Want[at]
+	if !ToShade(w, mark) {
+		return
+	}
+	w = Shaded(w, mark)
+	l.Want[at] = w
+	l.Step(CAS(at, true), false)
+	l.Listed(at)
+}
+
+// Listed is those behind the CAS that gives it the mark.
+func (l *Look) Listed(at int) {
+	l.T.Helper()
+	list := l.Want[api.AtGrey]
+	l.Step(Load(api.AtGrey), false)
+	l.Want[at] = l.Want[at]%(1<<12) | list%4096<<12
+	l.Step(Store(at), false)
+	l.Want[api.AtGrey] = Behind(list, at)
+	l.Step(CAS(api.AtGrey, true), false)
+}
+
 // Home is where the object is that stands, or stood, at that address.
 func (l *Look) Home(at int) int { return Home(l.Want[at], at) }
 

@@ -110,6 +110,40 @@ func TestLookAtDirect(t *testing.T) {
 	}
 }
 
+// The steps of a Shade that a look asks for are those of layer 11, as a Direct does them that shades what it writes.
+func TestLookAtShade(t *testing.T) {
+	const at, old, size = 8, 12, 20
+	write := api.Req{Op: api.Write, New: api.Val{Kind: api.Ref, N: old}}
+	begun := func(t Teller, m *mem.Memory, mark int) *Look {
+		l := LookAt(t, m, direct.NewDirect(at, write, direct.How{Shade: true, Mark: mark}))
+		l.Step(Load(at+1), false)
+		return l
+	}
+	for _, header := range []uint64{0, Free(0, 16), Moved(1, 5, 0, 16), Moved(1, 5, 1, 16), Object(1, 7, 0) | 3<<40} {
+		for mark := range 2 {
+			m, _ := mem.New(size)
+			m.Store(api.AtGrey, Top(16, 1<<40-1))
+			m.Store(old, header)
+			l := begun(t, m, mark)
+			l.Shaded(old, mark)
+			l.Stores(at+1, write.New)
+		}
+	}
+	for name, shade := range map[string]func(l *Look){
+		"a Shade elsewhere":    func(l *Look) { l.Shaded(old+1, 1) },
+		"one of another mark":  func(l *Look) { l.Shaded(old, 0); l.Stores(at+1, write.New) },
+		"one without the list": func(l *Look) { l.Listed(old) },
+	} {
+		var f faults
+		m, _ := mem.New(size)
+		m.Store(old, Object(0, 1, 0))
+		shade(begun(&f, m, 1))
+		if f == 0 {
+			t.Errorf("nothing is found of %s", name)
+		}
+	}
+}
+
 // Two Accessors that do the same are alike; others are told.
 func TestAlike(t *testing.T) {
 	Alike(t, made(t), swapping(), swapping())

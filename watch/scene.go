@@ -102,6 +102,17 @@ type Scene struct {
 // Tally counts by names what plays have met.
 type Tally map[string]int
 
+// Together is what plays have met each of which had a tally of its own.
+func Together(tallies ...Tally) Tally {
+	all := Tally{}
+	for _, l := range tallies {
+		for name, n := range l {
+			all[name] += n
+		}
+	}
+	return all
+}
+
 // Cases are the names of what each scene counts.
 func Cases() []string {
 	return []string{

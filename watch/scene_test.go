@@ -1,6 +1,7 @@
 package watch
 
 import (
+	"maps"
 	"math/rand"
 	"testing"
 
@@ -104,6 +105,24 @@ func TestScene(t *testing.T) {
 	all.Check(t, fieldChanged, swapDone, swapNot, thingMoved)
 	if all[thingStays] != 0 {
 		t.Errorf("%d things stay", all[thingStays])
+	}
+}
+
+// Tallies together count what each of them does, and stay as they are; what none of them has met is told.
+func TestTallies(t *testing.T) {
+	a, b := Tally{"one": 1, "both": 2}, Tally{"both": 3, "none": 0}
+	all := Together(a, b, nil)
+	if !maps.Equal(all, Tally{"one": 1, "both": 5, "none": 0}) || len(a) != 2 || a["both"] != 2 || b["both"] != 3 {
+		t.Errorf("together %v, of %v and %v", all, a, b)
+	}
+	all.Check(t, "one", "both")
+	var f faults
+	all.Check(&f, "one", "none", "another")
+	if f != 2 {
+		t.Errorf("%d faults", f)
+	}
+	if len(Together()) != 0 {
+		t.Error("no tallies together are not empty")
 	}
 }
 

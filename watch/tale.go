@@ -77,6 +77,27 @@ func (t *Tale) asks(do func(m *mem.Memory) bool) bool {
 	}) == 1
 }
 
+// Shade is the steps of layer 11's Shade.
+func (t *Tale) Shade(at, mark int) {
+	if at == 0 {
+		return
+	}
+	var h uint64
+	for done := false; !done; {
+		w := t.Load(at)
+		if !ToShade(w, mark) {
+			return
+		}
+		h = Shaded(w, mark)
+		done = t.CAS(at, w, h)
+	}
+	for done := false; !done; {
+		list := t.Load(api.AtGrey)
+		t.Store(at, h|list%4096<<12)
+		done = t.CAS(api.AtGrey, list, Behind(list, at))
+	}
+}
+
 // Direct is the steps of layer 12's Direct that does not shade.
 func (t *Tale) Direct(base int, r api.Req, canon, fix bool) api.Out {
 	field := base + 1 + r.Field

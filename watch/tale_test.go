@@ -99,21 +99,55 @@ func TestTaleOfDirect(t *testing.T) {
 						X:    direct.NewDirect(at, r, direct.How{Canon: canon, Fix: fix}),
 						Work: func(t *Tale) api.Out { return t.Direct(at, r, canon, fix) },
 					}
-					walk(t, &b, m, bits&4 != 0 && v == exp)
+					walk(t, &b, m, func() {
+						if bits&4 != 0 && v == exp && len(b.Met) == 1 { // frozen ahead of the first CAS, so that this one fails
+							m.Store(10, Word(m, 10)|4)
+						}
+					})
 				}
 			}
 		}
 	}
 }
 
-// walk does all steps; if others come in between, the word of the field is frozen ahead of the first CAS, so that this one fails.
-func walk(t *testing.T, b *Beside, m *mem.Memory, others bool) {
+// The steps of a Shade that are written here once more are those of layer 11, as a Direct does them that shades what it writes.
+func TestTaleOfShade(t *testing.T) {
+	const at, white, size = 8, 12, 20
+	for bits := range 16 { // two marks, and whether the header, or the list, is another one by then
+		for _, to := range []int{0, white} {
+			m, _ := mem.New(size)
+			mark := bits & 1
+			m.Store(api.AtGrey, Top(16, 1<<40-2))
+			m.Store(white, Tagged(1, 5, bits>>1&1, api.TagMoved, 16)|1<<40)
+			r := api.Req{Op: api.Write, New: api.Val{Kind: api.Ref, N: to}}
+			b := Beside{
+				X: direct.NewDirect(at, r, direct.How{Shade: true, Mark: mark}),
+				Work: func(t *Tale) api.Out {
+					t.Load(at + 1)
+					t.Shade(to, mark)
+					t.Store(at+1, Field(r.New))
+					t.Hit = true
+					return api.Out{}
+				},
+			}
+			walk(t, &b, m, func() {
+				if bits&4 != 0 && len(b.Met) == 2 {
+					m.Store(white, Word(m, white)+1<<9)
+				}
+				if bits&8 != 0 && len(b.Met) == 5 {
+					m.Store(api.AtGrey, Top(0, 1<<40-1))
+				}
+			})
+		}
+	}
+}
+
+// walk does all steps, ahead of each of which others come in between.
+func walk(t *testing.T, b *Beside, m *mem.Memory, others func()) {
 	t.Helper()
 	for done := Tell(b.Work, b.Met).Next == nil; !done; {
 		var wrong string
-		if others && len(b.Met) == 1 {
-			m.Store(10, Word(m, 10)|4)
-		}
+		others()
 		if _, done, wrong = b.Step(m); wrong != "" {
 			t.Fatalf("behind %d: %s", b.Met, wrong)
 		}

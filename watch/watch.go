@@ -26,6 +26,18 @@ type Teller interface {
 // Top is the head of a list as a word.
 func Top(first, version int) uint64 { return uint64(first) + uint64(version)<<12 }
 
+// Behind is the word that takes the place of the head w of a list.
+func Behind(w uint64, first int) uint64 { return Top(first, int((w>>12+1)%(1<<40))) }
+
+// Phase is a phase as a word, OfPhase the phase that a word tells.
+func Phase(q api.Phase) uint64 {
+	return uint64(q.No) + uint64(q.Mode)<<40 + uint64(q.Mark)<<44 + uint64(q.List)<<45
+}
+
+func OfPhase(w uint64) api.Phase {
+	return api.Phase{No: int(w % (1 << 40)), Mode: int(w >> 40 % 16), Mark: int(w >> 44 % 2), List: int(w >> 45 % 2)}
+}
+
 // Free is the header of a free cell as a word.
 func Free(class, link int) uint64 { return uint64(class)<<2 + uint64(link)<<12 }
 
@@ -37,6 +49,11 @@ func Object(class, count, mark int) uint64 {
 // Grey is the header of an object that is grey, as a word.
 func Grey(class, count, mark, link int) uint64 {
 	return Object(class, count, mark) + 1<<8 + uint64(link)<<12
+}
+
+// Shaded is the header of an object whose header was w, behind a Shade's CAS that gives it the mark.
+func Shaded(w uint64, mark int) uint64 {
+	return w%(1<<12)&^(1<<7) | uint64(mark)<<7 | 1<<8
 }
 
 // Moved is the header of an object that was moved to link, as a word.
@@ -54,10 +71,14 @@ func Wide(class, count, link int) uint64 {
 	return api.CellWide + uint64(class)<<2 + uint64(count)<<4 + uint64(link)<<12
 }
 
-// Tag, Link and Count are those of a header, of its word.
+// Mark, Tag, Link and Count are those of a header, of its word.
+func Mark(w uint64) int  { return int(w >> 7 % 2) }
 func Tag(w uint64) int   { return int(w >> 9 % 8) }
 func Link(w uint64) int  { return int(w >> 12 % 4096) }
 func Count(w uint64) int { return int(w >> 4 % 8) }
+
+// ToShade tells whether an object whose header is w is given that mark by a Shade.
+func ToShade(w uint64, mark int) bool { return w%4 == api.CellObject && Mark(w) != mark }
 
 // Home is where the object is whose header at that address is w.
 func Home(w uint64, at int) int {

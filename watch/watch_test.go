@@ -61,6 +61,19 @@ func TestReckonedWords(t *testing.T) {
 	if got, want := Top(5, 1), stamp.Top(api.Top{At: 5, Ver: 1}); got != want || got != 4101 {
 		t.Errorf("Top: %d, want %d", got, want)
 	}
+	for _, w := range []uint64{0, 4101, Top(5, 1<<40-1), 0xfff<<52 | 9} {
+		if got, want := Behind(w, 7), stamp.Next(w, 7); got != want {
+			t.Errorf("Behind of %#x: %#x, want %#x", w, got, want)
+		}
+	}
+	for _, q := range []api.Phase{{}, {No: 3, Mode: 5, Mark: 1}, {No: 1<<40 - 1, Mode: 8, List: 1}, {No: 1, Mode: 15, Mark: 1, List: 1}} {
+		if got, want := Phase(q), stamp.Phase(q); got != want {
+			t.Errorf("Phase of %v: %#x, want %#x", q, got, want)
+		}
+		if got := OfPhase(Phase(q) | 0x7ff<<46); got != q {
+			t.Errorf("OfPhase of %v: %v", q, got)
+		}
+	}
 	if got, want := Free(2, 96), head.Word(api.Head{Class: 2, Link: 96}); got != want {
 		t.Errorf("Free: %d, want %d", got, want)
 	}
@@ -84,8 +97,19 @@ func TestReckonedWords(t *testing.T) {
 		if got, want := Home(w, 9), head.Moved(w, 9); got != want {
 			t.Errorf("Home of %#x: %d, want %d", w, got, want)
 		}
-		if h := head.Of(w); Tag(w) != h.Tag || Link(w) != h.Link || Count(w) != h.Count {
-			t.Errorf("of %#x: Tag %d, Link %d, Count %d", w, Tag(w), Link(w), Count(w))
+		h := head.Of(w)
+		if Mark(w) != h.Mark || Tag(w) != h.Tag || Link(w) != h.Link || Count(w) != h.Count {
+			t.Errorf("of %#x: Mark %d, Tag %d, Link %d, Count %d", w, Mark(w), Tag(w), Link(w), Count(w))
+		}
+		for mark := range 2 {
+			if got := ToShade(w, mark); got != (h.State == api.CellObject && h.Mark != mark) {
+				t.Errorf("ToShade of %#x, %d: %t", w, mark, got)
+			}
+			h.Mark, h.Grey, h.Link = mark, 1, 0
+			if got, want := Shaded(w, mark), head.Word(h); got != want {
+				t.Errorf("Shaded of %#x, %d: %#x, want %#x", w, mark, got, want)
+			}
+			h = head.Of(w)
 		}
 	}
 	for _, v := range []api.Val{{}, {Kind: api.Ref}, {Kind: api.Ref, N: 5}, {Kind: api.Empty}, {Kind: 3, N: 1<<61 - 1}} {
