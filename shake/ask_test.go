@@ -23,10 +23,10 @@ func TestAsk(t *testing.T) {
 				l := lookAtAsk(t, p, m, q)
 				l.asks()
 				for k := range threads {
-					l.looks(k, k, k)
+					l.Looks(k, k, k)
 					l.acknowledged(k)
 					if k < threads-1 {
-						l.looks(k)
+						l.Looks(k)
 					}
 				}
 				l.ends(threads - 1)
@@ -48,11 +48,11 @@ func TestAskOfOneThatIsLate(t *testing.T) {
 					l.acknowledged(k)
 				}
 			}
-			l.looks(upTo(late)...)
-			l.looks(late, late, late, late, late)
+			l.Looks(watch.UpTo(late)...)
+			l.Looks(late, late, late, late, late)
 			l.acknowledged(late)
-			rest := upTo(threads)[late:]
-			l.looks(rest[:len(rest)-1]...)
+			rest := watch.UpTo(threads)[late:]
+			l.Looks(rest[:len(rest)-1]...)
 			l.ends(threads - 1)
 		}
 	}
@@ -77,10 +77,10 @@ func TestAskOfAnyOrder(t *testing.T) {
 		l.asks()
 		at := 0 // which thread it waits for
 		for k, thread := range order {
-			l.looks(at, at)
+			l.Looks(at, at)
 			l.acknowledged(thread)
 			for slices.Contains(order[:k+1], at) && at < threads-1 {
-				l.looks(at)
+				l.Looks(at)
 				at++
 			}
 		}
@@ -98,9 +98,9 @@ func TestAskOfOneThatIsAcknowledged(t *testing.T) {
 			q := api.Phase{No: no, Mode: api.ModeShade, List: 1}
 			p, m := made(t, threads, q)
 			l := lookAtAsk(t, p, m, q)
-			l.acknowledged(upTo(threads)...)
+			l.acknowledged(watch.UpTo(threads)...)
 			l.asks()
-			l.looks(upTo(threads - 1)...)
+			l.Looks(watch.UpTo(threads - 1)...)
 			l.ends(threads - 1)
 		}
 	}
@@ -114,13 +114,13 @@ func TestAskHoldsAllBits(t *testing.T) {
 		l := lookAtAsk(t, p, m, q)
 		l.asks()
 		l.acknowledged(0)
-		l.looks(0)
+		l.Looks(0)
 		for bit := range 64 {
 			l.Stored(api.AtAcks+1, uint64(no)^1<<bit)
-			l.looks(1)
+			l.Looks(1)
 		}
 		l.Stored(api.AtAcks+1, watch.Phase(q))
-		l.looks(1)
+		l.Looks(1)
 		l.acknowledged(1)
 		l.ends(1)
 	}
@@ -134,11 +134,11 @@ func TestAskDoesNotLookBack(t *testing.T) {
 	l.asks()
 	for k := range 2 {
 		l.acknowledged(k)
-		l.looks(k)
+		l.Looks(k)
 		l.Stored(api.AtAcks+k, 4)
 	}
 	l.Stored(api.AtPhase, watch.Phase(before()))
-	l.looks(2)
+	l.Looks(2)
 	l.acknowledged(2)
 	l.ends(2)
 }
@@ -159,7 +159,7 @@ func TestAskOfOtherNumbers(t *testing.T) {
 		l.Step(watch.Store(api.AtPhase), false)
 		if cut.No != n {
 			l.Stored(api.AtAcks, uint64(cut.No))
-			l.looks(0, 0)
+			l.Looks(0, 0)
 		}
 		l.acknowledged(0)
 		l.ends(0)
@@ -179,16 +179,16 @@ func TestAskOfOtherPlans(t *testing.T) {
 	p, m := made(t, api.MaxThreads, before())
 	p.Threads = api.MaxThreads + 6
 	l := lookAtAsk(t, p, m, q)
-	l.acknowledged(upTo(p.Threads)...)
+	l.acknowledged(watch.UpTo(p.Threads)...)
 	l.asks()
-	l.looks(upTo(p.Threads - 1)...)
+	l.Looks(watch.UpTo(p.Threads - 1)...)
 	l.ends(p.Threads - 1)
 
 	p.Threads = math.MaxInt
 	l = lookAtAsk(t, p, m, q)
 	l.asks()
-	l.looks(upTo(api.MaxThreads + 6)...)
-	l.looks(api.MaxThreads+6, api.MaxThreads+6)
+	l.Looks(watch.UpTo(api.MaxThreads + 6)...)
+	l.Looks(api.MaxThreads+6, api.MaxThreads+6)
 }
 
 // R1: of a memory that does not have a thread's word it waits, each look being one access, a trap.

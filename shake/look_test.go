@@ -1,7 +1,6 @@
 package shake
 
 import (
-	"slices"
 	"testing"
 
 	"flit/api"
@@ -81,12 +80,6 @@ func someRoots() []api.Roots {
 	}
 }
 
-// quiet is a machine without hits, of which nothing is told.
-type quiet struct{ watch.Machine }
-
-func (quiet) Hit() bool       { return false }
-func (quiet) Result() api.Out { return api.Out{} }
-
 // told is what a Poll tells.
 type told struct {
 	own   api.Phase
@@ -108,7 +101,7 @@ func checkTells(t *testing.T, x *Poll, want told) {
 
 // polled is a Poll of which it is asked what it tells whenever the look asks for a Result.
 type polled struct {
-	quiet
+	watch.Quiet
 	t    *testing.T
 	x    *Poll
 	want *told
@@ -130,7 +123,7 @@ type look struct {
 func lookAt(t *testing.T, p api.Plan, m *mem.Memory, thread int, given told) look {
 	t.Helper()
 	x := NewPoll(p, thread, given.own, given.alpha, given.r)
-	y := polled{quiet{x}, t, x, &given}
+	y := polled{watch.Quiet{Machine: x}, t, x, &given}
 	return look{watch.LookAt(t, m, y), api.AtAcks + thread, &given}
 }
 
@@ -185,14 +178,6 @@ func (l look) polls() int {
 	return l.M.Count() - count
 }
 
-// checkGrey tells if other objects are grey than these, or in another order.
-func checkGrey(t *testing.T, m *mem.Memory, want ...int) {
-	t.Helper()
-	if got := watch.Listed(watch.Words(m), api.AtGrey); !slices.Equal(got, want) {
-		t.Errorf("grey are %d, want %d", got, want)
-	}
-}
-
 // asked looks at an Ask's steps.
 type asked struct {
 	*watch.Look
@@ -201,22 +186,13 @@ type asked struct {
 
 func lookAtAsk(t *testing.T, p api.Plan, m *mem.Memory, ask api.Phase) asked {
 	t.Helper()
-	return asked{watch.LookAt(t, m, quiet{NewAsk(p, ask)}), ask}
+	return asked{watch.LookAt(t, m, watch.Quiet{Machine: NewAsk(p, ask)}), ask}
 }
 
 // asks is the step 1.
 func (l asked) asks() {
 	l.T.Helper()
-	l.Want[api.AtPhase] = watch.Phase(l.ask)
-	l.Step(watch.Store(api.AtPhase), false)
-}
-
-// looks is a look at each of these threads, behind none of which it is done.
-func (l asked) looks(threads ...int) {
-	l.T.Helper()
-	for _, k := range threads {
-		l.Step(watch.Load(api.AtAcks+k), false)
-	}
+	l.Asks(l.ask)
 }
 
 // ends is the last look, at that thread.
@@ -226,17 +202,4 @@ func (l asked) ends(thread int) {
 }
 
 // acknowledged lets each of these threads have acknowledged the phase.
-func (l asked) acknowledged(threads ...int) {
-	for _, k := range threads {
-		l.Stored(api.AtAcks+k, uint64(l.ask.No))
-	}
-}
-
-// upTo are the numbers below n.
-func upTo(n int) []int {
-	l := make([]int, n)
-	for k := range l {
-		l[k] = k
-	}
-	return l
-}
+func (l asked) acknowledged(threads ...int) { l.Acknowledged(l.ask.No, threads...) }

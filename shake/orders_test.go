@@ -42,11 +42,7 @@ func polling(thread int, given told, now *told) watch.Work {
 // asking is what it says of an Ask.
 func asking(threads int, q api.Phase) watch.Work {
 	return func(t *watch.Tale) api.Out {
-		t.Store(api.AtPhase, watch.Phase(q))
-		for k := range threads {
-			for t.Load(api.AtAcks+k) != uint64(q.No) {
-			}
-		}
+		t.Ask(threads, q)
 		return api.Out{}
 	}
 }
@@ -66,7 +62,7 @@ func beginPoll(p api.Plan, thread int, given told) poll {
 // step does one: which access that was, whether it is done now, and what is wrong with it, or nothing.
 func (y *poll) step(m *mem.Memory) (did api.Access, done bool, wrong string) {
 	var now told
-	b := watch.Beside{X: quiet{y.x}, Work: polling(y.thread, y.given, &now), Met: y.met}
+	b := watch.Beside{X: watch.Quiet{Machine: y.x}, Work: polling(y.thread, y.given, &now), Met: y.met}
 	did, done, wrong = b.Step(m)
 	y.met = b.Met
 	if got := tells(y.x); wrong == "" && got != now {
@@ -89,7 +85,7 @@ func beginAsk(p api.Plan, q api.Phase) ask {
 
 // step is likewise one. A look that found nothing is as if it had not been.
 func (y *ask) step(m *mem.Memory) (did api.Access, done bool, wrong string) {
-	b := watch.Beside{X: quiet{y.x}, Work: asking(y.threads, y.q), Met: y.met}
+	b := watch.Beside{X: watch.Quiet{Machine: y.x}, Work: asking(y.threads, y.q), Met: y.met}
 	did, done, wrong = b.Step(m)
 	if did.Op == 2 || len(b.Met) > 0 && b.Met[len(b.Met)-1] == uint64(y.q.No) {
 		y.met = b.Met

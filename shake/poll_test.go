@@ -11,7 +11,7 @@ import (
 )
 
 // modes are all that a phase's word may have; those from 9 on are none.
-func modes() []int { return upTo(16) }
+func modes() []int { return watch.UpTo(16) }
 
 // phases are those of a mode, with each Mark and List, and some Nos.
 func phases(mode int) []api.Phase {
@@ -130,7 +130,7 @@ func TestPollOfRoots(t *testing.T) {
 			if n := l.polls(); n != x.steps {
 				t.Errorf("%v, Mark %d: %d steps, want %d", x.roots, x.mark, n, x.steps)
 			}
-			checkGrey(t, m, x.grey...)
+			watch.CheckGrey(t, m, x.grey...)
 		}
 	}
 }
@@ -178,7 +178,7 @@ func TestPollOfRootsThatChange(t *testing.T) {
 	l.Fails(old)
 	l.Step(watch.Load(old), false)
 	l.acknowledges(q)
-	checkGrey(t, m, white, listed)
+	watch.CheckGrey(t, m, white, listed)
 }
 
 // P16.1: what was found at step 1 counts to the end, whatever is asked for by then.
@@ -250,7 +250,7 @@ func TestPollOfMovedRoots(t *testing.T) {
 			if n := l.polls(); n != x.steps || l.now.r != x.want {
 				t.Errorf("%v: %v behind %d steps, want %v, %d", x.roots, l.now.r, n, x.want, x.steps)
 			}
-			checkGrey(t, m, listed)
+			watch.CheckGrey(t, m, listed)
 		}
 	}
 }
@@ -294,7 +294,7 @@ func TestPollOfHeadersThatChange(t *testing.T) {
 // P16.1: the roots are the first N, whatever stands behind them, which stays; there are as many as L has at most, and none below 0.
 func TestPollOfRootsThatMayNotBe(t *testing.T) {
 	all := [api.MaxRoots]int{old, white, 0, elder, now, old, twice, gone}
-	for _, n := range append(edges.Numbers(), upTo(10)...) {
+	for _, n := range append(edges.Numbers(), watch.UpTo(10)...) {
 		for _, mode := range modes() {
 			q := api.Phase{No: 1, Mode: mode, Mark: 1}
 			p, m := made(t, 2, q)
@@ -340,7 +340,7 @@ func TestPollOfRootsElsewhere(t *testing.T) {
 
 // R1: a thread that there is not acknowledges by the word that would be its own, if there is one; each step is one access.
 func TestPollOfOtherThreads(t *testing.T) {
-	for _, n := range append(edges.Numbers(), upTo(80)...) {
+	for _, n := range append(edges.Numbers(), watch.UpTo(80)...) {
 		q := api.Phase{No: 1, Mode: api.ModeShade}
 		p, m := made(t, 2, q)
 		want := watch.Words(m)

@@ -111,3 +111,11 @@ func CheckListed(t Teller, m *mem.Memory, set, class int, want ...int) {
 		t.Errorf("the list of set %d, class %d has %d, want %d", set, class, got, want)
 	}
 }
+
+// CheckGrey tells if other objects are grey than these, or in another order.
+func CheckGrey(t Teller, m *mem.Memory, want ...int) {
+	t.Helper()
+	if got := Listed(Words(m), api.AtGrey); !slices.Equal(got, want) {
+		t.Errorf("grey are %d, want %d", got, want)
+	}
+}

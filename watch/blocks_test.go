@@ -101,3 +101,22 @@ func TestRowsOfBlocksAndCells(t *testing.T) {
 		t.Errorf("blocks to where nothing is: %d", l)
 	}
 }
+
+// What is grey is told as it stands.
+func TestCheckGrey(t *testing.T) {
+	m := Full(t, 20)
+	m.Store(api.AtGrey, Top(8, 5))
+	m.Store(8, Grey(0, 1, 1, 12))
+	m.Store(12, Grey(0, 1, 1, 0))
+	var f faults
+	CheckGrey(&f, m, 8, 12)
+	if f != 0 {
+		t.Errorf("%d faults", f)
+	}
+	CheckGrey(&f, m, 12, 8)
+	CheckGrey(&f, m, 8)
+	CheckGrey(&f, m)
+	if f != 3 {
+		t.Errorf("%d faults", f)
+	}
+}

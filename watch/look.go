@@ -14,6 +14,12 @@ type Accessor interface {
 	Result() api.Out
 }
 
+// Quiet is a machine without hits, of which nothing is told.
+type Quiet struct{ Machine }
+
+func (Quiet) Hit() bool       { return false }
+func (Quiet) Result() api.Out { return api.Out{} }
+
 // Look is an Accessor of which each step is looked at: which access it does, whether it is a hit, what is told, and what all words are behind it.
 type Look struct {
 	T    Teller
@@ -160,6 +166,43 @@ func (l *Look) Listed(at int) {
 	l.Step(Store(at), false)
 	l.Want[api.AtGrey] = Behind(list, at)
 	l.Step(CAS(api.AtGrey, true), false)
+}
+
+// Taken is the steps of layer 11's Next of the object that is first, none of which is the last one: which object it is.
+func (l *Look) Taken() int {
+	l.T.Helper()
+	list := l.Want[api.AtGrey]
+	at := int(list % 4096)
+	l.Step(Load(api.AtGrey), false)
+	l.Step(Load(at), false)
+	w := l.Want[at] % (1 << 24)
+	l.Want[api.AtGrey] = Behind(list, Link(w))
+	l.Step(CAS(api.AtGrey, true), false)
+	l.Want[at] = w % (1 << 12) &^ (1 << 8)
+	l.Step(Store(at), false)
+	return at
+}
+
+// Asks is the first step of layer 16's Ask, if that is not the last one.
+func (l *Look) Asks(q api.Phase) {
+	l.T.Helper()
+	l.Want[api.AtPhase] = Phase(q)
+	l.Step(Store(api.AtPhase), false)
+}
+
+// Looks is a look at each of these threads, none of which is the last step.
+func (l *Look) Looks(threads ...int) {
+	l.T.Helper()
+	for _, k := range threads {
+		l.Step(Load(api.AtAcks+k), false)
+	}
+}
+
+// Acknowledged lets each of these threads have acknowledged a phase of that No.
+func (l *Look) Acknowledged(no int, threads ...int) {
+	for _, k := range threads {
+		l.Stored(api.AtAcks+k, uint64(no))
+	}
 }
 
 // Home is where the object is that stands, or stood, at that address.

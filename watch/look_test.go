@@ -5,7 +5,10 @@ import (
 
 	"flit/api"
 	"flit/direct"
+	"flit/grey"
 	"flit/mem"
+	"flit/plan"
+	"flit/shake"
 )
 
 // telling is a row that tells, behind each of its parts, what is written down for it; ahead of the first one, the first of these.
@@ -138,6 +141,88 @@ func TestLookAtShade(t *testing.T) {
 		m, _ := mem.New(size)
 		m.Store(old, Object(0, 1, 0))
 		shade(begun(&f, m, 1))
+		if f == 0 {
+			t.Errorf("nothing is found of %s", name)
+		}
+	}
+}
+
+// A machine that is quiet steps, and tells nothing.
+func TestQuiet(t *testing.T) {
+	m := made(t)
+	x := Quiet{swapping()}
+	l := LookAt(t, m, x)
+	l.Step(Load(2), false)
+	l.Want[1] = 7
+	l.Last(CAS(1, true), false, api.Out{})
+}
+
+// then is two machines, one behind the other.
+type then struct{ first, second Machine }
+
+func (x *then) Step(m *mem.Memory) bool {
+	if x.first == nil {
+		return x.second.Step(m)
+	}
+	if x.first.Step(m) {
+		x.first = nil
+	}
+	return false
+}
+
+// The steps of a Next that a look asks for are those of layer 11.
+func TestLookAtNext(t *testing.T) {
+	const first, second, size = 8, 12, 20
+	begun := func(t Teller, version int) *Look {
+		m, _ := mem.New(size)
+		m.Store(api.AtGrey, Top(first, version))
+		m.Store(first, Grey(1, 5, 1, second)|3<<40|api.TagMoved<<9)
+		m.Store(second, Grey(0, 2, 0, 0))
+		return LookAt(t, m, Quiet{&then{grey.NewNext(), grey.NewNext()}})
+	}
+	for _, version := range []int{0, 77, 1<<40 - 1} {
+		l := begun(t, version)
+		if at := l.Taken(); at != first {
+			t.Errorf("%d is taken", at)
+		}
+		l.Step(Load(api.AtGrey), false)
+	}
+	for name, look := range map[string]func(l *Look){
+		"a Next of another list": func(l *Look) { l.Want[api.AtGrey]++; l.Taken() },
+		"one of another object":  func(l *Look) { l.Want[first] -= 1 << 12; l.Taken() },
+		"one that is done":       func(l *Look) { l.Taken(); l.Taken() },
+	} {
+		var f faults
+		look(begun(&f, 3))
+		if f == 0 {
+			t.Errorf("nothing is found of %s", name)
+		}
+	}
+}
+
+// The steps of an Ask that a look asks for are those of layer 16.
+func TestLookAtAsk(t *testing.T) {
+	q := api.Phase{No: 1<<40 - 1, Mode: api.ModeTerm, Mark: 1}
+	begun := func(t Teller) *Look {
+		p, _ := plan.New(3, 1)
+		m, _ := mem.New(p.Size)
+		return LookAt(t, m, Quiet{shake.NewAsk(p, q)})
+	}
+	l := begun(t)
+	l.Acknowledged(q.No, 1)
+	l.Asks(q)
+	l.Looks(0, 0)
+	l.Acknowledged(q.No, 0, 2)
+	l.Looks(0, 1)
+	l.Last(Load(api.AtAcks+2), false, api.Out{})
+	for name, look := range map[string]func(l *Look){
+		"an Ask of another phase":        func(l *Look) { l.Asks(api.Phase{No: q.No}) },
+		"a look at another thread":       func(l *Look) { l.Asks(q); l.Looks(1) },
+		"one that nobody has answered":   func(l *Look) { l.Asks(q); l.Looks(0, 1) },
+		"one that has another No's word": func(l *Look) { l.Asks(q); l.Acknowledged(5, 0); l.Looks(0, 1) },
+	} {
+		var f faults
+		look(begun(&f))
 		if f == 0 {
 			t.Errorf("nothing is found of %s", name)
 		}

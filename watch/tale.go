@@ -47,6 +47,9 @@ func (t *Tale) access(do func(m *mem.Memory) uint64) uint64 {
 	return t.met[t.told-1]
 }
 
+// Answered is how many of the accesses so far have been answered.
+func (t *Tale) Answered() int { return t.told }
+
 // Load is an access of a work, as Store, CAS and CAS2 are.
 func (t *Tale) Load(a int) uint64 {
 	return t.access(func(m *mem.Memory) uint64 { return m.Load(a) })
@@ -95,6 +98,36 @@ func (t *Tale) Shade(at, mark int) {
 		list := t.Load(api.AtGrey)
 		t.Store(at, h|list%4096<<12)
 		done = t.CAS(api.AtGrey, list, Behind(list, at))
+	}
+}
+
+// TakeGrey is the steps of layer 11's Next, and what that tells.
+func (t *Tale) TakeGrey() (at, count int) {
+	for {
+		list := t.Load(api.AtGrey)
+		at = int(list % 4096)
+		if at == 0 {
+			return 0, 0
+		}
+		w := t.Load(at)
+		if t.CAS(api.AtGrey, list, Behind(list, Link(w))) {
+			t.Store(at, w%(1<<12)&^(1<<8))
+			return at, Count(w)
+		}
+	}
+}
+
+// Ask is the steps of layer 16's Ask.
+func (t *Tale) Ask(threads int, q api.Phase) {
+	t.Store(api.AtPhase, Phase(q))
+	t.Wait(threads, q.No)
+}
+
+// Wait is those behind the first one.
+func (t *Tale) Wait(threads, no int) {
+	for k := range threads {
+		for t.Load(api.AtAcks+k) != uint64(no) {
+		}
 	}
 }
 

@@ -6,7 +6,10 @@ import (
 
 	"flit/api"
 	"flit/direct"
+	"flit/grey"
 	"flit/mem"
+	"flit/plan"
+	"flit/shake"
 )
 
 // adding lets the word 1 be the sum of the words 2 and 3, if it is nought by then.
@@ -40,6 +43,11 @@ func TestTale(t *testing.T) {
 		}
 	}
 	CheckWord(t, m, 4, 13)
+	for n := range 5 {
+		if x := Tell(adding, met[:n]); x.Answered() != n {
+			t.Errorf("%d of %d are answered", x.Answered(), n)
+		}
+	}
 	if x := Tell(adding, met); x.Next != nil || x.Hit || x.Out != (api.Out{}) {
 		t.Errorf("at its end: %+v", x)
 	}
@@ -138,6 +146,78 @@ func TestTaleOfShade(t *testing.T) {
 					m.Store(api.AtGrey, Top(0, 1<<40-1))
 				}
 			})
+		}
+	}
+}
+
+// taking is a Next that tells the place and the count of what it has taken as a value.
+type taking struct {
+	Quiet
+	x *grey.Next
+}
+
+func (y taking) Result() api.Out {
+	at, count := y.x.Result()
+	return api.Out{V: api.Val{Kind: count, N: at}}
+}
+
+// The steps of a Next that are written here once more are those of layer 11.
+func TestTaleOfNext(t *testing.T) {
+	const first, second, size = 8, 12, 20
+	for bits := range 8 { // whether there is one, and whether its header, or the list, is another one by then
+		m, _ := mem.New(size)
+		if bits&1 != 0 {
+			m.Store(api.AtGrey, Top(first, 1<<40-2))
+		}
+		m.Store(first, Grey(1, 5, 1, second)|3<<40)
+		m.Store(second, Grey(0, 2, 1, 0))
+		x := grey.NewNext()
+		b := Beside{
+			X: taking{Quiet{x}, x},
+			Work: func(t *Tale) api.Out {
+				at, count := t.TakeGrey()
+				return api.Out{V: api.Val{Kind: count, N: at}}
+			},
+		}
+		walk(t, &b, m, func() {
+			if bits&2 != 0 && len(b.Met) == 2 {
+				m.Store(first, Grey(1, 4, 0, 0))
+			}
+			if bits&4 != 0 && len(b.Met) == 2 {
+				m.Store(api.AtGrey, Top(second, 1<<40-1))
+			}
+		})
+	}
+}
+
+// The steps of an Ask that are written here once more are those of layer 16.
+func TestTaleOfAsk(t *testing.T) {
+	for threads := range 5 {
+		for late := range 5 { // a thread that has not acknowledged for a while; the 4 is none
+			p, e := plan.New(4, 1)
+			if e != api.OK {
+				t.Fatalf("plan.New: error %d", e)
+			}
+			p.Threads = threads
+			m, _ := mem.New(p.Size)
+			q := api.Phase{No: 1<<40 - 1, Mode: api.ModeTerm, Mark: 1, List: late % 2}
+			b := Beside{
+				X: Quiet{shake.NewAsk(p, q)},
+				Work: func(t *Tale) api.Out {
+					t.Ask(threads, q)
+					return api.Out{}
+				},
+			}
+			walk(t, &b, m, func() {
+				for k := range 4 {
+					if k != late || len(b.Met) > 6 {
+						m.Store(api.AtAcks+k, 1<<40-1)
+					}
+				}
+			})
+			if looks := len(b.Met) - 1; looks < threads || late < threads != (looks > threads) {
+				t.Errorf("%d looks at %d threads", looks, threads)
+			}
 		}
 	}
 }

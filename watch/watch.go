@@ -127,6 +127,15 @@ func Words(m *mem.Memory) []uint64 {
 // Word is one of m, asked likewise.
 func Word(m *mem.Memory, a int) uint64 { return m.Clone().Load(a) }
 
+// UpTo are the numbers below n.
+func UpTo(n int) []int {
+	l := make([]int, n)
+	for k := range l {
+		l[k] = k
+	}
+	return l
+}
+
 // CheckWord tells if the word a is not the one that it must be.
 func CheckWord(t Teller, m *mem.Memory, a int, want uint64) {
 	t.Helper()

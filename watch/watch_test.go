@@ -1,6 +1,7 @@
 package watch
 
 import (
+	"slices"
 	"testing"
 
 	"flit/api"
@@ -207,5 +208,12 @@ func TestWords(t *testing.T) {
 	CheckWords(&f, m, l)
 	if f != 3 {
 		t.Errorf("%d faults", f)
+	}
+}
+
+// The numbers below n rise from nought on.
+func TestUpTo(t *testing.T) {
+	if l := UpTo(3); !slices.Equal(l, []int{0, 1, 2}) || len(UpTo(0)) != 0 {
+		t.Errorf("%d", l)
 	}
 }
